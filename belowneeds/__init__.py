@@ -1,0 +1,1 @@
+"""Belowneeds: sheets filled down without end, whose cells may need the rows below."""

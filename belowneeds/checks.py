@@ -1,0 +1,42 @@
+"""What integers, names and lists are [2], and the limits of formulas [14]."""
+
+MAX_NODES = 40
+MAX_DEPTH = 8
+GREATEST_NUMBER = 8
+LONGEST_NAME = 8
+RESERVED = ("if", "then", "else", "in", "here", "up", "down", "least", "most")
+WHERES = ("here", "up", "down")
+
+
+def is_integer(value):
+    """Whether this is an integer: a bool is none."""
+    return isinstance(value, int) and not isinstance(value, bool)
+
+
+def is_between(value, low, high):
+    """Whether this is an integer from low to high."""
+    return is_integer(value) and low <= value <= high
+
+
+def is_list(value):
+    """Whether this is accepted where a list is asked for."""
+    return isinstance(value, (list, tuple))
+
+
+def is_name(value):
+    """Whether this is a name."""
+    if not isinstance(value, str) or not 1 <= len(value) <= LONGEST_NAME:
+        return False
+    return value not in RESERVED and all(["a" <= letter <= "z" for letter in value])
+
+
+def is_where(value):
+    """Whether this is one of the words for where a reference leads."""
+    return isinstance(value, str) and value in WHERES
+
+
+def is_chosen(value):
+    """Whether these can be the listed numbers of a choice: ascending and different."""
+    if not is_list(value) or not all([is_between(number, 0, GREATEST_NUMBER) for number in value]):
+        return False
+    return all([low < high for low, high in zip(value, value[1:])])

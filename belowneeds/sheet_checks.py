@@ -1,0 +1,101 @@
+"""What is wrong with the parts of a sheet [21] [22], told by the errors of its constructor."""
+
+from belowneeds.checks import is_between, is_integer, is_list, is_name
+from belowneeds.errors import InvalidColumns, InvalidKinds, InvalidNumber, InvalidPlan, InvalidTop
+from belowneeds.formulas import Formula
+
+LEAST_MODULUS = 2
+GREATEST_MODULUS = 9
+MAX_PLACES = 3
+
+
+def check_modulus(modulus):
+    """Refuses what is no modulus."""
+    if not is_between(modulus, LEAST_MODULUS, GREATEST_MODULUS):
+        raise InvalidNumber(modulus)
+
+
+def check_columns(columns, many):
+    """Refuses what is no list of at most so many different names."""
+    if not is_list(columns) or not 1 <= len(columns) <= many:
+        raise InvalidColumns(None)
+    for position, column in enumerate(columns):
+        if not is_name(column) or column in columns[:position]:
+            raise InvalidColumns(position)
+
+
+def has_columns(value, columns):
+    """Whether this is a dict with exactly the columns as keys."""
+    if not isinstance(value, dict) or len(value) != len(columns):
+        return False
+    return all([column in value for column in columns])
+
+
+def first_without_value(row, columns, modulus):
+    """The first column that has none of the values of a sheet in this dict, or None."""
+    for column in columns:
+        if not is_between(row[column], 0, modulus - 1):
+            return column
+    return None
+
+
+def check_top(top, columns, modulus):
+    """Refuses what is no top of these columns."""
+    if not has_columns(top, columns):
+        raise InvalidTop(None)
+    wrong = first_without_value(top, columns, modulus)
+    if wrong is not None:
+        raise InvalidTop(wrong)
+
+
+def is_formula_of(value, columns, modulus):
+    """Whether this is a formula that fits."""
+    return isinstance(value, Formula) and value.fits(modulus, columns)
+
+
+def check_kinds(kinds, columns, modulus, many):
+    """Refuses what are not at most so many kinds with fitting formulas."""
+    if not isinstance(kinds, dict) or not 1 <= len(kinds) <= many:
+        raise InvalidKinds(None, None)
+    if not all([is_name(kind) for kind in kinds]):
+        raise InvalidKinds(None, None)
+    for kind in sorted(kinds):
+        if not has_columns(kinds[kind], columns):
+            raise InvalidKinds(kind, None)
+        for column in columns:
+            if not is_formula_of(kinds[kind][column], columns, modulus):
+                raise InvalidKinds(kind, column)
+
+
+def check_plan(plan, kinds):
+    """Refuses what is no plan for these kinds."""
+    if not is_list(plan) or not 1 <= len(plan) <= MAX_PLACES:
+        raise InvalidPlan(None)
+    for place, leads in enumerate(plan):
+        if not _are_leads(leads, kinds, len(plan)):
+            raise InvalidPlan(place)
+    reached = _reached(plan)
+    if False in reached:
+        raise InvalidPlan(reached.index(False))
+
+
+def is_place(value, many):
+    """Whether this is one of so many places."""
+    return is_integer(value) and 0 <= value < many
+
+
+def _are_leads(leads, kinds, many):
+    if not isinstance(leads, dict) or not leads:
+        return False
+    return all([kind in kinds and is_place(leads[kind], many) for kind in leads])
+
+
+def _reached(plan):
+    """For each place, whether it can be reached from place 0."""
+    reached = [place == 0 for place in range(len(plan))]
+    # Once for each place, as a way from place 0 visits no place twice.
+    for _ in plan:
+        for place, leads in enumerate(plan):
+            for kind in leads:
+                reached[leads[kind]] = reached[leads[kind]] or reached[place]
+    return reached

@@ -1,0 +1,211 @@
+"""Points [2], [21], [22] and [24]: sheets, plans and words, as far as they are written."""
+
+import unittest
+
+from belowneeds.errors import (
+    InvalidColumns, InvalidKinds, InvalidNumber, InvalidPlan, InvalidTop, InvalidWhere, InvalidWord, UnknownColumn,
+    UnknownKind, UnknownPlace,
+)
+from belowneeds.formulas import Choice, Down, Here, Number, Plus, Up
+from belowneeds.sheets import Sheet
+from examples import END, ITEM, ODD_VALUES, PLAN, blocks, caught, free_blocks, parts_of
+
+ONE = {"n": Number(1)}
+
+
+def small(modulus=2, columns=("n",), top=None, kinds=None, plan=None):
+    return Sheet(modulus, columns, {"n": 0} if top is None else top, {"a": ONE} if kinds is None else kinds, plan)
+
+
+class SheetTest(unittest.TestCase):
+    def check(self, error, kind, /, **attributes):
+        self.assertIs(type(error), kind)
+        self.assertEqual(parts_of(error), attributes)
+
+
+class MadeTest(SheetTest):
+    def test_parts(self):
+        sheet = blocks()
+        self.assertEqual([sheet.modulus, sheet.columns, sheet.places], [2, ("n", "u"), 3])
+        self.assertEqual([sheet.kinds(), sheet.top(), sheet.plan()], [["end", "item"], {"n": 0, "u": 0}, PLAN])
+        self.assertEqual([sheet.formula("end", "n"), sheet.formula("item", column="n")], [Number(0), Down("n") + 1])
+        self.assertEqual((Sheet.MAX_COLUMNS, Sheet.MAX_KINDS, sheet.MAX_KINDS), (6, 4, 4))
+
+    def test_by_name_and_as_tuples(self):
+        kinds = {"item": ITEM, "end": END}
+        named = Sheet(plan=tuple(PLAN), kinds=kinds, top={"u": 0, "n": 0}, columns=("n", "u"), modulus=2)
+        self.assertEqual(named, blocks())
+
+    def test_orders_of_keys_have_no_effect(self):
+        kinds = {"item": dict(reversed(ITEM.items())), "end": dict(reversed(END.items()))}
+        plan = [dict(reversed(leads.items())) for leads in PLAN]
+        sheet = Sheet(2, ["n", "u"], {"u": 0, "n": 0}, kinds, plan)
+        self.assertEqual(sheet, blocks())
+        self.assertEqual([list(sheet.top()), [list(leads) for leads in sheet.plan()], sheet.allowed(0)],
+                         [["n", "u"], [["end", "item"], ["end", "item"], ["end"]], ["end", "item"]])
+
+    def test_what_is_passed_is_copied(self):
+        columns, top, row, plan = ["n"], {"n": 0}, {"n": Number(1)}, [{"a": 0}]
+        kinds = {"a": row}
+        sheet = Sheet(2, columns, top, kinds, plan)
+        columns.append("z")
+        top["n"], row["n"], kinds["b"], plan[0]["b"] = 1, Number(0), row, 0
+        plan.append({})
+        self.assertEqual(sheet, small())
+
+    def test_what_is_returned_is_new(self):
+        sheet = blocks()
+        sheet.kinds().clear()
+        sheet.top().clear()
+        sheet.plan()[0].clear()
+        sheet.plan().clear()
+        sheet.allowed(0).clear()
+        self.assertEqual(sheet, blocks())
+
+    def test_the_free_plan(self):
+        sheet = free_blocks()
+        self.assertEqual([sheet.places, sheet.plan()], [1, [{"end": 0, "item": 0}]])
+        parts = (2, ["n", "u"], {"n": 0, "u": 0}, {"end": END, "item": ITEM})
+        self.assertEqual(sheet, Sheet(*parts))
+        self.assertEqual(sheet, Sheet(*parts, [{"end": 0, "item": 0}]))
+        self.check(caught(Sheet.free, 1, ["n"], {"n": 0}), InvalidNumber, value=1)
+        self.check(caught(Sheet.free, 2, ["n"], {"n": 0}), InvalidKinds, kind=None, column=None)
+
+    def test_equality(self):
+        sheet = small()
+        others = (small(3), small(top={"n": 1}), small(kinds={"b": ONE}), small(kinds={"a": {"n": Number(0)}}),
+                  small(plan=[{"a": 1}, {"a": 0}]), small(kinds={"a": ONE, "b": ONE}), blocks())
+        self.assertEqual(sheet, small(plan=[{"a": 0}]))
+        for other in (*others, None, 2, "sheet", []):
+            self.assertFalse(sheet == other)
+            self.assertTrue(sheet != other)
+
+
+class ErrorsTest(SheetTest):
+    def test_modulus(self):
+        for value in (*ODD_VALUES, 0, 1, 10, -2):
+            self.check(caught(small, value), InvalidNumber, value=value)
+        self.assertEqual([small(modulus).modulus for modulus in range(2, 10)], list(range(2, 10)))
+
+    def test_columns(self):
+        odd = [value for value in ODD_VALUES if value not in ([1], (1, 2))]
+        for value in (*odd, "n", {"n": 0}, {"n"}, list("abcdefg")):
+            self.check(caught(Sheet, 2, value, {}, {}), InvalidColumns, position=None)
+        for value, position in ((["n", 1], 1), ([1], 0), (["a", "b", "a", "if"], 2), (["a", "if", "a"], 1),
+                                (["a", ["b"]], 1), ([None], 0), (["abcdefghi"], 0)):
+            self.check(caught(Sheet, 2, value, {}, {}), InvalidColumns, position=position)
+        six = dict.fromkeys("abcdef", 0)
+        row = dict.fromkeys("abcdef", Number(1))
+        self.assertEqual(Sheet(2, list("abcdef"), six, {"a": row}).columns, tuple("abcdef"))
+
+    def test_top(self):
+        for value in (*ODD_VALUES, {"n": 0, "u": 0}, {"u": 0}, ["n"], "n"):
+            if value is not None:
+                self.check(caught(small, top=value), InvalidTop, column=None)
+        self.check(caught(Sheet, 2, ["n"], None, {"a": ONE}), InvalidTop, column=None)
+        for value in (-1, 2, True, False, None, "0", Number(0)):
+            self.check(caught(small, top={"n": value}), InvalidTop, column="n")
+        self.check(caught(Sheet, 2, ["u", "n"], {"n": 2, "u": 2}, {}), InvalidTop, column="u")
+        self.assertEqual(small(top={"n": 1}).top(), {"n": 1})
+
+    def test_kinds(self):
+        five = dict.fromkeys("abcde", ONE)
+        for value in (*[value for value in ODD_VALUES if value not in (None, {"a": 1})], five, {"if": ONE},
+                      {"a": ONE, 1: ONE}, {"a": None, "A": ONE}, ["a"]):
+            self.check(caught(small, kinds=value), InvalidKinds, kind=None, column=None)
+        for value in (None, [], {}, {"n": Number(1), "u": Number(1)}, {"u": Number(1)}, Number(1), ["n"], "n"):
+            self.check(caught(small, kinds={"b": ONE, "a": value}), InvalidKinds, kind="a", column=None)
+        for value in (None, 1, "1", Number(2), Up("z"), Plus(Number(0), Number(2)),
+                      Choice(Number(0), (2,), Number(0), Number(0))):
+            self.check(caught(small, kinds={"b": {}, "a": {"n": value}}), InvalidKinds, kind="a", column="n")
+        kinds = {"b": {}, "a": {"n": Number(2), "u": 0}}
+        self.check(caught(Sheet, 2, ["u", "n"], {"n": 0, "u": 0}, kinds), InvalidKinds, kind="a", column="u")
+        self.assertEqual(small(kinds=dict.fromkeys("dcba", ONE)).kinds(), list("abcd"))
+
+    def test_plan(self):
+        for value in (*[value for value in ODD_VALUES if value not in (None, [1], (1, 2))], {"a": 0}, "a", 0,
+                      [{"a": 0}] * 4):
+            self.check(caught(small, plan=value), InvalidPlan, place=None)
+        for leads in (None, {}, [], {"a": 2}, {"a": -1}, {"a": True}, {"a": None}, {"b": 1}, {"a": 0, 1: 0}, "a",
+                      {"a": 0, "b": 0}, {True: 0}):
+            self.check(caught(small, plan=[{"a": 1}, leads]), InvalidPlan, place=1)
+        self.check(caught(small, plan=[{"a": False}]), InvalidPlan, place=0)
+        self.check(caught(small, plan=[{"a": 2}, None, {"a": 0}]), InvalidPlan, place=1)
+        self.check(caught(small, plan=[{"a": 0}, {"a": 0}, None]), InvalidPlan, place=2)
+
+    def test_places_that_cannot_be_reached(self):
+        self.check(caught(small, plan=[{"a": 0}, {"a": 0}]), InvalidPlan, place=1)
+        self.check(caught(small, plan=[{"a": 1}, {"a": 1}, {"a": 0}]), InvalidPlan, place=2)
+        self.check(caught(small, plan=[{"a": 0}, {"a": 2}, {"a": 1}]), InvalidPlan, place=1)
+        self.assertEqual(small(plan=[{"a": 2}, {"a": 0}, {"a": 1}]).places, 3)
+        self.assertEqual(small(plan=[{"a": 2}, {"a": 1}, {"a": 1}]).places, 3)
+
+    def test_the_first_wrong_part_is_told(self):
+        self.check(caught(Sheet, 1, [], {"n": 2}, {}, []), InvalidNumber, value=1)
+        self.check(caught(Sheet, 2, [], {"n": 2}, {}, []), InvalidColumns, position=None)
+        self.check(caught(Sheet, 2, ["n"], {"n": 2}, {}, []), InvalidTop, column="n")
+        self.check(caught(Sheet, 2, ["n"], {"n": 1}, {}, []), InvalidKinds, kind=None, column=None)
+        self.check(caught(Sheet, 2, ["n"], {"n": 1}, {"a": ONE}, []), InvalidPlan, place=None)
+
+
+class QueriesTest(SheetTest):
+    def test_formula(self):
+        sheet = blocks()
+        for value in (*ODD_VALUES, "n", "free"):
+            self.check(caught(sheet.formula, value, "z"), UnknownKind, value=value)
+        for value in (*ODD_VALUES, "item", "z"):
+            self.check(caught(sheet.formula, "item", value), UnknownColumn, value=value)
+
+    def test_reads(self):
+        sheet = blocks()
+        self.assertEqual([sheet.reads("up"), sheet.reads("down"), sheet.reads(where="here")],
+                         [("u",), ("n",), ("n",)])
+        for value in (*ODD_VALUES, "left"):
+            self.check(caught(sheet.reads, value), InvalidWhere, value=value)
+
+    def test_reads_in_the_sequence_of_the_columns_and_though_nothing_follows(self):
+        never = Choice(Number(0), (0,), Number(1), Plus(Up("b"), Here("c")))
+        row = {"c": Number(0), "b": Up("c"), "a": Plus(Up("a"), Down("a"))}
+        hidden = {"c": never, "b": Number(0), "a": Number(0)}
+        sheet = Sheet(2, ["c", "b", "a"], dict.fromkeys("abc", 0), {"x": row, "y": hidden}, [{"x": 0}])
+        self.assertEqual([sheet.reads("up"), sheet.reads("here"), sheet.reads("down")],
+                         [("c", "b", "a"), ("c",), ("a",)])
+
+    def test_allowed(self):
+        sheet = blocks()
+        self.assertEqual([sheet.allowed(0), sheet.allowed(1), sheet.allowed(place=2)],
+                         [["end", "item"], ["end", "item"], ["end"]])
+        for value in (*ODD_VALUES, -1, 3):
+            self.check(caught(sheet.allowed, value), UnknownPlace, value=value)
+
+    def test_place_behind(self):
+        sheet = blocks()
+        self.assertEqual([sheet.place_behind([]), sheet.place_behind(["item", "item"]), sheet.place_behind(("item",))],
+                         [0, 2, 1])
+        self.assertEqual([sheet.place_behind([], place=2), sheet.place_behind(word=["end"], place=2)], [2, 0])
+        for value in (None, "item", {"item": 0}, 1, True, {"item"}):
+            self.check(caught(sheet.place_behind, value), InvalidWord, position=None)
+        for value, position in ((["item"] * 3, 2), (["end", "z"], 1), ([1], 0), ([["item"], "z"], 0), ([True], 0),
+                                (["item", "item", "end", None], 3)):
+            self.check(caught(sheet.place_behind, value), InvalidWord, position=position)
+        self.check(caught(sheet.place_behind, ["item"], place=2), InvalidWord, position=0)
+        for value in (*ODD_VALUES, -1, 3):
+            self.check(caught(sheet.place_behind, None, place=value), UnknownPlace, value=value)
+        with self.assertRaises(TypeError):
+            sheet.place_behind([], 1)
+
+    def test_is_word(self):
+        sheet = blocks()
+        for value in ([], (), ["item", "item", "end"], ("end",) * 400):
+            self.assertIs(sheet.is_word(value), True)
+        for value in (None, 1, True, "", "item", {}, {"item": 0}, ["item"] * 3, [None], [["end"]], ["end", 1], {"end"}):
+            self.assertIs(sheet.is_word(value), False)
+
+    def test_the_example_of_the_interface(self):
+        sheet = blocks()
+        self.assertEqual([sheet.reads("up"), sheet.reads("down"), sheet.place_behind(["item", "item"]),
+                          sheet.is_word(["item"] * 3)], [("u",), ("n",), 2, False])
+
+
+if __name__ == "__main__":
+    unittest.main()
