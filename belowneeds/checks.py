@@ -15,7 +15,12 @@ def is_integer(value):
 
 def is_between(value, low, high):
     """Whether this is an integer from low to high."""
-    return is_integer(value) and low <= value <= high
+    return isinstance(value, int) and not isinstance(value, bool) and low <= value <= high
+
+
+def is_count(value):
+    """Whether this is an integer that is at least 0."""
+    return is_integer(value) and value >= 0
 
 
 def is_list(value):
@@ -25,9 +30,9 @@ def is_list(value):
 
 def is_name(value):
     """Whether this is a name."""
-    if not isinstance(value, str) or not 1 <= len(value) <= LONGEST_NAME:
+    if not isinstance(value, str) or len(value) > LONGEST_NAME or value in RESERVED:
         return False
-    return value not in RESERVED and all(["a" <= letter <= "z" for letter in value])
+    return value.isascii() and value.isalpha() and value.islower()
 
 
 def is_where(value):
@@ -37,6 +42,11 @@ def is_where(value):
 
 def is_chosen(value):
     """Whether these can be the listed numbers of a choice: ascending and different."""
-    if not is_list(value) or not all([is_between(number, 0, GREATEST_NUMBER) for number in value]):
+    if not is_list(value):
         return False
-    return all([low < high for low, high in zip(value, value[1:])])
+    least = 0
+    for number in value:
+        if not is_between(number, least, GREATEST_NUMBER):
+            return False
+        least = number + 1
+    return True

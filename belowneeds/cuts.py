@@ -1,8 +1,9 @@
 """Cuts [31]: the rows of a word, as far as they have values without the rows below."""
 
 from belowneeds.checks import is_between
-from belowneeds.errors import InvalidFoot, InvalidRow, TooMany, UnknownColumn
-from belowneeds.sheet_checks import first_without_value, has_columns
+from belowneeds.errors import InvalidRow, TooMany
+from belowneeds.sheet_checks import check_column, check_foot
+from belowneeds.sights import Sights
 from belowneeds.solving import Solution
 
 MAX_ROWS = 400
@@ -13,7 +14,8 @@ class Cut:
 
     def __init__(self, sheet, word, *, foot=None):
         sheet.place_behind(word)
-        _check_foot(sheet, foot)
+        if foot is not None:
+            check_foot(foot, sheet)
         if len(word) > MAX_ROWS:
             raise TooMany("rows", MAX_ROWS)
         self._sheet = sheet
@@ -21,6 +23,7 @@ class Cut:
         self._foot = None if foot is None else {column: foot[column] for column in sheet.columns}
         self._solution = Solution(sheet, {} if foot is None else self._foot)
         self._rounds = self._solution.add_rows(self._word)
+        self._sights = Sights(self._solution)
 
     @property
     def sheet(self):
@@ -44,9 +47,7 @@ class Cut:
 
     def value_at(self, row, column):
         """The value of the cell, or None."""
-        self._check_row(row)
-        if column not in self._sheet.columns:
-            raise UnknownColumn(column)
+        self._check_cell(row, column)
         return self._solution.row_values(row)[column]
 
     def row_values(self, row):
@@ -61,6 +62,36 @@ class Cut:
                 if value is None:
                     yield (row, column)
 
+    def next_of(self, row, column):
+        """The next [32] of the cell, a tuple (row, column), or None for a cell with a value."""
+        self._check_cell(row, column)
+        return self._sights.next_of((row, column))
+
+    def walk(self, row, column):
+        """The walk [32], and the position to which it comes back, or None if it leads beyond the last row."""
+        cells = []
+        if self.value_at(row, column) is not None:
+            return (cells, None)
+        positions = {}
+        cell = (row, column)
+        while cell not in positions and self._solution.has_row(cell[0]):
+            positions[cell] = len(cells)
+            cells.append(cell)
+            cell = self._sights.next_of(cell)
+        return (cells, positions.get(cell))
+
+    def cells_met(self, row, column):
+        """The sorted list of the cells met [33], without any for a cell that has no value."""
+        if self.value_at(row, column) is None:
+            return []
+        return self._sights.all_met((row, column))
+
+    def depth_at(self, row, column):
+        """The depth [33], or None for a cell that has no value."""
+        if self.value_at(row, column) is None:
+            return None
+        return self._sights.lowest((row, column)) - row
+
     def __len__(self):
         return len(self._word)
 
@@ -68,12 +99,6 @@ class Cut:
         if not is_between(row, 1, len(self._word)):
             raise InvalidRow(row)
 
-
-def _check_foot(sheet, foot):
-    if foot is None:
-        return
-    if not has_columns(foot, sheet.columns):
-        raise InvalidFoot(None)
-    wrong = first_without_value(foot, sheet.columns, sheet.modulus)
-    if wrong is not None:
-        raise InvalidFoot(wrong)
+    def _check_cell(self, row, column):
+        self._check_row(row)
+        check_column(column, self._sheet)

@@ -5,25 +5,31 @@ from belowneeds.checks import is_between, is_chosen, is_integer, is_name, is_whe
 from belowneeds.errors import InvalidChosen, InvalidFormula, InvalidName, InvalidNumber
 from belowneeds.errors import InvalidPosition, InvalidText, InvalidWhere, TooMany
 from belowneeds.reading import FormulaText
-from belowneeds.surroundings import Surroundings
+
+REFERENCES = {"here": "Here", "up": "Up", "down": "Down"}
 
 
 class Formula:
     """The base class of all formulas. It is not created itself."""
 
-    def __init__(self, text, given):
-        """Settles what all formulas have, of the text and of what the constructor was given."""
-        self._text = text
-        self._parts = tuple([part for part in given if isinstance(part, Formula)])
-        self._inner = tuple([node for part in self._parts for node in [part, *part._inner]])
-        self._depth = 1 + max([part.depth for part in self._parts], default=-1)
-        name = self.__class__.__name__
-        told = ", ".join([repr(part) for part in given])
-        self._code = f"{name}({told})"
-        if len(self) > MAX_NODES:
+    def __init__(self, name, given, parts):
+        """Keeps the name of the class, what its constructor was given, and the formulas among that."""
+        many = 1
+        depth = 0
+        for part in parts:
+            many = many + part._many
+            if part.depth >= depth:
+                depth = part.depth + 1
+        if many > MAX_NODES:
             raise TooMany("nodes", MAX_NODES)
-        if self._depth > MAX_DEPTH:
+        if depth > MAX_DEPTH:
             raise TooMany("depth", MAX_DEPTH)
+        self._called = name
+        self._given = given
+        self._parts = parts
+        self._many = many
+        self._sequence = None
+        self.depth = depth
 
     @staticmethod
     def read(text):
@@ -31,11 +37,6 @@ class Formula:
         if not isinstance(text, str):
             raise InvalidText(None)
         return _built(FormulaText(text).pieces())
-
-    @property
-    def depth(self):
-        """The depth [14]."""
-        return self._depth
 
     def nodes(self):
         """Yields the tuples (number, node), a formula ahead of its parts, these from left to right."""
@@ -46,47 +47,51 @@ class Formula:
         """The sorted list of the columns of the references of this sort."""
         if not is_where(where):
             raise InvalidWhere(where)
-        references = [node for node in self._every() if isinstance(node, Reference)]
-        return sorted({node.column for node in references if node.where == where})
+        # The name of the class, as asking each node for its class takes much longer.
+        name = REFERENCES[where]
+        return sorted({node.column for node in self._every() if node._called == name})
 
     def put(self, number, formula):
         """The formula with another formula in the place of the node with this number."""
-        if not is_between(number, 0, len(self) - 1):
+        if not is_between(number, 0, self._many - 1):
             raise InvalidPosition(number)
         _check_formula(formula)
         old = self._every()[number]
         # Asked of the whole here, as a part that becomes too deep would be refused first.
-        if len(self) - len(old) + len(formula) > MAX_NODES:
+        if self._many - old._many + formula._many > MAX_NODES:
             raise TooMany("nodes", MAX_NODES)
         return self._with_node(number, formula)
 
     def fits(self, modulus, columns):
         """Whether all numbers are less than the modulus, and all columns are in the list."""
-        every = self._every()
-        numbers = [number for node in every for number in node._numbers()]
-        names = [node.column for node in every if isinstance(node, Reference)]
-        return all([number < modulus for number in numbers]) and all([name in columns for name in names])
+        return all([node._fits_itself(modulus, columns) for node in self._every()])
 
     def work_out(self, modulus, above, own, below):
         """The value or None."""
-        return self._worth(0, Surroundings(modulus, above, own, below))
+        value, _ = self.looked(modulus, above, own, below)
+        return value
 
     def need(self, modulus, above, own, below):
         """The need as a tuple (where, column), or None."""
-        around = Surroundings(modulus, above, own, below)
-        if self._worth(0, around) is not None:
+        value, looks = self.looked(modulus, above, own, below)
+        if value is not None:
             return None
-        _, where, column = around.looks()[-1]
+        _, where, column = looks[-1]
         return (where, column)
 
     def met(self, modulus, above, own, below):
         """The tuples (number, where, column) of the references that are worked out, in sequence."""
-        around = Surroundings(modulus, above, own, below)
-        self._worth(0, around)
-        return around.looks()
+        _, looks = self.looked(modulus, above, own, below)
+        return looks
+
+    def looked(self, modulus, above, own, below):
+        """A tuple of the value or None, and of what met returns; without a value, the need is its last."""
+        looks = []
+        value = self._worth(0, (modulus, {"up": above, "here": own, "down": below}, looks))
+        return value, looks
 
     def __len__(self):
-        return len(self._every())
+        return len(range(self._many))
 
     def __add__(self, other):
         if is_integer(other):
@@ -94,22 +99,27 @@ class Formula:
         return Plus(self, other)
 
     def __eq__(self, other):
-        # A text tells the classes and all parts.
-        return isinstance(other, Formula) and self._text == other._text
+        return isinstance(other, Formula) and self._called == other._called and self._given == other._given
 
     def __str__(self):
-        return str(self._text)
+        return str(self._as_text())
 
     def __repr__(self):
-        return str(self._code)
+        told = [repr(part) for part in self._given]
+        return f"{self._called}({', '.join(told)})"
 
     def _every(self):
-        """The nodes in sequence."""
-        return [self, *self._inner]
+        """The nodes in sequence. They are kept, as they are asked for much more often than a formula is made."""
+        if self._sequence is None:
+            found = [self]
+            for part in self._parts:
+                found.extend(part._every())
+            self._sequence = found
+        return self._sequence
 
-    def _numbers(self):
-        """The numbers that stand in this node itself."""
-        return ()
+    def _fits_itself(self, modulus, columns):
+        """Whether what stands in this node fits, whatever its parts are."""
+        return True
 
     def _with_node(self, number, formula):
         if number == 0:
@@ -117,9 +127,9 @@ class Formula:
         parts = []
         first = 1
         for part in self._parts:
-            inside = first <= number < first + len(part)
+            inside = first <= number < first + part._many
             parts.append(part._with_node(number - first, formula) if inside else part)
-            first = first + len(part)
+            first = first + part._many
         return self._of_parts(parts)
 
 
@@ -129,169 +139,144 @@ class Number(Formula):
     def __init__(self, value):
         if not is_between(value, 0, GREATEST_NUMBER):
             raise InvalidNumber(value)
-        super().__init__(str(value), (value,))
-        self._value = value
+        super().__init__("Number", (value,), ())
+        self.value = value
 
-    @property
-    def value(self):
-        """The number."""
-        return self._value
+    def _as_text(self):
+        return str(self.value)
 
-    def _numbers(self):
-        return (self._value,)
+    def _fits_itself(self, modulus, columns):
+        return self.value < modulus
 
-    def _worth(self, _, around):
-        return self._value
+    def _worth(self, number, around):
+        return self.value
 
 
 class Reference(Formula):
     """The cell of a column in the same row, in the row above or in the row below."""
 
-    def __init__(self, where, column):
+    def __init__(self, name, where, column):
         if not is_name(column):
             raise InvalidName(column)
-        super().__init__(f"{where} {column}", (column,))
-        self._where = where
-        self._column = column
+        super().__init__(name, (column,), ())
+        self.where = where
+        self.column = column
 
-    @property
-    def where(self):
-        """The word for the row: here, up or down."""
-        return self._where
+    def _as_text(self):
+        return f"{self.where} {self.column}"
+
+    def _fits_itself(self, modulus, columns):
+        return self.column in columns
 
     def _worth(self, number, around):
-        return around.look(number, self._where, self._column)
+        _, rows, looks = around
+        looks.append((number, self.where, self.column))
+        return rows[self.where].get(self.column)
 
 
 class Here(Reference):
     """The cell of a column in the same row."""
 
     def __init__(self, column):
-        super().__init__("here", column)
-
-    @property
-    def column(self):
-        return self._column
+        super().__init__("Here", "here", column)
 
 
 class Up(Reference):
     """The cell of a column in the row above."""
 
     def __init__(self, column):
-        super().__init__("up", column)
-
-    @property
-    def column(self):
-        return self._column
+        super().__init__("Up", "up", column)
 
 
 class Down(Reference):
     """The cell of a column in the row below."""
 
     def __init__(self, column):
-        super().__init__("down", column)
-
-    @property
-    def column(self):
-        return self._column
+        super().__init__("Down", "down", column)
 
 
 class Pair(Formula):
     """A formula with a left and a right part, which are always worked out both."""
 
-    def __init__(self, sign, left, right):
+    def __init__(self, name, left, right):
         _check_formula(left)
         _check_formula(right)
-        called = sign in ("least", "most")
-        text = f"{sign}({left}, {right})" if called else f"({left} {sign} {right})"
-        super().__init__(text, (left, right))
-        self._sign = sign
-        self._left = left
-        self._right = right
+        super().__init__(name, (left, right), (left, right))
+        self.left = left
+        self.right = right
 
     def _worth(self, number, around):
-        left = self._left._worth(number + 1, around)
+        left = self.left._worth(number + 1, around)
         if left is None:
             return None
-        right = self._right._worth(number + 1 + len(self._left), around)
+        right = self.right._worth(number + 1 + self.left._many, around)
         if right is None:
             return None
-        return self._joined(left, right, around)
-
-    def _of_parts(self, parts):
-        return _pair(self._sign, parts[0], parts[1])
+        return self._joined(left, right, around[0])
 
 
 class Plus(Pair):
     """The sum of two formulas."""
 
     def __init__(self, left, right):
-        super().__init__("+", left, right)
+        super().__init__("Plus", left, right)
 
-    @property
-    def left(self):
-        return self._left
+    def _as_text(self):
+        return f"({self.left} + {self.right})"
 
-    @property
-    def right(self):
-        return self._right
+    def _joined(self, left, right, modulus):
+        return (left + right) % modulus
 
-    def _joined(self, left, right, around):
-        return around.as_value(left + right)
+    def _of_parts(self, parts):
+        return Plus(parts[0], parts[1])
 
 
 class Least(Pair):
     """The lesser one of two formulas."""
 
     def __init__(self, left, right):
-        super().__init__("least", left, right)
+        super().__init__("Least", left, right)
 
-    @property
-    def left(self):
-        return self._left
+    def _as_text(self):
+        return f"least({self.left}, {self.right})"
 
-    @property
-    def right(self):
-        return self._right
-
-    def _joined(self, left, right, _):
+    def _joined(self, left, right, modulus):
         return min(left, right)
+
+    def _of_parts(self, parts):
+        return Least(parts[0], parts[1])
 
 
 class Most(Pair):
     """The greater one of two formulas."""
 
     def __init__(self, left, right):
-        super().__init__("most", left, right)
+        super().__init__("Most", left, right)
 
-    @property
-    def left(self):
-        return self._left
+    def _as_text(self):
+        return f"most({self.left}, {self.right})"
 
-    @property
-    def right(self):
-        return self._right
-
-    def _joined(self, left, right, _):
+    def _joined(self, left, right, modulus):
         return max(left, right)
+
+    def _of_parts(self, parts):
+        return Most(parts[0], parts[1])
 
 
 class Same(Pair):
     """Whether two formulas are equal: 1 or 0."""
 
     def __init__(self, left, right):
-        super().__init__("=", left, right)
+        super().__init__("Same", left, right)
 
-    @property
-    def left(self):
-        return self._left
+    def _as_text(self):
+        return f"({self.left} = {self.right})"
 
-    @property
-    def right(self):
-        return self._right
-
-    def _joined(self, left, right, _):
+    def _joined(self, left, right, modulus):
         return 1 if left == right else 0
+
+    def _of_parts(self, parts):
+        return Same(parts[0], parts[1])
 
 
 class Choice(Formula):
@@ -303,47 +288,32 @@ class Choice(Formula):
             raise InvalidChosen(chosen)
         _check_formula(then)
         _check_formula(other)
-        listed = "{" + ", ".join([str(number) for number in chosen]) + "}"
-        super().__init__(f"if {test} in {listed} then {then} else {other}", (test, tuple(chosen), then, other))
-        self._test = test
-        self._chosen = tuple(chosen)
-        self._then = then
-        self._other = other
+        listed = tuple(chosen)
+        super().__init__("Choice", (test, listed, then, other), (test, then, other))
+        self.test = test
+        self.chosen = listed
+        self.then = then
+        self.other = other
 
-    @property
-    def test(self):
-        """The part whose value decides."""
-        return self._test
+    def _as_text(self):
+        listed = "{" + ", ".join([str(number) for number in self.chosen]) + "}"
+        return f"if {self.test} in {listed} then {self.then} else {self.other}"
 
-    @property
-    def chosen(self):
-        """The tuple of the listed numbers."""
-        return self._chosen
-
-    @property
-    def then(self):
-        """The part that is worked out for a listed number."""
-        return self._then
-
-    @property
-    def other(self):
-        """The part that is worked out for any other number."""
-        return self._other
-
-    def _numbers(self):
-        return self._chosen
+    def _fits_itself(self, modulus, columns):
+        # They ascend, so the last one is the greatest.
+        return not self.chosen or self.chosen[-1] < modulus
 
     def _worth(self, number, around):
-        test = self._test._worth(number + 1, around)
+        test = self.test._worth(number + 1, around)
         if test is None:
             return None
-        behind = number + 1 + len(self._test)
-        if test in self._chosen:
-            return self._then._worth(behind, around)
-        return self._other._worth(behind + len(self._then), around)
+        behind = number + 1 + self.test._many
+        if test in self.chosen:
+            return self.then._worth(behind, around)
+        return self.other._worth(behind + self.then._many, around)
 
     def _of_parts(self, parts):
-        return Choice(parts[0], self._chosen, parts[1], parts[2])
+        return Choice(parts[0], self.chosen, parts[1], parts[2])
 
 
 def _check_formula(value):

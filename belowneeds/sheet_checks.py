@@ -1,7 +1,8 @@
 """What is wrong with the parts of a sheet [21] [22], told by the errors of its constructor."""
 
 from belowneeds.checks import is_between, is_integer, is_list, is_name
-from belowneeds.errors import InvalidColumns, InvalidKinds, InvalidNumber, InvalidPlan, InvalidTop
+from belowneeds.errors import InvalidColumns, InvalidFoot, InvalidKinds, InvalidNumber, InvalidPlan, InvalidTop
+from belowneeds.errors import UnknownColumn, UnknownKind, UnknownPlace
 from belowneeds.formulas import Formula
 
 LEAST_MODULUS = 2
@@ -48,6 +49,15 @@ def check_top(top, columns, modulus):
         raise InvalidTop(wrong)
 
 
+def check_foot(foot, sheet):
+    """Refuses what is no foot of this sheet."""
+    if not has_columns(foot, sheet.columns):
+        raise InvalidFoot(None)
+    wrong = first_without_value(foot, sheet.columns, sheet.modulus)
+    if wrong is not None:
+        raise InvalidFoot(wrong)
+
+
 def is_formula_of(value, columns, modulus):
     """Whether this is a formula that fits."""
     return isinstance(value, Formula) and value.fits(modulus, columns)
@@ -77,6 +87,24 @@ def check_plan(plan, kinds):
     reached = _reached(plan)
     if False in reached:
         raise InvalidPlan(reached.index(False))
+
+
+def check_kind(kind, sheet):
+    """Refuses what is no kind of this sheet."""
+    if not isinstance(kind, str) or kind not in sheet.kinds():
+        raise UnknownKind(kind)
+
+
+def check_column(column, sheet):
+    """Refuses what is no column of this sheet."""
+    if column not in sheet.columns:
+        raise UnknownColumn(column)
+
+
+def check_place(place, sheet):
+    """Refuses what is no place of this sheet."""
+    if not is_place(place, sheet.places):
+        raise UnknownPlace(place)
 
 
 def is_place(value, many):

@@ -1,8 +1,9 @@
 """Sheets [21], with their plans and words [22]."""
 
 from belowneeds.checks import is_list
-from belowneeds.errors import InvalidWord, UnknownColumn, UnknownKind, UnknownPlace
-from belowneeds.sheet_checks import check_columns, check_kinds, check_modulus, check_plan, check_top, is_place
+from belowneeds.errors import InvalidKinds, InvalidWord
+from belowneeds.sheet_checks import check_column, check_columns, check_kind, check_kinds, check_modulus
+from belowneeds.sheet_checks import check_place, check_plan, check_top, is_formula_of
 
 
 class Sheet:
@@ -54,10 +55,8 @@ class Sheet:
 
     def formula(self, kind, column):
         """The formula of this kind and column."""
-        if not isinstance(kind, str) or kind not in self._kinds:
-            raise UnknownKind(kind)
-        if column not in self._columns:
-            raise UnknownColumn(column)
+        check_kind(kind, self)
+        check_column(column, self)
         return self._kinds[kind][column]
 
     def plan(self):
@@ -72,12 +71,12 @@ class Sheet:
 
     def allowed(self, place):
         """The sorted list of the kinds that are allowed at this place."""
-        self._check_place(place)
+        check_place(place, self)
         return list(self._plan[place])
 
     def place_behind(self, word, *, place=0):
         """The place to which a word leads from a place."""
-        self._check_place(place)
+        check_place(place, self)
         if not is_list(word):
             raise InvalidWord(None)
         passed = self._places_passed(word, place)
@@ -89,15 +88,46 @@ class Sheet:
         """Whether this is a word that is allowed."""
         return is_list(value) and len(self._places_passed(value, 0)) > len(value)
 
+    def with_formula(self, kind, column, formula):
+        """The sheet with another formula for this kind and column."""
+        self.formula(kind, column)
+        if not is_formula_of(formula, self._columns, self._modulus):
+            raise InvalidKinds(kind, column)
+        kinds = {other: dict(row) for other, row in self._kinds.items()}
+        kinds[kind][column] = formula
+        return Sheet(self._modulus, self._columns, self._top, kinds, self._plan)
+
+    def with_top(self, **values):
+        """The sheet with other values in the top, by the names of columns."""
+        for column in sorted(values):
+            check_column(column, self)
+        top = {column: values.get(column, self._top[column]) for column in self._columns}
+        return Sheet(self._modulus, self._columns, top, self._kinds, self._plan)
+
     def __eq__(self, other):
         return isinstance(other, Sheet) and self._all_parts() == other._all_parts()
 
+    def __str__(self):
+        return "".join([line + "\n" for line in self._lines()])
+
+    def __repr__(self):
+        kinds = list(self._kinds)
+        return f"Sheet({self._modulus}, {self._columns!r}, {kinds!r})"
+
+    def _lines(self):
+        """The lines of the text [25], without line feeds."""
+        values = [str(value) for value in self._top.values()]
+        lines = [f"modulus {self._modulus}", " ".join(["columns", *self._columns]), " ".join(["top", *values])]
+        for kind, row in self._kinds.items():
+            lines.append(f"kind {kind}")
+            lines.extend([str(formula) for formula in row.values()])
+        for leads in self._plan:
+            told = [f"{kind} {leads[kind]}" for kind in leads]
+            lines.append(" ".join(["plan", *told]))
+        return lines
+
     def _all_parts(self):
         return (self._modulus, self._columns, self._top, self._kinds, self._plan)
-
-    def _check_place(self, place):
-        if not is_place(place, len(self._plan)):
-            raise UnknownPlace(place)
 
     def _places_passed(self, word, place):
         """The places from this one on, one more than there are kinds up to the first one that is not allowed."""

@@ -1,7 +1,10 @@
 """What several tests use: sheets, values of other kinds, and plain models to compare with."""
 
+import itertools
 import random
+import unittest
 
+from belowneeds.fills import Fill
 from belowneeds.formulas import Choice, Down, Formula, Here, Least, Most, Number, Plus, Same, Up
 from belowneeds.sheets import Sheet
 
@@ -12,6 +15,15 @@ TOTAL = Formula.read("(up u + here n)")
 END = {"n": Number(0), "u": TOTAL}
 ITEM = {"n": Down("n") + 1, "u": TOTAL}
 PLAN = [{"item": 1, "end": 0}, {"item": 2, "end": 0}, {"end": 0}]
+
+
+class CheckedCase(unittest.TestCase):
+    def check(self, error, kind, /, **attributes):
+        """The error is of this class, and has just these attributes, with values of the same kinds."""
+        self.assertIs(type(error), kind)
+        self.assertEqual(parts_of(error), attributes)
+        for name, value in attributes.items():
+            self.assertIs(type(getattr(error, name)), type(value))
 
 
 def blocks():
@@ -84,6 +96,21 @@ def random_sheet(seed):
     return Sheet(modulus, columns, top, kinds)
 
 
+def sheet_of_tables(many):
+    """A sheet with so many tables, at most 730: the blank one, and one for each number from 0 to the last one.
+
+    A row x adds 1 to the number of three digits that the row below it shows, and shows 0 above the last one.
+    """
+    is_last, carry = Number(1), Number(1)
+    kinds = {"e": dict.fromkeys("abc", Number(0)), "x": {}}
+    for at, name in enumerate("abc"):
+        is_last = Choice(Down(name), ((many - 2) // 9 ** at % 9,), is_last, Number(0))
+    for name in "abc":
+        kinds["x"][name] = Choice(is_last, (1,), Number(0), Plus(Down(name), carry))
+        carry = Choice(Down(name), (8,), carry, Number(0))
+    return Sheet(9, list("abc"), dict.fromkeys("abc", 0), kinds)
+
+
 class NoValue(Exception):
     """Working out stopped at this tuple (where, column)."""
 
@@ -109,10 +136,10 @@ def model_value(formula, modulus, rows):
     return min(left, right) if isinstance(formula, Least) else max(left, right)
 
 
-def model_cut(sheet, word, foot=None):
+def model_cut(sheet, word, foot=None, top=None):
     """The rows of a cut and the number of rounds that change something, by rounds as [31] says."""
     columns = sheet.columns
-    rows = [sheet.top()] + [dict.fromkeys(columns) for _ in word] + [foot or {}]
+    rows = [top or sheet.top()] + [dict.fromkeys(columns) for _ in word] + [foot or {}]
     rounds = 0
     while True:
         before = [dict(row) for row in rows]
@@ -127,3 +154,111 @@ def model_cut(sheet, word, foot=None):
         if rows == before:
             return rows[1:-1], rounds
         rounds += 1
+
+
+def model_aboves(sheet):
+    """The aboves of a sheet as tuples, in sequence [41]."""
+    return list(itertools.product([None, *range(sheet.modulus)], repeat=len(sheet.reads("up"))))
+
+
+def model_table(sheet, word, foot=None):
+    """The table of a word: what its first row shows under each above, by the cut of the whole word."""
+    rows = []
+    for above in model_aboves(sheet):
+        # A top that is no sheet's: a column that is not read by `up` stands for none here.
+        top = {**dict.fromkeys(sheet.columns), **dict(zip(sheet.reads("up"), above))}
+        row = model_cut(sheet, word, foot, top)[0][0] if word else foot or dict.fromkeys(sheet.columns)
+        rows.append(tuple(row[column] for column in sheet.reads("down")))
+    return tuple(rows)
+
+
+def words_from(sheet, most, place=0):
+    """All words of at most so many kinds that are allowed from a place."""
+    found, last = [[]], [([], place)]
+    for _ in range(most):
+        last = [([*word, kind], other) for word, at in last for kind, other in sheet.plan()[at].items()]
+        found.extend(word for word, _ in last)
+    return found
+
+
+def none_first(value):
+    """A key to sort by: None counts as less than all integers [2]."""
+    if isinstance(value, tuple):
+        return tuple(none_first(part) for part in value)
+    return -1 if value is None else value
+
+
+def planned_sheet(seed):
+    """A sheet with several kinds and places, that is mostly not full."""
+    rnd = random.Random(seed)
+    sheet = random_sheet(seed)
+    kinds = {kind: {column: sheet.formula(kind, column) for column in sheet.columns} for kind in sheet.kinds()}
+    many = rnd.randrange(1, 4)
+    # Each place leads to the next one, so each can be reached.
+    plan = [{kind: rnd.randrange(many) for kind in kinds if rnd.randrange(3)} for _ in range(many)]
+    for place, leads in enumerate(plan):
+        leads[rnd.choice(sheet.kinds())] = (place + 1) % many
+    return Sheet(min(sheet.modulus, 3), sheet.columns, dict.fromkeys(sheet.columns, 0), _with_numbers(kinds), plan)
+
+
+def _with_numbers(kinds):
+    """The same kinds, without a number above 2."""
+    return {kind: {column: _lowered(formula) for column, formula in row.items()} for kind, row in kinds.items()}
+
+
+def _lowered(formula):
+    for number, node in formula.nodes():
+        if isinstance(node, Number) and node.value > 2:
+            return _lowered(formula.put(number, Number(2)))
+        if isinstance(node, Choice) and node.chosen and node.chosen[-1] > 2:
+            chosen = tuple(told for told in node.chosen if told < 3)
+            return _lowered(formula.put(number, Choice(node.test, chosen, node.then, node.other)))
+    return formula
+
+
+PLANS = (
+    [{"x": 1, "e": 0}, {"x": 2, "e": 0}, {"e": 0}], [{"x": 1, "e": 0}, {"e": 0}],
+    [{"x": 1, "e": 0}, {"x": 2, "e": 1}, {"e": 1}], [{"x": 1, "e": 2}, {"e": 0}, {"x": 1}], [{"e": 1, "x": 1}, {"e": 2, "x": 2}, {"e": 0}],
+)
+
+
+def levelled_formula(rnd, depth, modulus, references):
+    """A formula with these references only."""
+    kind = rnd.randrange(8) if depth else rnd.randrange(3)
+    if kind == 0 or not references:
+        return Number(rnd.randrange(modulus))
+    if kind <= 2:
+        return rnd.choice(references)
+    parts = [levelled_formula(rnd, rnd.randrange(depth), modulus, references) for _ in range(3)]
+    if kind == 7:
+        return Choice(parts[0], [number for number in range(modulus) if rnd.randrange(2)], parts[1], parts[2])
+    return (Plus, Least, Most, Same)[kind - 3](parts[0], parts[1])
+
+
+def late_sheet(seed):
+    """A sheet whose rows x may need the rows below, and are followed by a row e soon: many columns are full."""
+    rnd = random.Random(seed)
+    modulus = rnd.choice([2, 2, 3])
+    columns = ["a", "b", "c"][:rnd.randrange(1, 4)]
+    kinds = {"e": {}, "x": {}}
+    for position, column in enumerate(columns):
+        beside = [Up(columns[0]), *[Here(other) for other in columns[:position]]]
+        kinds["e"][column] = levelled_formula(rnd, 2, modulus, beside)
+        kinds["x"][column] = levelled_formula(rnd, 2, modulus, beside + [Down(other) for other in columns])
+    top = {column: rnd.randrange(modulus) for column in columns}
+    return Sheet(modulus, columns, top, kinds, rnd.choice(PLANS))
+
+
+def random_fill(sheet, rnd):
+    """An allowed fill."""
+    plan, place, kinds, places = sheet.plan(), 0, [], []
+    for _ in range(rnd.randrange(1, 9)):
+        places.append(place)
+        kinds.append(rnd.choice(sorted(plan[place])))
+        place = plan[place][kinds[-1]]
+    while place not in places:
+        places.append(place)
+        kinds.append(rnd.choice(sorted(plan[place])))
+        place = plan[place][kinds[-1]]
+    begin = rnd.choice([at for at, other in enumerate(places) if other == place])
+    return Fill(kinds[:begin], kinds[begin:])

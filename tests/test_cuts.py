@@ -1,4 +1,4 @@
-"""Points [31] and [34]: cuts, as far as they are written."""
+"""Points [31] to [34]: cuts, with their rounds, walks, met cells and depths."""
 
 import itertools
 import random
@@ -7,9 +7,9 @@ import unittest
 
 from belowneeds.cuts import Cut
 from belowneeds.errors import InvalidFoot, InvalidRow, InvalidWord, TooMany, UnknownColumn
-from belowneeds.formulas import Down, Number
+from belowneeds.formulas import Choice, Down, Here, Number, Plus, Up
 from belowneeds.sheets import Sheet
-from examples import ODD_VALUES, blocks, caught, free_blocks, model_cut, parts_of, random_sheet
+from examples import ODD_VALUES, CheckedCase, NoValue, blocks, caught, free_blocks, model_cut, model_value, random_sheet
 
 WORD = ["item", "item", "end", "item"]
 
@@ -18,11 +18,63 @@ def rows_of(cut):
     return [cut.row_values(row) for row in range(1, len(cut) + 1)]
 
 
-class CutTest(unittest.TestCase):
-    def check(self, error, kind, /, **attributes):
-        self.assertIs(type(error), kind)
-        self.assertEqual(parts_of(error), attributes)
+COLUMNS = list("abcdef")
 
+
+def chain(last):
+    """A sheet in which each cell of a row x needs the next one, and the last one of them the row below."""
+    row = {column: Here(other) for column, other in zip(COLUMNS, COLUMNS[1:])}
+    kinds = {"x": {**row, "f": Down("a")}, "e": {**row, "f": last}}
+    return Sheet(2, COLUMNS, dict.fromkeys(COLUMNS, 0), kinds)
+
+
+def random_cut(seed, foot_each):
+    sheet = random_sheet(seed)
+    rnd = random.Random(seed)
+    word = [rnd.choice(sheet.kinds()) for _ in range(rnd.randrange(9))]
+    foot = {column: rnd.randrange(sheet.modulus) for column in sheet.columns} if seed % foot_each == 0 else None
+    return Cut(sheet, word, foot=foot)
+
+
+def cells_of(cut):
+    return [(row, column) for row in range(1, len(cut) + 1) for column in cut.sheet.columns]
+
+
+def around(cut, row):
+    """The rows around a row, by the words of references."""
+    rows = [cut.sheet.top(), *rows_of(cut), cut.foot or {}]
+    return {"up": rows[row - 1], "here": rows[row], "down": rows[row + 1]}
+
+
+def moved(row, where, column):
+    return (row + {"up": -1, "here": 0, "down": 1}[where], column)
+
+
+def model_next(cut, row, column):
+    formula = cut.sheet.formula(cut.word[row - 1], column)
+    try:
+        model_value(formula, cut.sheet.modulus, around(cut, row))
+    except NoValue as error:
+        return moved(row, *error.args[0])
+    return None
+
+
+def model_met(cut, cell):
+    """All cells that can be reached by references that are worked out."""
+    met = {cell}
+    while True:
+        more = set(met)
+        for row, column in met:
+            rows = around(cut, row)
+            looks = cut.sheet.formula(cut.word[row - 1], column).met(cut.sheet.modulus, *rows.values())
+            more.update(moved(row, where, other) for _, where, other in looks)
+        more = {(row, column) for row, column in more if 1 <= row <= len(cut)}
+        if more == met:
+            return sorted(met)
+        met = more
+
+
+class CutTest(CheckedCase):
     def test_the_example_of_the_interface(self):
         cut = Cut(blocks(), WORD)
         self.assertEqual(rows_of(cut), [{"n": 0, "u": 0}, {"n": 1, "u": 1}, {"n": 0, "u": 1}, {"n": None, "u": None}])
@@ -76,10 +128,13 @@ class CutTest(unittest.TestCase):
     def test_wrong_rows_and_columns(self):
         cut = Cut(blocks(), WORD)
         for value in (*ODD_VALUES, 0, -1, 5):
-            self.check(caught(cut.value_at, value, "z"), InvalidRow, value=value)
+            for asked in (cut.value_at, cut.next_of, cut.walk, cut.cells_met, cut.depth_at):
+                self.check(caught(asked, value, "z"), InvalidRow, value=value)
             self.check(caught(cut.row_values, value), InvalidRow, value=value)
         for value in (*ODD_VALUES, "z", "item"):
-            self.check(caught(cut.value_at, 1, value), UnknownColumn, value=value)
+            for asked in (cut.value_at, cut.next_of, cut.walk, cut.cells_met, cut.depth_at):
+                self.check(caught(asked, 1, value), UnknownColumn, value=value)
+                self.check(caught(asked, row=4, column=value), UnknownColumn, value=value)
 
     def test_many_cuts_as_by_rounds(self):
         for seed in range(120):
@@ -106,6 +161,130 @@ class CutTest(unittest.TestCase):
         kinds = {"x": {"n": Down("n")}, "e": {"n": Number(1)}}
         cut = Cut(Sheet(2, ["n"], {"n": 0}, kinds), ["x"] * 399 + ["e"])
         self.assertEqual([cut.rounds, cut.value_at(1, "n"), list(cut.empty_cells())], [400, 1, []])
+
+    def test_the_greatest_cut_is_worked_out(self):
+        cut = Cut(chain(Number(1)), ["x"] * 399 + ["e"])
+        self.assertEqual([cut.rounds, cut.value_at(1, "a"), list(cut.empty_cells())], [2400, 1, []])
+        self.assertEqual([cut.cells_met(1, "a"), cut.depth_at(1, "a")], [cells_of(cut), 399])
+        self.assertEqual([cut.cells_met(400, "e"), cut.depth_at(400, "e")], [[(400, "e"), (400, "f")], 0])
+        self.assertEqual([cut.depth_at(row, "f") for row in (1, 2, 399)], [399, 398, 1])
+        up = Sheet(2, ["n"], {"n": 1}, {"x": {"n": Up("n")}})
+        cut = Cut(up, ["x"] * 400)
+        self.assertEqual([len(cut.cells_met(400, "n")), cut.depth_at(400, "n"), cut.value_at(400, "n")], [400, 0, 1])
+
+
+class NeedsTest(CheckedCase):
+    def test_the_example_of_the_interface(self):
+        cut = Cut(blocks(), WORD)
+        self.assertEqual([cut.rounds, cut.depth_at(1, "n"), cut.cells_met(2, "u"), cut.walk(4, "u")],
+                         [6, 2, [(1, "n"), (1, "u"), (2, "n"), (2, "u"), (3, "n")], ([(4, "u"), (4, "n")], None)])
+        self.assertEqual([cut.next_of(4, "u"), cut.next_of(4, "n"), cut.next_of(row=3, column="n")],
+                         [(4, "n"), (5, "n"), None])
+
+    def test_a_cell_with_a_value(self):
+        cut = Cut(blocks(), WORD)
+        self.assertEqual([cut.next_of(1, "n"), cut.walk(1, "n"), cut.depth_at(3, "n"), cut.cells_met(3, "n")],
+                         [None, ([], None), 0, [(3, "n")]])
+
+    def test_a_cell_that_has_none(self):
+        cut = Cut(blocks(), WORD)
+        self.assertEqual([cut.cells_met(4, "n"), cut.depth_at(4, "n")], [[], None])
+
+    def test_the_top_and_the_foot_are_no_cells(self):
+        sheet = Sheet(2, ["n"], {"n": 1}, {"x": {"n": Plus(Up("n"), Down("n"))}, "u": {"n": Up("n")}})
+        cut = Cut(sheet, ["u"], foot={"n": 1})
+        self.assertEqual([cut.cells_met(1, "n"), cut.depth_at(1, "n")], [[(1, "n")], 0])
+        cut = Cut(Sheet(2, ["n"], {"n": 1}, {"x": {"n": Down("n")}}), ["x", "x"], foot={"n": 1})
+        self.assertEqual([cut.cells_met(1, "n"), cut.depth_at(1, "n"), cut.depth_at(2, "n")], [[(1, "n"), (2, "n")], 1, 0])
+
+    def test_a_depth_counts_what_a_cell_above_looks_at(self):
+        kinds = {"x": {"n": Down("n"), "u": Up("u")}, "y": {"n": Number(0), "u": Here("n")}}
+        kinds["z"] = {"n": Down("n"), "u": Here("n")}
+        sheet = Sheet(2, ["n", "u"], {"n": 0, "u": 0}, kinds)
+        cut = Cut(sheet, ["z", "x", "x", "y"])
+        self.assertEqual([cut.depth_at(row, "u") for row in (1, 2, 3, 4)], [3, 2, 1, 0])
+        self.assertEqual(cut.cells_met(2, "u"), [(1, "n"), (1, "u"), (2, "n"), (2, "u"), (3, "n"), (4, "n")])
+
+    def test_only_what_is_worked_out_is_met(self):
+        choice = Choice(Here("b"), (1,), Down("b"), Number(1))
+        sheet = Sheet(2, ["a", "b"], {"a": 0, "b": 0}, {"x": {"a": choice, "b": Number(0)}, "y": {"a": choice, "b": Number(1)}})
+        cut = Cut(sheet, ["x", "y", "x"])
+        self.assertEqual([cut.cells_met(1, "a"), cut.cells_met(2, "a")],
+                         [[(1, "a"), (1, "b")], [(2, "a"), (2, "b"), (3, "b")]])
+        self.assertEqual([cut.depth_at(1, "a"), cut.depth_at(2, "a")], [0, 1])
+
+    def test_circles(self):
+        kinds = {"x": {"a": Here("b"), "b": Plus(Number(0), Here("a"))}, "y": {"a": Up("b"), "b": Up("a")}}
+        cut = Cut(Sheet(2, ["a", "b"], {"a": 0, "b": 0}, kinds), ["x", "y", "x"])
+        self.assertEqual([cut.walk(1, "a"), cut.walk(2, "a")],
+                         [([(1, "a"), (1, "b")], 0), ([(2, "a"), (1, "b"), (1, "a")], 1)])
+        around_rows = {"d": {"a": Down("a")}, "u": {"a": Up("a")}}
+        cut = Cut(Sheet(2, ["a"], {"a": 0}, around_rows), ["u", "d", "d", "u"])
+        self.assertEqual([cut.walk(2, "a"), cut.walk(3, "a"), cut.value_at(1, "a")],
+                         [([(2, "a"), (3, "a"), (4, "a")], 1), ([(3, "a"), (4, "a")], 0), 0])
+
+    def test_a_walk_through_all_cells(self):
+        sheet = chain(Here("a"))
+        cut = Cut(sheet, ["x"] * 400)
+        self.assertEqual(cut.walk(1, "a"), (cells_of(cut), None))
+        self.assertEqual([cut.next_of(400, "f"), cut.walk(400, "f")], [(401, "a"), ([(400, "f")], None)])
+        cut = Cut(sheet, ["x"] * 399 + ["e"])
+        self.assertEqual(cut.walk(1, "a"), (cells_of(cut), 399 * 6))
+
+    def test_a_word_without_kinds(self):
+        cut = Cut(blocks(), [], foot={"n": 1, "u": 1})
+        for asked in (cut.value_at, cut.next_of, cut.walk, cut.cells_met, cut.depth_at):
+            self.check(caught(asked, 1, "n"), InvalidRow, value=1)
+        self.assertEqual([len(cut), list(cut.empty_cells())], [0, []])
+
+    def test_what_is_returned_is_new(self):
+        cut = Cut(blocks(), WORD)
+        for _ in range(2):
+            cells, back = cut.walk(4, "u")
+            met = cut.cells_met(2, "u")
+            self.assertEqual([cells, back, len(met)], [[(4, "u"), (4, "n")], None, 5])
+            cells.clear()
+            met.clear()
+
+    def test_many_nexts_and_walks(self):
+        for seed in range(150):
+            cut = random_cut(seed, 3)
+            nexts = {cell: model_next(cut, *cell) for cell in cells_of(cut)}
+            for cell in cells_of(cut):
+                self.assertEqual(cut.next_of(*cell), nexts[cell])
+                walk, at = [], cell
+                while nexts.get(at) is not None and at not in walk:
+                    walk.append(at)
+                    at = nexts[at]
+                back = walk.index(at) if at in walk else None
+                self.assertEqual(cut.walk(*cell), (walk, back), (seed, cell))
+                if walk and back is None:
+                    self.assertEqual(at[0], len(cut) + 1)
+                    self.assertIsNone(cut.foot)
+
+    def test_many_met_cells_and_depths(self):
+        for seed in range(150):
+            cut = random_cut(seed, 4)
+            for cell in reversed(cells_of(cut)):
+                if cut.value_at(*cell) is None:
+                    self.assertEqual((cut.cells_met(*cell), cut.depth_at(*cell)), ([], None))
+                else:
+                    met = model_met(cut, cell)
+                    self.assertEqual(cut.cells_met(*cell), met, (seed, cell))
+                    self.assertEqual(cut.depth_at(*cell), max(row for row, _ in met) - cell[0])
+
+    def test_a_longer_word_keeps_met_cells_and_a_depth_tells_how_long_a_word_is_needed(self):
+        for seed in range(60):
+            cut = random_cut(seed, 10 ** 9)
+            for many in range(len(cut)):
+                shorter = Cut(cut.sheet, cut.word[:many])
+                for row, column in cells_of(shorter):
+                    depth = cut.depth_at(row, column)
+                    value = shorter.value_at(row, column)
+                    self.assertEqual(value is not None, depth is not None and row + depth <= many)
+                    if value is not None:
+                        self.assertEqual((shorter.cells_met(row, column), shorter.depth_at(row, column), value),
+                                         (cut.cells_met(row, column), depth, cut.value_at(row, column)))
 
 
 if __name__ == "__main__":

@@ -3,13 +3,14 @@
 import itertools
 import random
 import unittest
+from unittest import mock
 
 from belowneeds.cuts import Cut
 from belowneeds.errors import TooMany, UnknownKind
 from belowneeds.filling import Filler, tried
-from belowneeds.formulas import Down, Here, Number, Plus, Up
+from belowneeds.formulas import Down, Formula, Here, Number, Plus, Up
 from belowneeds.sheets import Sheet
-from examples import ODD_VALUES, blocks, caught, free_blocks, model_cut, parts_of, peek, random_sheet
+from examples import ODD_VALUES, blocks, caught, free_blocks, late_sheet, model_cut, parts_of, peek, random_sheet
 
 
 def state_of(filler):
@@ -369,6 +370,59 @@ class TriedTest(FillerTest):
                            e={"c": Number(2), "t": Plus(Up("t"), Here("c"))})
         self.assertEqual(tried(Filler(sheet), "a", "a", "e"), [])
         self.assertEqual(tried(Filler(sheet), "e", "a", "e"), [{"c": 2, "t": 3}, {"c": 0, "t": 0}, {"c": 2, "t": 2}])
+
+
+class UndoneTest(FillerTest):
+    def out(self, sheet, word):
+        """The number of rows given out, and these rows, by the cut of the word."""
+        rows = [Cut(sheet, word).row_values(row) for row in range(1, len(word) + 1)]
+        return list(itertools.takewhile(lambda row: None not in row.values(), rows))
+
+    def follow(self, filler, sheet, word, rnd, levels):
+        """Does what comes up with a filler that has taken the word, and compares it with cuts."""
+        word = list(word)
+        for _ in range(rnd.randrange(1, 6)):
+            kinds = [rnd.choice([*sheet.kinds(), "z"] if rnd.random() < 0.2 else sheet.kinds())
+                     for _ in range(rnd.randrange(3))]
+            allowed = sheet.is_word(word + kinds)
+            rows = self.out(sheet, word + kinds)[len(self.out(sheet, word)):] if allowed else None
+            what = rnd.randrange(4)
+            if what == 0 and levels:
+                with filler.trial():
+                    self.follow(filler, sheet, word, rnd, levels - 1)
+            elif what == 1 and levels:
+                twin = filler.copy()
+                self.follow(twin, sheet, word, rnd, levels - 1)
+            elif what == 2:
+                if allowed:
+                    self.assertEqual(tried(filler, *kinds), rows)
+                else:
+                    self.assertIs(type(caught(tried, filler, *kinds)), UnknownKind)
+            elif allowed:
+                self.assertEqual(filler.take_all(*kinds), rows)
+                word.extend(kinds)
+            else:
+                self.assertIs(type(caught(filler.take_all, *kinds)), UnknownKind)
+            if rnd.randrange(2):
+                given = len(self.out(sheet, word))
+                self.assertEqual(state_of(filler), (tuple(word), given, len(word) - given))
+
+    def test_trials_copies_errors_and_tries_in_any_sequence(self):
+        for seed in range(250):
+            rnd = random.Random(seed)
+            sheet = rnd.choice([random_sheet, late_sheet])(seed)
+            self.follow(Filler(sheet), sheet, [], rnd, 3)
+
+    def test_what_a_kind_costs_does_not_hang_on_the_kinds_before(self):
+        sheet = Sheet.free(3, ["n", "b", "c"], {"n": 0, "b": 0, "c": 0},
+                           a={"n": Number(0), "b": Here("n"), "c": Here("n")})
+        for filler, kind in ((Filler(sheet), "a"), (Filler(blocks()), "end"), (Filler(free_blocks()), "item")):
+            costs = []
+            for _ in range(199):
+                with mock.patch.object(Formula, "looked", autospec=True, side_effect=Formula.looked) as looked:
+                    filler.take(kind)
+                costs.append(looked.call_count)
+            self.assertEqual(len(set(costs[1:])), 1)
 
 
 if __name__ == "__main__":

@@ -166,20 +166,28 @@ class ClassesTest(MadeTest):
             self.assertEqual(isinstance(formula, Pair), type(formula) in PAIRS)
         self.assertTrue(issubclass(Reference, Formula) and issubclass(Pair, Formula))
 
-    def test_properties_stand_in_the_classes_themselves(self):
-        listed = {Number: ("value",), Here: ("column",), Up: ("column",), Down: ("column",), Reference: ("where",),
-                  Choice: ("test", "chosen", "then", "other"), Formula: ("depth",)}
-        for made in PAIRS:
-            listed[made] = ("left", "right")
-        for made, names in listed.items():
-            for name in names:
-                self.assertIsInstance(vars(made)[name], property)
+    def test_what_is_listed_is_set_when_a_formula_is_made(self):
+        one = Number(1)
+        listed = [(one, {"value": 1}), (Here("a"), {"column": "a", "where": "here"}),
+                  (Up("b"), {"column": "b", "where": "up"}), (Down("c"), {"column": "c", "where": "down"}),
+                  (Choice(*CHOICE), {"test": Number(0), "chosen": (), "then": one, "other": Number(2)})]
+        listed.extend([(pair(one, Here("a")), {"left": one, "right": Here("a")}) for pair in PAIRS])
+        for formula, values in listed:
+            for name, value in values.items():
+                self.assertEqual(getattr(formula, name), value)
+            self.assertIs(type(formula.depth), int)
 
-    def test_a_formula_does_not_change(self):
-        for formula, name in ((Number(1), "value"), (Here("a"), "column"), (Up("a"), "where"), (Number(1), "depth"),
-                              (Plus(Number(1), Number(2)), "left"), (Choice(*CHOICE), "chosen")):
-            with self.assertRaises(AttributeError):
-                setattr(formula, name, 1)
+    def test_a_formula_does_not_change_with_what_it_was_given_or_gave(self):
+        chosen = [0, 1]
+        formula = Choice(Number(0), chosen, Number(1), Number(2))
+        chosen.append(2)
+        list(formula.nodes()).clear()
+        formula.columns_read("up").append("a")
+        formula.met(3, {}, {}, {}).append(1)
+        self.assertEqual(formula, Choice(Number(0), (0, 1), Number(1), Number(2)))
+        self.assertEqual([len(list(formula.nodes())), formula.columns_read("up")], [4, []])
+        formula.put(1, Here("a"))
+        self.assertEqual(str(formula), "if 0 in {0, 1} then 1 else 2")
 
 
 CHOICE = (Number(0), (), Number(1), Number(2))

@@ -5,7 +5,7 @@ import inspect
 import pathlib
 import unittest
 
-from belowneeds import cuts, filling, formulas, sheets
+from belowneeds import cuts, endless, filling, fills, formulas, fullness, layers, sheets, tables
 
 PACKAGE = pathlib.Path(formulas.__file__).parent
 PARAMETERS = {
@@ -14,7 +14,25 @@ PARAMETERS = {
         "Least": "left, right", "Most": "left, right", "Same": "left, right", "Choice": "test, chosen, then, other",
     },
     sheets: {"Sheet": "modulus, columns, top, kinds, plan=None"},
+    fills: {"Fill": "lead, turn", "first_refused": "sheet, fill"},
     cuts: {"Cut": "sheet, word, *, foot=None"},
+    tables: {
+        "entries": "sheet", "blank": "sheet", "foot_table": "sheet, foot", "is_table": "sheet, value",
+        "is_rising": "sheet, value", "row_under": "sheet, above, kind, table", "table_above": "sheet, kind, table",
+        "table_of": "sheet, word, *, place=0, foot=None",
+    },
+    layers: {
+        "layer_tables": "sheet, *, limit=400", "still_from": "sheet, *, limit=400",
+        "ways": "sheet, place, table, *, limit=400", "word_of": "sheet, place, table, *, limit=400",
+        "standings": "sheet, many, *, limit=400",
+    },
+    endless: {"Endless": "sheet, fill"},
+    fullness: {
+        "is_full": "sheet, column, *, limit=400", "column_delay": "sheet, column, *, limit=400",
+        "delays": "sheet, *, limit=400", "sheet_delay": "sheet, *, limit=400",
+        "late_word": "sheet, column, *, limit=400", "first_open_row": "sheet, column, *, limit=400",
+        "open_fill": "sheet, column, *, limit=400",
+    },
     filling: {"Filler": "sheet", "tried": "filler, *kinds"},
 }
 METHODS = {
@@ -28,17 +46,30 @@ METHODS = {
     sheets.Sheet: {
         "kinds": "self", "top": "self", "formula": "self, kind, column", "plan": "self", "reads": "self, where",
         "allowed": "self, place", "place_behind": "self, word, *, place=0", "is_word": "self, value",
-        "free": "cls, modulus, columns, top, **kinds", "__eq__": "self, other",
+        "free": "cls, modulus, columns, top, **kinds", "with_formula": "self, kind, column, formula",
+        "with_top": "self, **values", "__eq__": "self, other", "__str__": "self", "__repr__": "self",
+    },
+    fills.Fill: {
+        "kind_at": "self, row", "first": "self, many", "behind": "self, many", "of": "cls, *kinds",
+        "__eq__": "self, other", "__str__": "self", "__repr__": "self",
     },
     cuts.Cut: {
         "value_at": "self, row, column", "row_values": "self, row", "empty_cells": "self", "__len__": "self",
+        "next_of": "self, row, column", "walk": "self, row, column", "cells_met": "self, row, column",
+        "depth_at": "self, row, column",
+    },
+    endless.Endless: {
+        "value_at": "self, row, column", "row_values": "self, row", "true_table": "self, row",
+        "first_empty": "self, column", "rows": "self, many", "depth_at": "self, row, column",
+        "next_of": "self, row, column", "walk": "self, row, column", "__eq__": "self, other",
     },
     filling.Filler: {
         "take": "self, kind", "take_all": "self, *kinds", "copy": "self", "trial": "self",
     },
 }
 PROPERTIES = {
-    formulas.Formula: ("depth",), sheets.Sheet: ("modulus", "columns", "places"),
+    sheets.Sheet: ("modulus", "columns", "places"),
+    fills.Fill: ("lead", "turn"), endless.Endless: ("sheet", "fill", "begin", "period"),
     cuts.Cut: ("sheet", "word", "foot", "rounds"), filling.Filler: ("held", "given", "word"),
 }
 
@@ -62,15 +93,30 @@ class InterfaceTest(unittest.TestCase):
                 method = getattr(method, "__func__", method)
                 self.assertEqual((name, parameters_of(method)), (name, parameters))
 
-    def test_read_is_static_and_free_is_of_the_class(self):
+    def test_read_is_static_and_free_and_of_are_of_the_class(self):
         self.assertIsInstance(vars(formulas.Formula)["read"], staticmethod)
         self.assertIsInstance(vars(sheets.Sheet)["free"], classmethod)
+        self.assertIsInstance(vars(fills.Fill)["of"], classmethod)
 
     def test_properties_stand_in_the_classes_themselves_and_are_not_set(self):
         for made, names in PROPERTIES.items():
             for name in names:
                 self.assertIsInstance(vars(made)[name], property)
                 self.assertIsNone(vars(made)[name].fset)
+
+
+def trees():
+    """The parsed files of the package, by name."""
+    return {file.name: ast.parse(file.read_text(encoding="utf-8")) for file in sorted(PACKAGE.glob("*.py"))}
+
+
+def nodes_of(kind):
+    """All nodes of this kind in the package."""
+    return [node for tree in trees().values() for node in ast.walk(tree) if isinstance(node, kind)]
+
+
+def decorators(function):
+    return [node.id for node in function.decorator_list]
 
 
 class FormTest(unittest.TestCase):
@@ -83,16 +129,41 @@ class FormTest(unittest.TestCase):
             self.assertLessEqual(len(lines), 399, file.name)
             self.assertLessEqual(max(map(len, lines)), 120, file.name)
             self.assertTrue(all(letter == "\n" or " " <= letter <= "~" for letter in text), file.name)
-            for node in ast.walk(ast.parse(text)):
-                if isinstance(node, ast.FunctionDef):
-                    self.assertLessEqual(node.end_lineno - node.lineno + 1, 40, f"{file.name}: {node.name}")
+        for node in nodes_of(ast.FunctionDef):
+            self.assertLessEqual(node.end_lineno - node.lineno + 1, 40, node.name)
 
-    def test_only_modules_of_the_package_are_imported(self):
-        for file in sorted(PACKAGE.glob("*.py")):
-            for node in ast.walk(ast.parse(file.read_text(encoding="utf-8"))):
-                self.assertNotIsInstance(node, ast.Import, file.name)
-                if isinstance(node, ast.ImportFrom):
-                    self.assertTrue(node.module.startswith("belowneeds."), file.name)
+    def test_only_modules_of_the_package_are_imported_and_no_two_from_each_other(self):
+        self.assertEqual(nodes_of(ast.Import), [])
+        above = {}
+        for name, tree in trees().items():
+            found = [node.module for node in tree.body if isinstance(node, ast.ImportFrom)]
+            self.assertTrue(all(module.startswith("belowneeds.") for module in found), name)
+            above[name] = {module.split(".")[1] + ".py" for module in found}
+        while above:
+            free = [name for name in above if not above[name] & set(above)]
+            self.assertTrue(free, f"these import from each other: {sorted(above)}")
+            above = {name: modules for name, modules in above.items() if name not in free}
+
+    def test_a_property_without_a_setter_is_no_assigned_attribute_and_no_method(self):
+        functions = nodes_of(ast.FunctionDef)
+        names = {node.name for node in functions if "property" in decorators(node)}
+        methods = {node.name for node in functions if "property" not in decorators(node)}
+        assigned = {node.attr for node in nodes_of(ast.Attribute) if isinstance(node.ctx, ast.Store)}
+        self.assertIn("begin", names)
+        self.assertEqual([names & assigned, names & methods], [set(), set()])
+
+    def test_no_attribute_has_the_name_of_a_method_and_no_generator_that_of_another_function(self):
+        functions = nodes_of(ast.FunctionDef)
+        assigned = {node.attr for node in nodes_of(ast.Attribute) if isinstance(node.ctx, ast.Store)}
+        self.assertEqual(assigned & {node.name for node in functions}, set())
+        yielding = [node.name for node in functions if any(isinstance(part, ast.Yield) for part in ast.walk(node))]
+        self.assertEqual(sorted(yielding), ["empty_cells", "nodes", "rows"])
+        for name in yielding:
+            self.assertEqual([node.name for node in functions].count(name), 1)
+
+    def test_no_generator_expressions_and_no_sort(self):
+        self.assertEqual(nodes_of(ast.GeneratorExp), [])
+        self.assertNotIn("sort", [node.attr for node in nodes_of(ast.Attribute)])
 
 
 if __name__ == "__main__":

@@ -1,15 +1,28 @@
-"""Points [2], [21], [22] and [24]: sheets, plans and words, as far as they are written."""
+"""Points [2], [21], [22], [24] and [25]: sheets, plans, words, and the texts of sheets."""
 
 import unittest
 
 from belowneeds.errors import (
-    InvalidColumns, InvalidKinds, InvalidNumber, InvalidPlan, InvalidTop, InvalidWhere, InvalidWord, UnknownColumn,
-    UnknownKind, UnknownPlace,
+    InvalidColumns, InvalidKinds, InvalidNumber, InvalidPlan, InvalidTop, InvalidWhere, InvalidWord, MissingError,
+    SheetError, UnknownColumn, UnknownKind, UnknownPlace,
 )
 from belowneeds.formulas import Choice, Down, Here, Number, Plus, Up
 from belowneeds.sheets import Sheet
-from examples import END, ITEM, ODD_VALUES, PLAN, blocks, caught, free_blocks, parts_of
+from examples import END, ITEM, ODD_VALUES, PLAN, TOTAL, CheckedCase, blocks, caught, free_blocks, peek, random_sheet
 
+BLOCKS_TEXT = """modulus 2
+columns n u
+top 0 0
+kind end
+0
+(up u + here n)
+kind item
+(down n + 1)
+(up u + here n)
+plan end 0 item 1
+plan end 0 item 2
+plan end 0
+"""
 ONE = {"n": Number(1)}
 
 
@@ -17,13 +30,7 @@ def small(modulus=2, columns=("n",), top=None, kinds=None, plan=None):
     return Sheet(modulus, columns, {"n": 0} if top is None else top, {"a": ONE} if kinds is None else kinds, plan)
 
 
-class SheetTest(unittest.TestCase):
-    def check(self, error, kind, /, **attributes):
-        self.assertIs(type(error), kind)
-        self.assertEqual(parts_of(error), attributes)
-
-
-class MadeTest(SheetTest):
+class MadeTest(CheckedCase):
     def test_parts(self):
         sheet = blocks()
         self.assertEqual([sheet.modulus, sheet.columns, sheet.places], [2, ("n", "u"), 3])
@@ -81,7 +88,7 @@ class MadeTest(SheetTest):
             self.assertTrue(sheet != other)
 
 
-class ErrorsTest(SheetTest):
+class ErrorsTest(CheckedCase):
     def test_modulus(self):
         for value in (*ODD_VALUES, 0, 1, 10, -2):
             self.check(caught(small, value), InvalidNumber, value=value)
@@ -148,7 +155,7 @@ class ErrorsTest(SheetTest):
         self.check(caught(Sheet, 2, ["n"], {"n": 1}, {"a": ONE}, []), InvalidPlan, place=None)
 
 
-class QueriesTest(SheetTest):
+class QueriesTest(CheckedCase):
     def test_formula(self):
         sheet = blocks()
         for value in (*ODD_VALUES, "n", "free"):
@@ -205,6 +212,94 @@ class QueriesTest(SheetTest):
         sheet = blocks()
         self.assertEqual([sheet.reads("up"), sheet.reads("down"), sheet.place_behind(["item", "item"]),
                           sheet.is_word(["item"] * 3)], [("u",), ("n",), 2, False])
+
+    def test_the_errors_are_of_their_classes(self):
+        for base, error in ((SheetError, InvalidPlan(0)), (SheetError, InvalidKinds("a", None)),
+                            (MissingError, UnknownKind("a")), (MissingError, UnknownColumn("a"))):
+            self.assertIsInstance(error, base)
+        self.assertTrue(issubclass(SheetError, ValueError) and issubclass(MissingError, LookupError))
+
+
+class OtherSheetsTest(CheckedCase):
+    def test_with_formula(self):
+        sheet = blocks()
+        changed = sheet.with_formula("end", "n", Number(1))
+        self.assertEqual(changed, Sheet(2, ["n", "u"], {"n": 0, "u": 0}, {"end": {**END, "n": Number(1)}, "item": ITEM},
+                                        PLAN))
+        self.assertEqual(sheet, blocks())
+        self.assertIs(type(changed), Sheet)
+        self.assertEqual(sheet.with_formula(formula=Up("n"), column="u", kind="item").formula("item", "u"), Up("n"))
+        self.assertEqual(changed.with_formula("end", "n", Number(0)), sheet)
+
+    def test_with_formula_refuses(self):
+        sheet = blocks()
+        for value in (*ODD_VALUES, "n", "free"):
+            self.check(caught(sheet.with_formula, value, "z", None), UnknownKind, value=value)
+        for value in (*ODD_VALUES, "item", "z"):
+            self.check(caught(sheet.with_formula, "item", value, None), UnknownColumn, value=value)
+        for value in (*ODD_VALUES, 1, "0", Number(2), Up("z"), Plus(Number(0), Here("end")),
+                      Choice(Number(0), (0, 2), Number(0), Number(0))):
+            self.check(caught(sheet.with_formula, "item", "u", value), InvalidKinds, kind="item", column="u")
+        self.assertEqual(sheet, blocks())
+
+    def test_with_top(self):
+        sheet = blocks()
+        self.assertEqual([sheet.with_top(u=1).top(), sheet.with_top(u=1, n=1).top(), sheet.with_top().top()],
+                         [{"n": 0, "u": 1}, {"n": 1, "u": 1}, {"n": 0, "u": 0}])
+        self.assertEqual(list(sheet.with_top(u=1, n=1).top()), ["n", "u"])
+        self.assertEqual([sheet.with_top(), sheet.with_top(n=1).with_top(n=0)], [sheet, sheet])
+        self.assertEqual(sheet.with_top(u=1), Sheet(2, ["n", "u"], {"n": 0, "u": 1}, {"end": END, "item": ITEM}, PLAN))
+        self.assertEqual(sheet, blocks())
+        with self.assertRaises(TypeError):
+            sheet.with_top({"u": 1})
+
+    def test_with_top_refuses(self):
+        sheet = blocks()
+        self.check(caught(sheet.with_top, z=0, u=7, b=None, n=7), UnknownColumn, value="b")
+        self.check(caught(sheet.with_top, **{"N": 0}), UnknownColumn, value="N")
+        self.check(caught(sheet.with_top, u=2, n=2), InvalidTop, column="n")
+        for value in (-1, 2, True, False, None, "0", [], {}):
+            self.check(caught(sheet.with_top, u=value), InvalidTop, column="u")
+
+    def test_free(self):
+        sheet = Sheet.free(9, ("c",), {"c": 8}, b={"c": Number(8)}, a={"c": Up("c")})
+        self.assertEqual(sheet, Sheet(9, ["c"], {"c": 8}, {"a": {"c": Up("c")}, "b": {"c": Number(8)}}, None))
+        self.check(caught(Sheet.free, 2, ["c"], {"c": 2}, **{"if": 0}), InvalidTop, column="c")
+        self.check(caught(Sheet.free, 2, ["c"], {"c": 1}, **{"if": 0}), InvalidKinds, kind=None, column=None)
+        self.check(caught(Sheet.free, 2, ["c"], {"c": 1}, b=0, a={"c": 1}), InvalidKinds, kind="a", column="c")
+
+
+class TextTest(CheckedCase):
+    def test_the_text_of_blocks(self):
+        self.assertEqual(str(blocks()), BLOCKS_TEXT)
+        self.assertEqual(str(free_blocks()), BLOCKS_TEXT[:BLOCKS_TEXT.index("plan")] + "plan end 0 item 0\n")
+
+    def test_texts_are_in_the_told_sequence(self):
+        row = {"a": Number(0), "z": Choice(Number(0), (0, 2), Up("a"), Down("z")), "m": Number(8)}
+        kinds = {"w": dict(reversed(row.items())), "b": row}
+        sheet = Sheet(9, ["z", "m", "a"], {"a": 1, "m": 2, "z": 3}, kinds, [{"w": 1, "b": 1}, {"w": 0}])
+        formulas = "if 0 in {0, 2} then up a else down z\n8\n0\n"
+        self.assertEqual(str(sheet), "modulus 9\ncolumns z m a\ntop 3 2 1\nkind b\n" + formulas + "kind w\n" + formulas
+                         + "plan b 1 w 1\nplan w 0\n")
+
+    def test_repr(self):
+        self.assertEqual([repr(blocks()), repr(small(9))],
+                         ["Sheet(2, ('n', 'u'), ['end', 'item'])", "Sheet(9, ('n',), ['a'])"])
+
+    def test_texts_tell_sheets_apart(self):
+        sheets = [blocks(), free_blocks(), peek(), blocks().with_top(u=1), *map(random_sheet, range(60))]
+        for one in sheets:
+            for other in sheets:
+                self.assertEqual(str(one) == str(other), one == other)
+
+    def test_formulas_in_a_text_are_their_texts(self):
+        for sheet in map(random_sheet, range(20)):
+            lines = str(sheet).split("\n")
+            for kind in sheet.kinds():
+                at = lines.index("kind " + kind)
+                self.assertEqual(lines[at + 1:at + 1 + len(sheet.columns)],
+                                 [str(sheet.formula(kind, column)) for column in sheet.columns])
+        self.assertIn(str(TOTAL), str(blocks()).split("\n"))
 
 
 if __name__ == "__main__":
