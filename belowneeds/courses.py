@@ -83,9 +83,7 @@ class Course:
         met = {}
         row = 1
         while (self._position(row), over) not in met:
-            # Only behind the lead do kinds come again.
-            if row > self._lead:
-                met[(self._position(row), over)] = row
+            met[(self._position(row), over)] = row
             under = self._source.under(over, self._word[self._position(row)], self.table(row + 1))
             self._rows.append(under.told)
             over = under.over

@@ -90,23 +90,22 @@ class Endless:
             return ([], None, 0)
         cells = []
         positions = {}
-        # The positions of the cells since the last one ahead of the begin, by what comes again.
+        # The last position of what comes again, among the cells behind the last one ahead of the begin.
         alike = {}
         cell = (row, column)
-        while True:
-            if cell in positions:
-                return (cells, positions[cell], 0)
+        while cell not in positions:
             key = (cell[1], cell[0] % self.period)
-            back = _last_above(cell, cells, alike.get(key, []))
-            if back is not None:
-                return (cells, back, cell[0] - cells[back][0])
+            # If the walk led up to it, it goes on so: no position ahead of the last one is in a row above.
+            if key in alike and cells[alike[key]][0] < cell[0]:
+                return (cells, alike[key], cell[0] - cells[alike[key]][0])
             if cell[0] < self.begin:
                 alike = {}
             else:
-                alike.setdefault(key, []).append(len(cells))
+                alike[key] = len(cells)
             positions[cell] = len(cells)
             cells.append(cell)
             cell = self._sights.next_of(cell)
+        return (cells, positions[cell], 0)
 
     def __eq__(self, other):
         return isinstance(other, Endless) and self._sheet == other._sheet and self._fill == other._fill
@@ -119,11 +118,3 @@ class Endless:
 def _check_row(row, last):
     if not is_between(row, 1, last):
         raise InvalidRow(row)
-
-
-def _last_above(cell, cells, positions):
-    """The greatest of these positions of a cell in a row above this one, or None."""
-    for position in positions[::-1]:
-        if cells[position][0] < cell[0]:
-            return position
-    return None

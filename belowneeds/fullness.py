@@ -33,10 +33,7 @@ def sheet_delay(sheet, *, limit=MAX_TABLES):
 
 def late_word(sheet, column, *, limit=MAX_TABLES):
     """A tuple (word, row) that shows that the delay is not less, as at the end of a full paper [63], or None."""
-    check_column(column, sheet)
-    check_count(limit)
-    layers = Layers(sheet, limit)
-    standings = Standings(sheet, layers)
+    layers, standings = _asked_of(sheet, column, limit)
     delay = delays_of(sheet, layers, standings)[column]
     if delay is None or delay == 0:
         return None
@@ -47,20 +44,14 @@ def late_word(sheet, column, *, limit=MAX_TABLES):
 
 def first_open_row(sheet, column, *, limit=MAX_TABLES):
     """The least row in which the cell has none in the sheet of some allowed fill; None for a full column."""
-    check_column(column, sheet)
-    check_count(limit)
-    layers = Layers(sheet, limit)
-    standings = Standings(sheet, layers)
+    layers, standings = _asked_of(sheet, column, limit)
     below = first_below(standings, layers, column, None)
     return None if below is None else standings.nearest(below.index)
 
 
 def open_fill(sheet, column, *, limit=MAX_TABLES):
     """A fill in whose sheet the cell in the first open row has none; None for a full column."""
-    check_column(column, sheet)
-    check_count(limit)
-    layers = Layers(sheet, limit)
-    standings = Standings(sheet, layers)
+    layers, standings = _asked_of(sheet, column, limit)
     below = first_below(standings, layers, column, None)
     if below is None:
         return None
@@ -70,7 +61,8 @@ def open_fill(sheet, column, *, limit=MAX_TABLES):
 
 def delays_of(sheet, layers, standings):
     """A dict from all columns to their delays, or None."""
-    # A cell that has none above a table of the layers ahead of d needs d rows below; above a live one it is open.
+    # A cell without a value above a table with the out number d needs d rows below; above a live table it may
+    # never have one.
     found = {column: 0 for column in sheet.columns}
     for below in standings.belows():
         out = layers.out_of(below.number)
@@ -100,6 +92,14 @@ def live_chain(layers, number):
         kinds.append(kind)
     begin = positions[number]
     return kinds[:begin], kinds[begin:]
+
+
+def _asked_of(sheet, column, limit):
+    """The layers and the standings of a sheet, if this column can be asked for."""
+    check_column(column, sheet)
+    check_count(limit)
+    layers = Layers(sheet, limit)
+    return layers, Standings(sheet, layers)
 
 
 def _longest_word(layers, number):

@@ -1,6 +1,6 @@
 """Layers of tables and standings [43] [44], told of a sheet."""
 
-from belowneeds.aboves import check_entries, in_order
+from belowneeds.aboves import in_order
 from belowneeds.checks import is_count
 from belowneeds.errors import InvalidCount
 from belowneeds.layering import Layers
@@ -78,7 +78,6 @@ def first_word(layers, number):
 def _layers_for(sheet, place, table, limit):
     """The layers of the sheet, if all of this can be asked of them."""
     check_place(place, sheet)
-    check_entries(sheet)
     check_table(table, sheet)
     check_count(limit)
     return Layers(sheet, limit)

@@ -1,9 +1,9 @@
 """Sheets [21], with their plans and words [22]."""
 
 from belowneeds.checks import is_list
-from belowneeds.errors import InvalidKinds, InvalidWord
+from belowneeds.errors import InvalidWord
 from belowneeds.sheet_checks import check_column, check_columns, check_kind, check_kinds, check_modulus
-from belowneeds.sheet_checks import check_place, check_plan, check_top, is_formula_of
+from belowneeds.sheet_checks import check_place, check_plan, check_top
 
 
 class Sheet:
@@ -91,8 +91,6 @@ class Sheet:
     def with_formula(self, kind, column, formula):
         """The sheet with another formula for this kind and column."""
         self.formula(kind, column)
-        if not is_formula_of(formula, self._columns, self._modulus):
-            raise InvalidKinds(kind, column)
         kinds = {other: dict(row) for other, row in self._kinds.items()}
         kinds[kind][column] = formula
         return Sheet(self._modulus, self._columns, self._top, kinds, self._plan)

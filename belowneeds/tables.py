@@ -50,7 +50,6 @@ def row_under(sheet, above, kind, table):
 def table_above(sheet, kind, table):
     """The table above a table, for a kind."""
     check_kind(kind, sheet)
-    check_entries(sheet)
     check_table(table, sheet)
     return RowsUnder(sheet).table_above(kind, table)
 
@@ -68,7 +67,7 @@ def table_of(sheet, word, *, place=0, foot=None):
 
 
 def check_table(value, sheet):
-    """Refuses what is no rising table of the sheet."""
+    """Refuses a sheet with too many aboves, and then what is no rising table of it."""
     if not is_rising(sheet, value):
         raise InvalidTable(value)
 

@@ -10,7 +10,7 @@ from belowneeds.errors import InvalidCount, InvalidRow, NotAllowed, StateError, 
 from belowneeds.fills import Fill
 from belowneeds.formulas import Choice, Down, Formula, Here, Number, Plus, Up
 from belowneeds.sheets import Sheet
-from belowneeds.tables import table_of
+from belowneeds.tables import row_under, table_of
 from examples import (
     END, ITEM, ODD_VALUES, CheckedCase, blocks, caught, free_blocks, late_sheet, planned_sheet, random_fill, random_sheet,
 )
@@ -142,6 +142,34 @@ class EndlessTest(CheckedCase):
                 self.assertEqual([endless.value_at(row, column) for column in sheet.columns],
                                  list(endless.row_values(near).values()))
                 self.assertEqual(endless.true_table(row), endless.true_table(near))
+
+    def test_rows_filled_in_one_by_one(self):
+        for sheet, fill, endless in list(many_sheets())[::6]:
+            above = tuple(over(endless, 1))
+            cut = Cut(sheet, fill.first(400))
+            for row in range(1, 361):
+                told = row_under(sheet, above, fill.kind_at(row), endless.true_table(row + 1))
+                self.assertEqual(endless.row_values(row), told)
+                self.assertEqual(cut.row_values(row), told)
+                above = tuple(told[column] for column in sheet.reads("up"))
+
+    def test_a_long_period_filled_in_one_by_one(self):
+        read = Formula.read
+        kinds = {"x": {"a": read("(up a + 1)"), "b": read("if up a in {7} then ((up b + up a) + 3) else up b")},
+                 "y": {"a": read("up a"), "b": read("(up b + 2)")}}
+        sheet = Sheet(9, ["a", "b"], {"a": 4, "b": 4}, kinds)
+        fill = Fill(["y"] * 5, ["x"] * 7 + ["y"] * 3)
+        endless = Endless(sheet, fill)
+        rows, row = [], sheet.top()
+        for number in range(1, 3001):
+            kind = fill.kind_at(number)
+            row = {column: sheet.formula(kind, column).work_out(9, row, {}, {}) for column in "ab"}
+            rows.append(row)
+        self.assertEqual([endless.row_values(number) for number in range(1, 3001)], rows)
+        begin, period = endless.begin, endless.period
+        self.assertGreater(period, 10)
+        self.assertEqual(endless.row_values(FAR), rows[begin + (FAR - begin) % period - 1])
+        self.assertEqual(endless.depth_at(400, "b"), 0)
 
     def test_first_empty(self):
         for sheet, _, endless in many_sheets():

@@ -62,6 +62,16 @@ class ExamplesTest(CheckedCase):
         word, row = late_word(peek(), "p")
         self.assertIsNone(Cut(peek(), word).value_at(row, "p"))
 
+    def test_sheets_without_columns_that_are_read(self):
+        no_up = Sheet.free(2, ["a", "b"], {"a": 0, "b": 0}, x={"a": Down("b"), "b": Number(1)})
+        self.assertEqual([delays(no_up), late_word(no_up, "a")], [{"a": 1, "b": 0}, (["x"], 1)])
+        no_down = Sheet.free(2, ["a", "b"], {"a": 0, "b": 0}, x={"a": Up("b"), "b": Here("b")}, y={"a": Number(0), "b": Number(0)})
+        self.assertEqual([delays(no_down), first_open_row(no_down, "a"), first_open_row(no_down, "b")],
+                         [{"a": None, "b": None}, 2, 1])
+        neither = Sheet.free(2, ["a", "b"], {"a": 0, "b": 0}, x={"a": Here("b"), "b": Here("a")})
+        self.assertEqual([delays(neither), sheet_delay(neither), open_fill(neither, "a")],
+                         [{"a": None, "b": None}, None, Fill.of("x")])
+
     def test_a_later_first_open_row(self):
         rows = {"a": {"c": Number(1)}, "s": {"c": Here("c")}}
         sheet = Sheet(2, ["c"], {"c": 0}, rows, [{"a": 1}, {"a": 2}, {"a": 2, "s": 2}])
