@@ -3,7 +3,7 @@
 from belowneeds.checks import is_between
 from belowneeds.errors import InvalidRow, TooMany
 from belowneeds.sheet_checks import check_column, check_foot
-from belowneeds.sights import Sights
+from belowneeds.sights import CutSights
 from belowneeds.solving import Solution
 
 MAX_ROWS = 400
@@ -21,9 +21,9 @@ class Cut:
         self._sheet = sheet
         self._word = tuple(word)
         self._foot = None if foot is None else {column: foot[column] for column in sheet.columns}
-        self._solution = Solution(sheet, {} if foot is None else self._foot)
+        self._solution = Solution(sheet, self._foot)
         self._rounds = self._solution.add_rows(self._word)
-        self._sights = Sights(self._solution)
+        self._sights = CutSights(self._solution, sheet.columns)
 
     @property
     def sheet(self):
@@ -48,7 +48,7 @@ class Cut:
     def value_at(self, row, column):
         """The value of the cell, or None."""
         self._check_cell(row, column)
-        return self._solution.row_values(row)[column]
+        return self._sights.value_at(self._sights.position_of(row, column))
 
     def row_values(self, row):
         """The values of the row, or None: a dict in the sequence of the columns."""
@@ -65,32 +65,25 @@ class Cut:
     def next_of(self, row, column):
         """The next [32] of the cell, a tuple (row, column), or None for a cell with a value."""
         self._check_cell(row, column)
-        return self._sights.next_of((row, column))
+        following = self._solution.next_of(self._sights.position_of(row, column))
+        return None if following is None else self._sights.cell_at(following)
 
     def walk(self, row, column):
         """The walk [32], and the position to which it comes back, or None if it leads beyond the last row."""
-        cells = []
-        if self.value_at(row, column) is not None:
-            return (cells, None)
-        positions = {}
-        cell = (row, column)
-        while cell not in positions and self._solution.has_row(cell[0]):
-            positions[cell] = len(cells)
-            cells.append(cell)
-            cell = self._sights.next_of(cell)
-        return (cells, positions.get(cell))
+        self._check_cell(row, column)
+        return self._sights.walk(self._sights.position_of(row, column))
 
     def cells_met(self, row, column):
         """The sorted list of the cells met [33], without any for a cell that has no value."""
         if self.value_at(row, column) is None:
             return []
-        return self._sights.all_met((row, column))
+        return self._sights.all_met(self._sights.position_of(row, column))
 
     def depth_at(self, row, column):
         """The depth [33], or None for a cell that has no value."""
         if self.value_at(row, column) is None:
             return None
-        return self._sights.lowest((row, column)) - row
+        return self._sights.lowest_row(self._sights.position_of(row, column)) - row
 
     def __len__(self):
         return len(self._word)

@@ -1,11 +1,10 @@
 """Endless sheets [51]: the sheets of fills."""
 
 from belowneeds.checks import is_between
-from belowneeds.courses import Course
+from belowneeds.courses import Course, CourseSights
 from belowneeds.errors import InvalidCount, InvalidRow, NotAllowed
 from belowneeds.fills import LAST_ROW, first_refused
 from belowneeds.sheet_checks import check_column
-from belowneeds.sights import Sights
 
 LAST_LOOKED_AT = 400
 MOST_ROWS = 2000
@@ -21,7 +20,7 @@ class Endless:
         self._sheet = sheet
         self._fill = fill
         self._course = Course(sheet, fill)
-        self._sights = Sights(self._course)
+        self._sights = CourseSights(self._course)
 
     @property
     def sheet(self):
@@ -81,7 +80,7 @@ class Endless:
     def next_of(self, row, column):
         """The next of the cell, a tuple (row, column), or None for a cell with a value."""
         self._check_cell(row, column)
-        return self._sights.next_of((row, column))
+        return self._course.next_of((row, column))
 
     def walk(self, row, column):
         """A tuple (cells, back, shift) that tells the walk [53]; ([], None, 0) for a cell with a value."""
@@ -104,7 +103,7 @@ class Endless:
                 alike[key] = len(cells)
             positions[cell] = len(cells)
             cells.append(cell)
-            cell = self._sights.next_of(cell)
+            cell = self._course.next_of(cell)
         return (cells, positions[cell], 0)
 
     def __eq__(self, other):

@@ -15,7 +15,7 @@ class Filler:
         # What was taken; behind the end of a trial, until something is asked that changes the filler, also
         # what was taken within it.
         self._taken = []
-        self._solution = Solution(sheet, {})
+        self._solution = Solution(sheet, None)
         # One level outside of all trials, and one for each trial that was begun.
         self._levels = [Progress(0, 0, 0, 0)]
         # A mark for each of these trials that has ended.
@@ -60,7 +60,7 @@ class Filler:
         progress = self._progress()
         other = Filler(self._sheet)
         other._taken = list(self._taken)
-        other._solution = self._solution.copied()
+        other._solution = self._solution.copied(self._sheet)
         other._levels = [Progress(progress.place, progress.taken, progress.out, 0)]
         return other
 
@@ -82,7 +82,7 @@ class Filler:
             progress = self._progress()
             del self._levels[len(self._levels) - len(self._ended):]
             del self._taken[progress.taken:]
-            self._solution.take_back(progress.changed)
+            self._solution.take_back(progress.changed, progress.taken)
             self._ended.clear()
 
     def _place_behind(self, progress, kinds):

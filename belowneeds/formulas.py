@@ -212,7 +212,7 @@ class Pair(Formula):
         right = self.right._worth(number + 1 + self.left._many, around)
         if right is None:
             return None
-        return self._joined(left, right, around[0])
+        return self.joined(left, right, around[0])
 
 
 class Plus(Pair):
@@ -224,7 +224,8 @@ class Plus(Pair):
     def _as_text(self):
         return f"({self.left} + {self.right})"
 
-    def _joined(self, left, right, modulus):
+    def joined(self, left, right, modulus):
+        """The value of two values."""
         return (left + right) % modulus
 
     def _of_parts(self, parts):
@@ -240,7 +241,8 @@ class Least(Pair):
     def _as_text(self):
         return f"least({self.left}, {self.right})"
 
-    def _joined(self, left, right, modulus):
+    def joined(self, left, right, modulus):
+        """The value of two values."""
         return min(left, right)
 
     def _of_parts(self, parts):
@@ -256,7 +258,8 @@ class Most(Pair):
     def _as_text(self):
         return f"most({self.left}, {self.right})"
 
-    def _joined(self, left, right, modulus):
+    def joined(self, left, right, modulus):
+        """The value of two values."""
         return max(left, right)
 
     def _of_parts(self, parts):
@@ -272,7 +275,8 @@ class Same(Pair):
     def _as_text(self):
         return f"({self.left} = {self.right})"
 
-    def _joined(self, left, right, modulus):
+    def joined(self, left, right, modulus):
+        """The value of two values."""
         return 1 if left == right else 0
 
     def _of_parts(self, parts):
@@ -296,8 +300,8 @@ class Choice(Formula):
         self.other = other
 
     def _as_text(self):
-        listed = "{" + ", ".join([str(number) for number in self.chosen]) + "}"
-        return f"if {self.test} in {listed} then {self.then} else {self.other}"
+        listed = ", ".join([str(number) for number in self.chosen])
+        return f"if {self.test} in {{{listed}}} then {self.then} else {self.other}"
 
     def _fits_itself(self, modulus, columns):
         # They ascend, so the last one is the greatest.

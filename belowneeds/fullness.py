@@ -1,10 +1,10 @@
 """Full and open columns [61], their delays, and first open rows [62]."""
 
 from belowneeds.fills import Fill
-from belowneeds.layering import Layers
+from belowneeds.layering import layers_of
 from belowneeds.layers import MAX_TABLES, check_count
 from belowneeds.sheet_checks import check_column
-from belowneeds.standing import Standings
+from belowneeds.standing import live_chain, standings_of
 
 
 def is_full(sheet, column, *, limit=MAX_TABLES):
@@ -21,8 +21,10 @@ def column_delay(sheet, column, *, limit=MAX_TABLES):
 def delays(sheet, *, limit=MAX_TABLES):
     """A dict from all columns, in sequence, to their delays, or None for an open one."""
     check_count(limit)
-    layers = Layers(sheet, limit)
-    return delays_of(sheet, layers, Standings(sheet, layers))
+    standings = standings_of(sheet, limit)
+    if "delays" not in sheet.kept:
+        sheet.kept["delays"] = _delays_of(sheet, layers_of(sheet, limit), standings)
+    return dict(sheet.kept["delays"])
 
 
 def sheet_delay(sheet, *, limit=MAX_TABLES):
@@ -32,74 +34,71 @@ def sheet_delay(sheet, *, limit=MAX_TABLES):
 
 
 def late_word(sheet, column, *, limit=MAX_TABLES):
-    """A tuple (word, row) that shows that the delay is not less, as at the end of a full paper [63], or None."""
-    layers, standings = _asked_of(sheet, column, limit)
-    delay = delays_of(sheet, layers, standings)[column]
+    """A tuple (word, row) that shows that the delay is not less, as at the end of a full paper [63], or None.
+
+    No other such word is shorter: in each of them just as many rows are below the row, and it is the nearest one.
+    """
+    delay = column_delay(sheet, column, limit=limit)
     if delay is None or delay == 0:
         return None
-    below = first_below(standings, layers, column, delay)
+    layers, standings = layers_of(sheet, limit), standings_of(sheet, limit)
+    below = _first_empty(sheet, column, limit, delay)
     word = [*standings.word_to(below.index), below.kind, *_longest_word(layers, below.number)]
     return (word, standings.nearest(below.index))
 
 
 def first_open_row(sheet, column, *, limit=MAX_TABLES):
     """The least row in which the cell has none in the sheet of some allowed fill; None for a full column."""
-    layers, standings = _asked_of(sheet, column, limit)
-    below = first_below(standings, layers, column, None)
-    return None if below is None else standings.nearest(below.index)
+    if column_delay(sheet, column, limit=limit) is not None:
+        return None
+    below = _first_empty(sheet, column, limit, None)
+    return standings_of(sheet, limit).nearest(below.index)
 
 
 def open_fill(sheet, column, *, limit=MAX_TABLES):
     """A fill in whose sheet the cell in the first open row has none; None for a full column."""
-    layers, standings = _asked_of(sheet, column, limit)
-    below = first_below(standings, layers, column, None)
-    if below is None:
+    if column_delay(sheet, column, limit=limit) is not None:
         return None
+    return fill_through(layers_of(sheet, limit), standings_of(sheet, limit), _first_empty(sheet, column, limit, None))
+
+
+def fill_through(layers, standings, below):
+    """A fill whose rows lead to this one, as near to row 1 as can be, and to its table below, or to less than that."""
     lead, turn = live_chain(layers, below.number)
     return Fill([*standings.word_to(below.index), below.kind, *lead], turn)
 
 
-def delays_of(sheet, layers, standings):
+def first_open_column(sheet, limit):
+    """The first column, in sequence, that is open, or None."""
+    for column, delay in delays(sheet, limit=limit).items():
+        if delay is None:
+            return column
+    return None
+
+
+def _delays_of(sheet, layers, standings):
     """A dict from all columns to their delays, or None."""
     # A cell without a value above a table with the out number d needs d rows below; above a live table it may
     # never have one.
     found = {column: 0 for column in sheet.columns}
     for below in standings.belows():
         out = layers.out_of(below.number)
-        for column in below.row.empty:
-            if out is None or found[column] is None:
-                found[column] = None
-            else:
-                found[column] = max(found[column], out)
+        for column, value in zip(sheet.columns, below.row.cells):
+            if value < 0:
+                if out is None or found[column] is None:
+                    found[column] = None
+                else:
+                    found[column] = max(found[column], out)
     return found
 
 
-def first_below(standings, layers, column, out):
-    """The nearest row to row 1 in which the cell has none above a table with this out number, or None."""
-    for below in standings.belows():
-        if layers.out_of(below.number) == out and column in below.row.empty:
-            return below
-    return None
-
-
-def live_chain(layers, number):
-    """The lead and the turn of a fill of whose tables none shows more than those that lead from this live pair."""
-    kinds = []
-    positions = {}
-    while number not in positions:
-        positions[number] = len(kinds)
-        kind, number = [way for way in layers.ways(number) if layers.out_of(way[1]) is None][0]
-        kinds.append(kind)
-    begin = positions[number]
-    return kinds[:begin], kinds[begin:]
-
-
-def _asked_of(sheet, column, limit):
-    """The layers and the standings of a sheet, if this column can be asked for."""
-    check_column(column, sheet)
-    check_count(limit)
-    layers = Layers(sheet, limit)
-    return layers, Standings(sheet, layers)
+def _first_empty(sheet, column, limit, out):
+    """The nearest row to row 1 in which the cell has none above a table with this out number."""
+    layers = layers_of(sheet, limit)
+    number = sheet.columns.index(column)
+    return standings_of(sheet, limit).first_below(
+        lambda below: layers.out_of(below.number) == out and below.row.cells[number] < 0
+    )
 
 
 def _longest_word(layers, number):

@@ -1,32 +1,53 @@
 """Layers [43]: the tables of words, place by place, and how long they can stay."""
 
 from belowneeds.errors import TooMany
-from belowneeds.rows_under import RowsUnder
+from belowneeds.rows_under import rows_of
 
 
 class Layers:
     """The pairs (place, table) of layer 0, by numbers, and which of them stand above which."""
 
-    def __init__(self, sheet, limit):
-        """Refuses a sheet with more pairs than the limit."""
-        self._rows = RowsUnder(sheet)
-        self._limit = limit
+    def __init__(self, plan, source):
+        """The source tells which tables stand above which. Nothing but the blank tables is found yet."""
+        self._many_places = len(plan)
+        self._source = source
+        self._ways_to = ways_to(plan)
         self._pairs = []
         self._numbers = {}
         self._shortest = []
         self._ways = []
-        for place in range(sheet.places):
-            self._numbered((place, self._rows.blank()), 0)
-        self._find_all(ways_to(sheet.plan()))
-        self._outs = outs_of(self._ways)
+        # So many pairs were asked for what stands above them.
+        self._done = 0
+        self._outs = None
+        for place in range(self._many_places):
+            self._add(place, source.blank(), 0)
 
-    def pairs(self):
-        """The list of the tuples (place, table)."""
-        return list(self._pairs)
+    def find_all(self, what, limit):
+        """Finds all pairs; refuses more of them than the limit."""
+        # What is found does not hang on the limit, so that it can be gone on with from here.
+        while self._done < len(self._pairs) and len(self._pairs) <= limit:
+            self._find_above(self._done)
+            self._done += 1
+        if len(self._pairs) > limit:
+            raise TooMany(what, limit)
+        if self._outs is None:
+            self._outs = outs_of(self._ways)
+
+    def source(self):
+        """What tells which tables stand above which."""
+        return self._source
+
+    def many_pairs(self):
+        """The number of pairs."""
+        return len(self._pairs)
+
+    def pair(self, number):
+        """The tuple (place, number of a table)."""
+        return self._pairs[number]
 
     def number_of(self, place, table):
         """The number of a pair, or None if layer 0 has it not."""
-        return self._numbers.get((place, table))
+        return self._numbers.get(table * self._many_places + place)
 
     def out_of(self, number):
         """The out number of a pair, or None if it is live."""
@@ -44,31 +65,44 @@ class Layers:
         """The number of the first layer that is equal to the next one."""
         return max([out for out in self._outs if out is not None], default=0)
 
-    def row_under(self, above, kind, number):
-        """The row under an above, of a kind, with the table of a pair below."""
-        _, table = self._pairs[number]
-        return self._rows.under(above, kind, table)
+    def told(self, number):
+        """A tuple of the place, the table and, if there are two sheets, the table of the other one."""
+        place, table = self._pairs[number]
+        return (place, *self._source.told_table(table))
 
-    def _find_all(self, ways):
-        """Finds the pairs in the sequence of the lengths of their shortest words."""
-        done = 0
-        while done < len(self._pairs):
-            place, table = self._pairs[done]
-            for before, kind in ways[place]:
-                pair = (before, self._rows.table_above(kind, table))
-                number = self._numbered(pair, self._shortest[done] + 1)
-                self._ways[number].append((kind, done))
-            done += 1
+    def sorted_numbers(self):
+        """The numbers of the pairs, sorted by place, then by table."""
+        keys = [(place, self._source.in_order(table)) for place, table in self._pairs]
+        return [number for _, number in sorted([(key, number) for number, key in enumerate(keys)])]
 
-    def _numbered(self, pair, length):
-        if pair not in self._numbers:
-            if len(self._pairs) >= self._limit:
-                raise TooMany("tables", self._limit)
-            self._numbers[pair] = len(self._pairs)
-            self._pairs.append(pair)
-            self._shortest.append(length)
-            self._ways.append([])
-        return self._numbers[pair]
+    def _find_above(self, done):
+        """Finds the pairs above one; the shortest words of what is found first are the shortest ones."""
+        place, table = self._pairs[done]
+        length = self._shortest[done] + 1
+        for before, kind in self._ways_to[place]:
+            over = self._source.table_above(kind, table)
+            number = self._numbers.get(over * self._many_places + before)
+            if number is None:
+                number = self._add(before, over, length)
+            self._ways[number].append((kind, done))
+
+    def _add(self, place, table, length):
+        number = len(self._pairs)
+        self._numbers[table * self._many_places + place] = number
+        self._pairs.append((place, table))
+        self._shortest.append(length)
+        self._ways.append([])
+        return number
+
+
+def layers_of(sheet, limit):
+    """The layers of a sheet, which are found once; refuses more pairs than the limit."""
+    source = rows_of(sheet)
+    if "layers" not in sheet.kept:
+        sheet.kept["layers"] = Layers(sheet.plan(), source)
+    layers = sheet.kept["layers"]
+    layers.find_all("tables", limit)
+    return layers
 
 
 def ways_to(plan):

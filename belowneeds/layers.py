@@ -1,12 +1,12 @@
 """Layers of tables and standings [43] [44], told of a sheet."""
 
-from belowneeds.aboves import in_order
 from belowneeds.checks import is_count
 from belowneeds.errors import InvalidCount
-from belowneeds.layering import Layers
+from belowneeds.layering import layers_of
+from belowneeds.rows_under import rows_of
 from belowneeds.sheet_checks import check_place
-from belowneeds.standing import Standings
-from belowneeds.tables import check_table
+from belowneeds.standing import standings_of
+from belowneeds.tables import numbered_table
 
 MAX_TABLES = 400
 
@@ -14,31 +14,28 @@ MAX_TABLES = 400
 def layer_tables(sheet, *, limit=MAX_TABLES):
     """The sorted list of the tuples (place, table, out) of layer 0."""
     check_count(limit)
-    layers = Layers(sheet, limit)
-    pairs = layers.pairs()
-    return [(*pairs[number], layers.out_of(number)) for number in _sorted_numbers(layers)]
+    return told_layers(layers_of(sheet, limit))
 
 
 def still_from(sheet, *, limit=MAX_TABLES):
     """The number of the first layer that is equal to the next one."""
     check_count(limit)
-    return Layers(sheet, limit).still()
+    return layers_of(sheet, limit).still()
 
 
 def ways(sheet, place, table, *, limit=MAX_TABLES):
     """The sorted list of the tuples (kind, place, table) of layer 0 above which the passed table stands."""
-    layers = _layers_for(sheet, place, table, limit)
-    number = layers.number_of(place, table)
+    layers, number = _pair_of(sheet, place, table, limit)
     if number is None:
         return []
-    pairs = layers.pairs()
-    return sorted([(kind, *pairs[other]) for kind, other in layers.ways(number)], key=in_order)
+    ranks = {other: rank for rank, other in enumerate(layers.sorted_numbers())}
+    found = sorted([(kind, ranks[other], other) for kind, other in layers.ways(number)])
+    return [(kind, *layers.told(other)) for kind, _, other in found]
 
 
 def word_of(sheet, place, table, *, limit=MAX_TABLES):
     """The first of the shortest words that are allowed from the place and have this table, or None."""
-    layers = _layers_for(sheet, place, table, limit)
-    number = layers.number_of(place, table)
+    layers, number = _pair_of(sheet, place, table, limit)
     return None if number is None else first_word(layers, number)
 
 
@@ -46,21 +43,18 @@ def standings(sheet, many, *, limit=MAX_TABLES):
     """The sorted list of the standings of this layer."""
     check_count(many)
     check_count(limit)
-    layers = Layers(sheet, limit)
-    ranks = {number: rank for rank, number in enumerate(_sorted_numbers(layers))}
-    pairs = layers.pairs()
-    told = {}
-    for above, number in Standings(sheet, layers).found():
-        if layers.out_of(number) is None or layers.out_of(number) > many + 1:
-            place, table = pairs[number]
-            told[(place, in_order(above), ranks[number])] = (place, above, table)
-    return [told[key] for key in sorted(told)]
+    return standings_of(sheet, limit).sorted_told(many)
 
 
 def check_count(value):
     """Refuses what is no count."""
     if not is_count(value):
         raise InvalidCount(value)
+
+
+def told_layers(layers):
+    """The sorted list of the tuples (place, table or tables, out) of layer 0."""
+    return [(*layers.told(number), layers.out_of(number)) for number in layers.sorted_numbers()]
 
 
 def first_word(layers, number):
@@ -75,15 +69,10 @@ def first_word(layers, number):
     return word
 
 
-def _layers_for(sheet, place, table, limit):
-    """The layers of the sheet, if all of this can be asked of them."""
+def _pair_of(sheet, place, table, limit):
+    """The layers of the sheet, and the number of the pair or None, if all of this can be asked of them."""
     check_place(place, sheet)
-    check_table(table, sheet)
+    number = numbered_table(table, sheet)
     check_count(limit)
-    return Layers(sheet, limit)
-
-
-def _sorted_numbers(layers):
-    """The numbers of the pairs, sorted by place, then by table."""
-    told = [(in_order(pair), number) for number, pair in enumerate(layers.pairs())]
-    return [number for _, number in sorted(told)]
+    layers = layers_of(sheet, limit)
+    return layers, layers.number_of(place, number)

@@ -1,7 +1,7 @@
 """Sheets [21], with their plans and words [22]."""
 
-from belowneeds.checks import is_list
-from belowneeds.errors import InvalidWord
+from belowneeds.checks import is_list, is_where
+from belowneeds.errors import InvalidWhere, InvalidWord
 from belowneeds.sheet_checks import check_column, check_columns, check_kind, check_kinds, check_modulus
 from belowneeds.sheet_checks import check_place, check_plan, check_top
 
@@ -24,6 +24,8 @@ class Sheet:
         self._top = {column: top[column] for column in columns}
         self._kinds = {kind: {column: kinds[kind][column] for column in columns} for kind in sorted(kinds)}
         self._plan = [{kind: leads[kind] for kind in sorted(leads)} for leads in places]
+        # What was found out about the sheet, so that it is not found out again. It is no part of it.
+        self.kept = {}
 
     @classmethod
     def free(cls, modulus, columns, top, **kinds):
@@ -65,9 +67,13 @@ class Sheet:
 
     def reads(self, where):
         """The tuple of the columns, in sequence, that the sheet reads so [24]."""
-        formulas = [formula for row in self._kinds.values() for formula in row.values()]
-        found = [column for formula in formulas for column in formula.columns_read(where)]
-        return tuple([column for column in self._columns if column in found])
+        if not is_where(where):
+            raise InvalidWhere(where)
+        if where not in self.kept:
+            formulas = [formula for row in self._kinds.values() for formula in row.values()]
+            found = [column for formula in formulas for column in formula.columns_read(where)]
+            self.kept[where] = tuple([column for column in self._columns if column in found])
+        return self.kept[where]
 
     def allowed(self, place):
         """The sorted list of the kinds that are allowed at this place."""
@@ -106,7 +112,7 @@ class Sheet:
         return isinstance(other, Sheet) and self._all_parts() == other._all_parts()
 
     def __str__(self):
-        return "".join([line + "\n" for line in self._lines()])
+        return "".join([f"{line}\n" for line in self._lines()])
 
     def __repr__(self):
         kinds = list(self._kinds)

@@ -1,55 +1,72 @@
-"""Which cells the cells of some rows look at [32] [33], at once or by way of others."""
-
-from belowneeds.solving import STEPS
+"""Which cells of a cut its cells look at [32] [33], at once or by way of others."""
 
 
-class Sights:
-    """What the cells of rows look at; each formula is worked out once."""
+class CutSights:
+    """What the cells of a cut look at; the cells are positions in the list of its solution."""
 
-    def __init__(self, rows):
-        """The rows tell which of them there are, and what each cell looks at: has_row and cell_looked."""
-        self._among = rows
-        self._found = {}
-        self._lowest = {}
+    def __init__(self, solution, columns):
+        self._solution = solution
+        self._heads = columns
+        self._many = len(columns)
+        self._numbers = {column: number for number, column in enumerate(columns)}
+        # For each cell with a value, the greatest row that it meets; found when it is asked for.
+        self._lowest = None
 
-    def next_of(self, cell):
-        """The cell to which the need of the formula leads, in a row or beyond them; None for a value."""
-        value, cells = self._looked(cell)
-        return cells[-1] if value is None else None
+    def position_of(self, row, column):
+        """The position of a cell."""
+        return row * self._many + self._numbers[column]
 
-    def lowest(self, cell):
+    def cell_at(self, at):
+        """The tuple (row, column) for a position."""
+        return (at // self._many, self._heads[at % self._many])
+
+    def value_at(self, at):
+        """The value at a position, or None."""
+        value = self._solution.cells[at]
+        return None if value < 0 else value
+
+    def walk(self, at):
+        """The cells of the walk and the position to which it comes back, or None."""
+        cells = []
+        if self.value_at(at) is not None:
+            return (cells, None)
+        positions = {}
+        while at not in positions and self._solution.has_cell(at):
+            positions[at] = len(cells)
+            cells.append(self.cell_at(at))
+            at = self._solution.next_of(at)
+        return (cells, positions.get(at))
+
+    def lowest_row(self, at):
         """The greatest row among the cells that a cell with a value meets."""
-        waiting = [cell]
-        while waiting:
-            cells = self._met_at_once(waiting[-1])
-            missing = [other for other in cells if other not in self._lowest]
-            if missing:
-                waiting.extend(missing)
-            else:
-                row, column = waiting.pop()
-                self._lowest[(row, column)] = max([row, *[self._lowest[other] for other in cells]])
-        return self._lowest[cell]
+        if self._lowest is None:
+            self._lowest = self._all_lowest()
+        return self._lowest[at]
 
-    def all_met(self, cell):
+    def all_met(self, at):
         """The sorted list of the cells that a cell with a value meets."""
-        met = {cell: True}
-        waiting = [cell]
-        while waiting:
-            cells = self._met_at_once(waiting.pop())
-            for other in cells:
-                if other not in met:
-                    met[other] = True
-                    waiting.append(other)
-        return sorted(met)
+        solution = self._solution
+        seen = {at}
+        found = [at]
+        done = 0
+        while done < len(found):
+            here = found[done]
+            for way in solution.looked_at(here):
+                other = here + way
+                if other not in seen and solution.has_cell(other):
+                    seen.add(other)
+                    found.append(other)
+            done += 1
+        return sorted([self.cell_at(cell) for cell in found])
 
-    def _met_at_once(self, cell):
-        _, cells = self._looked(cell)
-        return [(row, column) for row, column in cells if self._among.has_row(row)]
-
-    def _looked(self, cell):
-        """The value or None, and the cells to which the references lead that are worked out, in sequence."""
-        if cell not in self._found:
-            row, column = cell
-            value, looks = self._among.cell_looked(row, column)
-            self._found[cell] = (value, [(row + STEPS[where], name) for _, where, name in looks])
-        return self._found[cell]
+    def _all_lowest(self):
+        solution = self._solution
+        lowest = {}
+        # What a cell looks at got its value in an earlier round.
+        for at in solution.in_sequence():
+            least = at // self._many
+            for way in solution.looked_at(at):
+                if solution.has_cell(at + way):
+                    least = max(least, lowest[at + way])
+            lowest[at] = least
+        return lowest

@@ -1,111 +1,126 @@
 """The least solution of the formulas of rows [31], which grows with the rows."""
 
-STEPS = {"up": -1, "here": 0, "down": 1}
+from belowneeds.works import EMPTY, works_of
 
 
 class Solution:
-    """The values of the cells of some rows, and what the other cells wait for."""
+    """The values of the cells of some rows, and what the other cells wait for.
+
+    The cells stand in one list: the top, the rows, and the foot, or a row without values in its place.
+    """
 
     def __init__(self, sheet, foot):
-        """No row yet; the foot is a dict from columns to values, without any if there is no foot."""
-        self._sheet = sheet
-        self._foot = foot
-        self._formulas = formulas_of(sheet)
-        self._word = []
-        self._rows = [sheet.top()]
-        # For a cell without a value, the cells whose formulas need it.
+        """No row yet; the foot is a dict from columns to values, or None."""
+        self._works = works_of(sheet)
+        self._many = self._works.width
+        below = [EMPTY for _ in self._works.heads] if foot is None else [foot[column] for column in self._works.heads]
+        self.cells = [*self._works.over_all, *below]
+        # For each cell, how it is worked out, and how what it looks at is found; nothing stands in the top.
+        self._worths = [None for _ in self._works.heads]
+        self._sights = [None for _ in self._works.heads]
+        # For a cell, those whose formulas needed it. They stay behind it when it has a value, as that can be
+        # taken back.
         self._waiting = {}
-        # What was done, so that it can be taken back.
+        # What was done, so that it can be taken back: a cell that got a value, or -1 less the cell that is needed.
         self._changes = []
 
-    def copied(self):
-        """An independent one, of which nothing can be taken back."""
-        other = Solution(self._sheet, self._foot)
-        other._word = list(self._word)
-        other._rows = [dict(row) for row in self._rows]
+    def copied(self, sheet):
+        """An independent one of the same sheet, of which nothing can be taken back."""
+        other = Solution(sheet, None)
+        other.cells = list(self.cells)
+        other._worths = list(self._worths)
+        other._sights = list(self._sights)
         other._waiting = {cell: list(self._waiting[cell]) for cell in self._waiting}
         return other
 
     def add_rows(self, kinds):
         """Adds a row for each kind; returns the number of rounds that change something then."""
-        cells = []
+        begin = len(self._worths)
+        foot = self.cells[begin:]
+        del self.cells[begin:]
         for kind in kinds:
-            self._word.append(kind)
-            self._rows.append({column: None for column in self._sheet.columns})
-            self._changes.append(("row", None, None))
-            cells.extend([(len(self._word), column) for column in self._sheet.columns])
+            self._worths.extend(self._works.worths[kind])
+            self._sights.extend(self._works.sights[kind])
+        end = len(self._worths)
+        self.cells.extend([EMPTY for _ in range(begin, end)])
+        self.cells.extend(foot)
         rounds = 0
+        cells = list(range(begin, end))
         while cells:
-            found = self._worked_out(cells)
-            rounds += 1 if found else 0
-            cells = self._with_values(found)
+            cells, changed = self._round(cells)
+            rounds += 1 if changed else 0
         return rounds
 
     def many_changes(self):
         """How many changes were made, and not taken back."""
         return len(self._changes)
 
-    def take_back(self, changes):
-        """Takes back all changes but the first so many."""
+    def take_back(self, changes, rows):
+        """Takes back all changes but the first so many, and all rows but the first so many."""
         while len(self._changes) > changes:
-            word, cell, others = self._changes.pop()
-            if word == "row":
-                self._word.pop()
-                self._rows.pop()
-            elif word == "value":
-                row, column = cell
-                self._rows[row][column] = None
-            elif word == "waits":
-                self._waiting[cell].pop()
+            change = self._changes.pop()
+            if change >= 0:
+                self.cells[change] = EMPTY
             else:
-                self._waiting[cell] = others
+                self._waiting[-1 - change].pop()
+        begin = (rows + 1) * self._many
+        end = len(self._worths)
+        del self.cells[begin:end]
+        del self._worths[begin:]
+        del self._sights[begin:]
 
     def row_values(self, row):
         """A dict from the columns, in sequence, to values or None."""
-        return dict(self._rows[row])
-
-    def has_row(self, row):
-        """Whether there is a row of cells with this number."""
-        return 1 <= row <= len(self._word)
+        return self._works.row_told(self.cells[row * self._many:(row + 1) * self._many])
 
     def is_complete(self, row):
-        """Whether the row is there, and all of its cells have values."""
-        return self.has_row(row) and all([value is not None for value in self._rows[row].values()])
+        """Whether there is this row, and all of its cells have values."""
+        begin = row * self._many
+        return begin < len(self._worths) and EMPTY not in self.cells[begin:begin + self._many]
 
-    def cell_looked(self, row, column):
-        """The value of the formula of this cell or None, and the references that are worked out."""
-        below = self._rows[row + 1] if row < len(self._word) else self._foot
-        formula = self._formulas[self._word[row - 1]][column]
-        return formula.looked(self._sheet.modulus, self._rows[row - 1], self._rows[row], below)
+    def has_cell(self, at):
+        """Whether a cell of a row stands at this position, neither the top nor what is below the last row."""
+        return self._many <= at < len(self._worths)
 
-    def _worked_out(self, cells):
-        """The tuples (cell, value) of the cells that get a value; the others wait for their needs."""
+    def in_sequence(self):
+        """The cells that got values, in the sequence in which they got them."""
+        return [cell for cell in self._changes if cell >= 0]
+
+    def next_of(self, at):
+        """The position of the need of the cell at this position; None for a value."""
+        work = self._worths[at]
+        told = work(self.cells, at)
+        return self._works.needed(at, told) if told < 0 else None
+
+    def looked_at(self, at):
+        """How far on the cells lie to which the references lead that are worked out, of a cell with a value."""
+        sight = self._sights[at]
+        return sight(self.cells, at)
+
+    def _round(self, asked):
+        """Works these cells out, from what was there before; returns those to work out next, and if one got a value."""
+        cells, worths, waiting = self.cells, self._worths, self._waiting
+        span = 2 * self._many
         found = []
-        for row, column in cells:
-            value, looks = self.cell_looked(row, column)
-            if value is not None:
-                found.append(((row, column), value))
+        values = []
+        for cell in asked:
+            work = worths[cell]
+            value = work(cells, cell)
+            if value >= 0:
+                found.append(cell)
+                values.append(value)
             else:
-                _, where, name = looks[-1]
-                needed = (row + STEPS[where], name)
-                self._waiting.setdefault(needed, []).append((row, column))
-                self._changes.append(("waits", needed, None))
-        return found
-
-    def _with_values(self, found):
-        """Keeps values, all at once at the end of a round; returns the cells that waited for them."""
+                # As Works.needed tells; this is done too often for a call.
+                needed = cell + value + span
+                if needed in waiting:
+                    waiting[needed].append(cell)
+                else:
+                    waiting[needed] = [cell]
+                self._changes.append(-1 - needed)
+        self._changes.extend(found)
         woken = []
-        for cell, value in found:
-            row, column = cell
-            self._rows[row][column] = value
-            self._changes.append(("value", cell, None))
-            if cell in self._waiting:
-                others = self._waiting.pop(cell)
-                self._changes.append(("woken", cell, others))
-                woken.extend(others)
-        return woken
-
-
-def formulas_of(sheet):
-    """A dict from kinds to dicts from columns, in sequence, to formulas."""
-    return {kind: {column: sheet.formula(kind, column) for column in sheet.columns} for kind in sheet.kinds()}
+        for cell, value in zip(found, values):
+            cells[cell] = value
+            if cell in waiting:
+                woken.extend(waiting[cell])
+        return woken, len(found) > 0

@@ -1,8 +1,8 @@
 """Tables [41], which tell what the rows from some row on show, and how they are made [42]."""
 
-from belowneeds.aboves import all_aboves, are_values, check_entries, is_less_told
+from belowneeds.aboves import all_aboves, check_entries
 from belowneeds.errors import InvalidAbove, InvalidTable
-from belowneeds.rows_under import RowsUnder
+from belowneeds.rows_under import rows_of
 from belowneeds.sheet_checks import check_foot, check_kind
 
 
@@ -14,44 +14,42 @@ def entries(sheet):
 
 def blank(sheet):
     """The table of no rows."""
-    return RowsUnder(sheet).blank()
+    source = rows_of(sheet)
+    return _told(source, source.blank())
 
 
 def foot_table(sheet, foot):
     """The table of no rows with this foot."""
     check_foot(foot, sheet)
-    return _with_foot(RowsUnder(sheet), sheet, foot)
+    return _told(rows_of(sheet), table_with_foot(sheet, foot))
 
 
 def is_table(sheet, value):
     """Whether this is a table of the sheet."""
-    check_entries(sheet)
-    if not isinstance(value, tuple) or len(value) != len(all_aboves(sheet)):
-        return False
-    columns = sheet.reads("down")
-    return all([are_values(shown, columns, sheet.modulus) for shown in value])
+    return rows_of(sheet).is_table(value)
 
 
 def is_rising(sheet, value):
     """Whether this is a rising table of the sheet."""
-    return is_table(sheet, value) and _rises(all_aboves(sheet), value)
+    return rows_of(sheet).table_number(value) is not None
 
 
 def row_under(sheet, above, kind, table):
     """The row under an above: a dict from the columns to values or None."""
-    check_entries(sheet)
-    if not are_values(above, sheet.reads("up"), sheet.modulus):
+    source = rows_of(sheet)
+    number = source.above_number(above)
+    if number is None:
         raise InvalidAbove(above)
     check_kind(kind, sheet)
-    check_table(table, sheet)
-    return dict(RowsUnder(sheet).under(above, kind, table).told)
+    return source.row_told(source.under(number, kind, numbered_table(table, sheet)))
 
 
 def table_above(sheet, kind, table):
     """The table above a table, for a kind."""
     check_kind(kind, sheet)
-    check_table(table, sheet)
-    return RowsUnder(sheet).table_above(kind, table)
+    number = numbered_table(table, sheet)
+    source = rows_of(sheet)
+    return _told(source, source.table_above(kind, number))
 
 
 def table_of(sheet, word, *, place=0, foot=None):
@@ -59,31 +57,30 @@ def table_of(sheet, word, *, place=0, foot=None):
     sheet.place_behind(word, place=place)
     if foot is not None:
         check_foot(foot, sheet)
-    source = RowsUnder(sheet)
-    table = source.blank() if foot is None else _with_foot(source, sheet, foot)
+    source = rows_of(sheet)
+    table = source.blank() if foot is None else table_with_foot(sheet, foot)
+    return _told(source, table_over(source, word, table))
+
+
+def numbered_table(value, sheet):
+    """The number of a rising table; refuses a sheet with too many aboves, and then what is none."""
+    number = rows_of(sheet).table_number(value)
+    if number is None:
+        raise InvalidTable(value)
+    return number
+
+
+def table_with_foot(sheet, foot):
+    """The number of the table of no rows with this foot."""
+    return rows_of(sheet).constant([foot[column] for column in sheet.reads("down")])
+
+
+def table_over(source, word, table):
+    """The number of the table of the rows of a word, above a table."""
     for kind in word[::-1]:
         table = source.table_above(kind, table)
     return table
 
 
-def check_table(value, sheet):
-    """Refuses a sheet with too many aboves, and then what is no rising table of it."""
-    if not is_rising(sheet, value):
-        raise InvalidTable(value)
-
-
-def _with_foot(source, sheet, foot):
-    return source.constant([foot[column] for column in sheet.reads("down")])
-
-
-def _rises(aboves, table):
-    """Whether less at an entry never shows more."""
-    numbers = {above: number for number, above in enumerate(aboves)}
-    for number, above in enumerate(aboves):
-        for position, value in enumerate(above):
-            # One value less is enough to ask for: less and less leads to every other entry with less.
-            if value is not None:
-                less = (*above[:position], None, *above[position + 1:])
-                if not is_less_told(table[numbers[less]], table[number]):
-                    return False
-    return True
+def _told(source, table):
+    return source.told_table(table)[0]

@@ -1,0 +1,188 @@
+"""The formulas of a sheet, made ready to be worked out for many cells.
+
+The cells of rows stand in one list, row by row, EMPTY for a cell that has none. Then a reference leads always the
+same number of cells on, and a formula is a plain function of the list and the position of its own cell: it returns
+the value, or a number below 0 that tells how far on its need stands (Works.needed).
+"""
+
+from belowneeds.formulas import Choice, Number, Reference
+
+EMPTY = -1
+STEPS = {"up": -1, "here": 0, "down": 1}
+
+
+class Works:
+    """What the formulas of a sheet work out, and what they look at, by kinds and numbers of columns."""
+
+    def __init__(self, sheet):
+        self.heads = sheet.columns
+        self.width = len(self.heads)
+        self.numbers = {column: number for number, column in enumerate(self.heads)}
+        top = sheet.top()
+        self.over_all = [top[column] for column in self.heads]
+        self.worths = {}
+        self.sights = {}
+        for kind in sheet.kinds():
+            self.worths[kind] = []
+            self.sights[kind] = []
+            for number, column in enumerate(self.heads):
+                ways = Ways(self.numbers, number, sheet.modulus)
+                formula = sheet.formula(kind, column)
+                self.worths[kind].append(ways.worth_of(formula))
+                self.sights[kind].append(ways.sight_of(formula))
+
+    def needed(self, at, told):
+        """The position of the need of the formula of the cell at this position, which told a number below 0."""
+        return at + told + 2 * self.width
+
+    def row_told(self, cells):
+        """A dict from the columns, in sequence, to the values of these cells, or None."""
+        return {column: None if value < 0 else value for column, value in zip(self.heads, cells)}
+
+
+class Ways:
+    """How far on the references of a formula lead, from the cell of a column."""
+
+    def __init__(self, numbers, number, modulus):
+        """The numbers of the columns, that of the column of the formula, and the modulus."""
+        self._numbers = numbers
+        self._own = number
+        self._modulus = modulus
+
+    def worth_of(self, formula):
+        """A function of cells and a position: the value, or a number below 0 for the need."""
+        if isinstance(formula, Number):
+            return _number(formula.value)
+        if isinstance(formula, Reference):
+            return _reference(self._way(formula), self._no_value(formula))
+        if isinstance(formula, Choice):
+            listed = [value in formula.chosen for value in range(self._modulus)]
+            then, other = self.worth_of(formula.then), self.worth_of(formula.other)
+            return _choice(self.worth_of(formula.test), listed, then, other)
+        return self._worth_of_pair(formula)
+
+    def sight_of(self, formula):
+        """A function of cells and a position, for a formula that has a value: how far on lies what it looks at."""
+        if isinstance(formula, Choice):
+            listed = [value in formula.chosen for value in range(self._modulus)]
+            then, other = self.sight_of(formula.then), self.sight_of(formula.other)
+            return _choice_sight(self.worth_of(formula.test), listed, self.sight_of(formula.test), then, other)
+        nodes = [node for _, node in formula.nodes()]
+        if any([isinstance(node, Choice) for node in nodes]):
+            return _pair_sight(self.sight_of(formula.left), self.sight_of(formula.right))
+        return _steady(tuple([self._way(node) for node in nodes if isinstance(node, Reference)]))
+
+    def _worth_of_pair(self, formula):
+        values = range(self._modulus)
+        left, right = formula.left, formula.right
+        # The parts are mostly numbers and references, for which no further function needs to be called.
+        if isinstance(right, Number):
+            told = [formula.joined(value, right.value, self._modulus) for value in values]
+            return self._mapped(left, told)
+        if isinstance(left, Number):
+            return self._mapped(right, [formula.joined(left.value, value, self._modulus) for value in values])
+        told = [[formula.joined(value, other, self._modulus) for other in values] for value in values]
+        if isinstance(left, Reference) and isinstance(right, Reference):
+            needs = (self._no_value(left), self._no_value(right))
+            return _references(self._way(left), self._way(right), needs, told)
+        return _pair(self.worth_of(left), self.worth_of(right), told)
+
+    def _mapped(self, formula, told):
+        """The work of a pair, one part of which is a number: what is told for each value of the other part."""
+        if isinstance(formula, Reference):
+            return _mapped_reference(self._way(formula), self._no_value(formula), told)
+        return _mapped(self.worth_of(formula), told)
+
+    def _way(self, reference):
+        """How many cells further on the cell stands to which the reference leads."""
+        many = len(self._numbers)
+        return STEPS[reference.where] * many + self._numbers[reference.column] - self._own
+
+    def _no_value(self, reference):
+        # No way is as long as two rows, so this is always below 0.
+        return self._way(reference) - 2 * len(self._numbers)
+
+
+def _number(value):
+    return lambda cells, at: value
+
+
+def _reference(way, need):
+    def work(cells, at):
+        value = cells[at + way]
+        return need if value < 0 else value
+
+    return work
+
+
+def _mapped_reference(way, need, told):
+    def work(cells, at):
+        value = cells[at + way]
+        return need if value < 0 else told[value]
+
+    return work
+
+
+def _mapped(part, told):
+    def work(cells, at):
+        value = part(cells, at)
+        return value if value < 0 else told[value]
+
+    return work
+
+
+def _references(way, other_way, needs, told):
+    need, other_need = needs
+
+    def work(cells, at):
+        left = cells[at + way]
+        if left < 0:
+            return need
+        right = cells[at + other_way]
+        return other_need if right < 0 else told[left][right]
+
+    return work
+
+
+def _pair(left_work, right_work, told):
+    def work(cells, at):
+        left = left_work(cells, at)
+        if left < 0:
+            return left
+        right = right_work(cells, at)
+        return right if right < 0 else told[left][right]
+
+    return work
+
+
+def _choice(test_work, listed, then, other):
+    def work(cells, at):
+        test = test_work(cells, at)
+        if test < 0:
+            return test
+        return then(cells, at) if listed[test] else other(cells, at)
+
+    return work
+
+
+def _steady(ways):
+    return lambda cells, at: ways
+
+
+def _pair_sight(left, right):
+    return lambda cells, at: left(cells, at) + right(cells, at)
+
+
+def _choice_sight(test_work, listed, test, then, other):
+    def sight(cells, at):
+        chosen = then if listed[test_work(cells, at)] else other
+        return test(cells, at) + chosen(cells, at)
+
+    return sight
+
+
+def works_of(sheet):
+    """The works of a sheet, which are made once."""
+    if "works" not in sheet.kept:
+        sheet.kept["works"] = Works(sheet)
+    return sheet.kept["works"]
