@@ -6,12 +6,17 @@ from belowneeds.errors import TooMany
 MAX_ENTRIES = 100
 
 
-def check_entries(sheet):
-    """Refuses a sheet with too many aboves."""
+def has_few_entries(sheet):
+    """Whether a sheet has not too many aboves."""
     many = 1
     for _ in sheet.reads("up"):
         many = many * (sheet.modulus + 1)
-    if many > MAX_ENTRIES:
+    return many <= MAX_ENTRIES
+
+
+def check_entries(sheet):
+    """Refuses a sheet with too many aboves."""
+    if not has_few_entries(sheet):
         raise TooMany("entries", MAX_ENTRIES)
 
 

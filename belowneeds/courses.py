@@ -15,7 +15,7 @@ class Course:
         self._word = [*fill.lead, *fill.turn]
         self._tables = self._all_tables(list(fill.turn))
         # The cells of the top and of each row.
-        self._rows = [self._works.over_all]
+        self._rows = [self._works.top_cells]
         # The row from which on all rows come again, and behind how many rows.
         self.begin_row = 1
         self.period_rows = 1
@@ -99,7 +99,7 @@ class Course:
 
     def _add_rows(self):
         """Adds rows up to the first one from which on all come again."""
-        over = self._source.over_all
+        over = self._source.top_number
         met = {}
         row = 1
         while (self.position_of(row), over) not in met:

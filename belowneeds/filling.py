@@ -2,6 +2,7 @@
 
 from belowneeds.errors import TooMany, UnknownKind
 from belowneeds.solving import Solution
+from belowneeds.trials import Trial
 
 MAX_TAKEN = 200
 
@@ -68,7 +69,8 @@ class Filler:
         """A context manager; at its end the filler is as it was at its beginning."""
         return Trial(self, self._ended)
 
-    def _begin_trial(self):
+    def begin_trial(self):
+        """Keeps how far the filler is, for the end of a trial."""
         self._forget_ended_trials()
         self._levels.append(self._progress())
 
@@ -106,21 +108,6 @@ class Progress:
         self.taken = taken
         self.out = out
         self.changed = changed
-
-
-class Trial:
-    """What is done to a filler within it has no effect behind it."""
-
-    def __init__(self, filler, ended):
-        self._filler = filler
-        self._ended = ended
-
-    def __enter__(self):
-        self._filler._begin_trial()
-        return self._filler
-
-    def __exit__(self, kind, value, trace):
-        self._ended.append(1)
 
 
 def tried(filler, *kinds):

@@ -2,6 +2,7 @@
 
 from belowneeds.checks import is_between, is_list, is_name
 from belowneeds.errors import InvalidCount, InvalidFill, InvalidRow, InvalidWord
+from belowneeds.turning import moved_on, normal_form, told_at
 
 LAST_ROW = 10 ** 60
 MOST_FIRST = 2000
@@ -13,10 +14,7 @@ class Fill:
     def __init__(self, lead, turn):
         _check_part("lead", lead, 0)
         _check_part("turn", turn, 1)
-        shortest = _shortest_turn(tuple(turn))
-        same = _many_in_turn(tuple(lead), shortest)
-        self._lead = tuple(lead[:len(lead) - same])
-        self._turn = _moved_on(shortest, -same)
+        self._lead, self._turn = normal_form(tuple(lead), tuple(turn))
 
     @classmethod
     def of(cls, *kinds):
@@ -37,9 +35,7 @@ class Fill:
         """The kind of this row."""
         if not is_between(row, 1, LAST_ROW):
             raise InvalidRow(row)
-        if row <= len(self._lead):
-            return self._lead[row - 1]
-        return self._turn[(row - 1 - len(self._lead)) % len(self._turn)]
+        return told_at(self._lead, self._turn, row - 1)
 
     def first(self, many):
         """The list of the first so many kinds."""
@@ -53,7 +49,7 @@ class Fill:
             raise InvalidCount(many)
         if many <= len(self._lead):
             return Fill(self._lead[many:], self._turn)
-        return Fill((), _moved_on(self._turn, many - len(self._lead)))
+        return Fill((), moved_on(self._turn, many - len(self._lead)))
 
     def __eq__(self, other):
         return isinstance(other, Fill) and self._lead == other._lead and self._turn == other._turn
@@ -83,25 +79,3 @@ def _check_part(part, names, least):
     for position, name in enumerate(names):
         if not is_name(name):
             raise InvalidFill(part, position)
-
-
-def _shortest_turn(turn):
-    """The shortest part of the turn that gives it when it is repeated."""
-    for many in range(1, len(turn)):
-        if len(turn) % many == 0 and turn[:many] * (len(turn) // many) == turn:
-            return turn[:many]
-    return turn
-
-
-def _many_in_turn(lead, turn):
-    """How many names at the end of the lead can be left to the turn."""
-    many = 0
-    while many < len(lead) and lead[-1 - many] == turn[-1 - many % len(turn)]:
-        many += 1
-    return many
-
-
-def _moved_on(turn, many):
-    """The turn, begun so many names later."""
-    begin = many % len(turn)
-    return turn[begin:] + turn[:begin]

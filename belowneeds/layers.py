@@ -3,7 +3,6 @@
 from belowneeds.checks import is_count
 from belowneeds.errors import InvalidCount
 from belowneeds.layering import layers_of
-from belowneeds.rows_under import rows_of
 from belowneeds.sheet_checks import check_place
 from belowneeds.standing import standings_of
 from belowneeds.tables import numbered_table

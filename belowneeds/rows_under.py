@@ -29,6 +29,8 @@ class RowsUnder:
         self._downs = [self._works.numbers[column] for column in sheet.reads("down")]
         self._aboves = all_aboves(sheet)
         self._above_numbers = {above: number for number, above in enumerate(self._aboves)}
+        self.many_aboves = len(self._aboves)
+        self._all_numbers = list(range(self.many_aboves))
         # The cells of a row without values, and of the rows beside it, by numbers.
         self._empty = [EMPTY for _ in self._works.heads]
         self._cells_above = [self._cells_told(above, self._ups) for above in self._aboves]
@@ -40,7 +42,9 @@ class RowsUnder:
         self._overs = {kind: {} for kind in self._asked}
         self._tables = []
         self._table_numbers = {}
-        self.over_all = number_told([self._works.over_all[number] for number in self._ups], self._base)
+        # A table is told by one tuple; see JointRows.
+        self.told_parts = 1
+        self.top_number = number_told([self._works.top_cells[number] for number in self._ups], self._base)
 
     def blank(self):
         """The table of no rows."""
@@ -62,6 +66,14 @@ class RowsUnder:
     def in_order(self, table):
         """A key to sort tables by."""
         return self._tables[table]
+
+    def above_in(self, parts):
+        """The number of the above in this tuple, or None if it is none."""
+        return self.above_number(parts[0])
+
+    def table_in(self, parts):
+        """The number of the rising table in this tuple, or None if it is none."""
+        return self.table_number(parts[0])
 
     def above_number(self, value):
         """The number of an above, or None for any value that is none."""
@@ -88,6 +100,13 @@ class RowsUnder:
         """A dict from the columns, in sequence, to values or None."""
         return self._works.row_told(row.cells)
 
+    def values_around(self, above, row, table):
+        """Two dicts from columns to values or None: what a row sees above it, and below it, with this table there."""
+        shown = self._shown_told(self._tables[table][row.over])
+        heads = self._works.heads
+        over = {heads[number]: value for number, value in zip(self._ups, self._aboves[above])}
+        return over, {heads[number]: value for number, value in zip(self._downs, shown)}
+
     def under(self, above, kind, table):
         """The row under an above, of a kind, with a table below."""
         return self._all_under((above,), kind, table)[0]
@@ -97,7 +116,7 @@ class RowsUnder:
         overs = self._overs[kind]
         over = overs.get(table)
         if over is None:
-            rows = self._all_under(range(len(self._aboves)), kind, table)
+            rows = self._all_under(self._all_numbers, kind, table)
             over = self._numbered(tuple([row.shown for row in rows]))
             overs[table] = over
         return over

@@ -103,6 +103,10 @@ class Sheet:
 
     def with_top(self, **values):
         """The sheet with other values in the top, by the names of columns."""
+        return self.topped(values)
+
+    def topped(self, values):
+        """The sheet with the values of this dict in the top; a column can also be called as Python's `self`."""
         for column in sorted(values):
             check_column(column, self)
         top = {column: values.get(column, self._top[column]) for column in self._columns}

@@ -14,7 +14,7 @@ class Solution:
         self._works = works_of(sheet)
         self._many = self._works.width
         below = [EMPTY for _ in self._works.heads] if foot is None else [foot[column] for column in self._works.heads]
-        self.cells = [*self._works.over_all, *below]
+        self.cells = [*self._works.top_cells, *below]
         # For each cell, how it is worked out, and how what it looks at is found; nothing stands in the top.
         self._worths = [None for _ in self._works.heads]
         self._sights = [None for _ in self._works.heads]

@@ -33,7 +33,7 @@ class Standings:
         self._done = 0
         for number in range(layers.many_pairs()):
             if layers.pair(number)[0] == 0:
-                self._add((layers.source().over_all, number), None, 1)
+                self._add((layers.source().top_number, number), None, 1)
 
     def found(self):
         """The list of all standings."""

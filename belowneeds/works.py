@@ -19,7 +19,7 @@ class Works:
         self.width = len(self.heads)
         self.numbers = {column: number for number, column in enumerate(self.heads)}
         top = sheet.top()
-        self.over_all = [top[column] for column in self.heads]
+        self.top_cells = [top[column] for column in self.heads]
         self.worths = {}
         self.sights = {}
         for kind in sheet.kinds():
@@ -67,10 +67,10 @@ class Ways:
             listed = [value in formula.chosen for value in range(self._modulus)]
             then, other = self.sight_of(formula.then), self.sight_of(formula.other)
             return _choice_sight(self.worth_of(formula.test), listed, self.sight_of(formula.test), then, other)
-        nodes = [node for _, node in formula.nodes()]
-        if any([isinstance(node, Choice) for node in nodes]):
+        found = [node for _, node in formula.nodes()]
+        if any([isinstance(node, Choice) for node in found]):
             return _pair_sight(self.sight_of(formula.left), self.sight_of(formula.right))
-        return _steady(tuple([self._way(node) for node in nodes if isinstance(node, Reference)]))
+        return _steady(tuple([self._way(node) for node in found if isinstance(node, Reference)]))
 
     def _worth_of_pair(self, formula):
         values = range(self._modulus)

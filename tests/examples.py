@@ -262,3 +262,33 @@ def random_fill(sheet, rnd):
         place = plan[place][kinds[-1]]
     begin = rnd.choice([at for at, other in enumerate(places) if other == place])
     return Fill(kinds[:begin], kinds[begin:])
+
+
+def wide_sheet():
+    """A sheet with more than 100 aboves."""
+    row = {column: Up(column) for column in "abcde"}
+    return Sheet(2, list("abcde"), dict.fromkeys("abcde", 0), {"x": row})
+
+
+def slow_counter(first, place):
+    """A full sheet with the delay 242, which is needed first in a word of 480 + place - 3 * first kinds.
+
+    Each third row, of the kind of this place, t and s count up to 80, from this number on; n waits for 80.
+    """
+    return _counting(place, {"t": first % 9, "s": first // 9, "n": 0}, {"n": Down("n")}, {"n": Number(1)})
+
+
+def long_walk():
+    """A sheet in which z is open from row 1 on: its walk has three cells in each row, and the period is 243."""
+    walk = {"w": Here("v"), "v": Down("z"), "z": Here("w")}
+    return _counting(2, dict.fromkeys("tswvz", 0), walk, walk)
+
+
+def _counting(place, top, still, done):
+    """A sheet in which t and s count each third row; these formulas stand in all rows, and those where it is 80."""
+    is_done = Same(Choice(Here("t"), (8,), Here("s"), Number(0)), Number(8))
+    stays = {"t": Up("t"), "s": Up("s"), **still}
+    counts = {"t": Up("t") + 1, "s": Choice(Up("t"), (8,), Up("s") + 1, Up("s"))}
+    counts.update({column: Choice(is_done, (1,), done[column], still[column]) for column in still})
+    kinds = {kind: counts if at == place else stays for at, kind in enumerate("pqr")}
+    return Sheet(9, list(top), top, kinds, [{"p": 1}, {"q": 2}, {"r": 0}])

@@ -5,9 +5,12 @@ import inspect
 import pathlib
 import unittest
 
-from belowneeds import cuts, endless, filling, fills, formulas, fullness, layers, sheets, tables
+from belowneeds import (
+    alike, cuts, desk, endless, filling, fills, followed, formulas, fullness, judge, layers, lengths, machines, papers, sheets, tables, texts,
+)
 
 PACKAGE = pathlib.Path(formulas.__file__).parent
+TWO_COLUMNS = "one, column, other, other_column"
 PARAMETERS = {
     formulas: {
         "Number": "value", "Here": "column", "Up": "column", "Down": "column", "Plus": "left, right",
@@ -34,6 +37,27 @@ PARAMETERS = {
         "open_fill": "sheet, column, *, limit=400",
     },
     filling: {"Filler": "sheet", "tried": "filler, *kinds"},
+    texts: {"read_sheet": "text", "read_fill": "text"},
+    papers: {
+        "full_paper": "sheet, column, *, limit=400", "open_paper": "sheet, column, *, limit=400",
+        "is_full_paper": "sheet, column, delay, value", "is_open_paper": "sheet, column, value",
+    },
+    alike: {
+        "are_alike": f"{TWO_COLUMNS}, *, limit=400, pairs=1500", "first_unlike": f"{TWO_COLUMNS}, *, limit=400, pairs=1500",
+        "alike_paper": f"{TWO_COLUMNS}, *, limit=400, pairs=1500", "is_alike_paper": f"{TWO_COLUMNS}, value",
+        "is_unlike_paper": f"{TWO_COLUMNS}, value", "joint_tables": "one, other, *, pairs=1500",
+        "change_told": "sheet, kind, column, formula, seen, *, limit=400, pairs=1500",
+    },
+    followed: {
+        "never_followed": "sheet, *, limit=400", "where_followed": "sheet, kind, column, number, *, limit=400",
+        "is_followed": "sheet, kind, column, number, fill, row", "constant_value": "sheet, column, *, limit=400",
+    },
+    machines: {"Machine": "delay, states", "machine_of": "sheet, *, limit=400", "from_machine": "machine, word"},
+    lengths: {
+        "Lengths": "sheet, word, foot, column, *, limit=400", "word_counts": "sheet, foot, column, many, *, limit=400",
+    },
+    judge: {"is_claim": "value", "is_certificate": "claim, value", "certificate_of": "claim"},
+    desk: {"Desk": "", "tried": "desk, *commands"},
 }
 METHODS = {
     formulas.Formula: {
@@ -66,11 +90,18 @@ METHODS = {
     filling.Filler: {
         "take": "self, kind", "take_all": "self, *kinds", "copy": "self", "trial": "self",
     },
+    machines.Machine: {"run": "self, word", "reduced": "self", "__len__": "self", "__eq__": "self, other"},
+    lengths.Lengths: {"value_for": "self, many"},
+    desk.Desk: {
+        "do": "self, command", "do_all": "self, *commands", "undo": "self", "names": "self", "sheet_of": "self, name", "log": "self",
+        "__contains__": "self, name", "__len__": "self", "trial": "self",
+    },
 }
 PROPERTIES = {
     sheets.Sheet: ("modulus", "columns", "places"),
     fills.Fill: ("lead", "turn"), endless.Endless: ("sheet", "fill", "begin", "period"),
     cuts.Cut: ("sheet", "word", "foot", "rounds"), filling.Filler: ("held", "given", "word"),
+    machines.Machine: ("delay", "states"), lengths.Lengths: ("lead", "turn"),
 }
 
 
@@ -97,6 +128,7 @@ class InterfaceTest(unittest.TestCase):
         self.assertIsInstance(vars(formulas.Formula)["read"], staticmethod)
         self.assertIsInstance(vars(sheets.Sheet)["free"], classmethod)
         self.assertIsInstance(vars(fills.Fill)["of"], classmethod)
+        self.assertEqual(judge.KINDS_OF_CLAIMS, ("full", "not full", "alike", "unlike", "followed"))
 
     def test_properties_stand_in_the_classes_themselves_and_are_not_set(self):
         for made, names in PROPERTIES.items():
@@ -160,6 +192,38 @@ class FormTest(unittest.TestCase):
         self.assertEqual(sorted(yielding), ["empty_cells", "nodes", "rows"])
         for name in yielding:
             self.assertEqual([node.name for node in functions].count(name), 1)
+
+    def test_in_texts_of_objects_a_sum_joins_only_what_is_plainly_a_text(self):
+        # Beside __add__, a + in __str__ and __repr__ stands between str(..), written texts and f-strings alone.
+        told = [node for node in nodes_of(ast.FunctionDef) if node.name in ("__str__", "__repr__", "_as_text", "_lines")]
+        self.assertGreater(len(told), 10)
+        for function in told:
+            for node in ast.walk(function):
+                self.assertFalse(isinstance(node, ast.BinOp) and isinstance(node.op, ast.Add), (function.name, function.lineno))
+
+    def test_ranges_and_the_like_are_iterated_at_once(self):
+        for tree in trees().values():
+            parents = {child: node for node in ast.walk(tree) for child in ast.iter_child_nodes(node)}
+            for node in ast.walk(tree):
+                if isinstance(node, ast.Call) and isinstance(node.func, ast.Name) and node.func.id in ("range", "zip", "enumerate", "reversed"):
+                    above = parents[node]
+                    taken = isinstance(above, ast.Call) and isinstance(above.func, ast.Name)
+                    taken = taken and above.func.id in ("list", "tuple", "dict", "enumerate", "zip", "sorted")
+                    looped = isinstance(above, (ast.For, ast.comprehension)) and above.iter is node
+                    taken = taken or (node.func.id == "range" and ast.unparse(above).startswith("len(range("))
+                    kept = isinstance(above, ast.Assign) and node.func.id == "range"
+                    self.assertTrue(taken or looped or kept, (node.lineno, ast.unparse(above)))
+
+    def test_only_plain_words_and_signs(self):
+        for node in nodes_of(ast.Constant):
+            if isinstance(node.value, str):
+                self.assertNotIn(chr(37), node.value)
+        names = {node.id for node in nodes_of(ast.Name)} | {node.arg for node in nodes_of(ast.arg)}
+        self.assertEqual(names & {"type", "eval", "exec", "compile", "input", "open", "id", "hash", "map", "filter", "next", "round", "vars"}, set())
+        for node in nodes_of(ast.Compare):
+            for sign, other in zip(node.ops, node.comparators):
+                if isinstance(sign, (ast.Is, ast.IsNot)):
+                    self.assertTrue(isinstance(other, ast.Constant) and other.value in (None, True, False))
 
     def test_no_generator_expressions_and_no_sort(self):
         self.assertEqual(nodes_of(ast.GeneratorExp), [])
