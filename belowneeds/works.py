@@ -73,7 +73,7 @@ class Ways:
         return _steady(tuple([self._way(node) for node in found if isinstance(node, Reference)]))
 
     def _worth_of_pair(self, formula):
-        values = range(self._modulus)
+        values = list(range(self._modulus))
         left, right = formula.left, formula.right
         # The parts are mostly numbers and references, for which no further function needs to be called.
         if isinstance(right, Number):

@@ -14,6 +14,19 @@ ODD_VALUES = (None, True, False, "", b"a", (), [], {}, [1], {"a": 1}, (1, 2), "i
 TOTAL = Formula.read("(up u + here n)")
 END = {"n": Number(0), "u": TOTAL}
 ITEM = {"n": Down("n") + 1, "u": TOTAL}
+BLOCKS_TEXT = """modulus 2
+columns n u
+top 0 0
+kind end
+0
+(up u + here n)
+kind item
+(down n + 1)
+(up u + here n)
+plan end 0 item 1
+plan end 0 item 2
+plan end 0
+"""
 PLAN = [{"item": 1, "end": 0}, {"item": 2, "end": 0}, {"end": 0}]
 
 

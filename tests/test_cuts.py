@@ -287,5 +287,35 @@ class NeedsTest(CheckedCase):
                                          (cut.cells_met(row, column), depth, cut.value_at(row, column)))
 
 
+class LongCutsTest(CheckedCase):
+    def test_three_columns_of_400_rows(self):
+        row = {"x": Here("y") + 1, "y": Here("z") + 2, "z": Down("x") + 1}
+        sheet = Sheet.free(5, ["x", "y", "z"], {"x": 0, "y": 0, "z": 0}, a=row)
+        cut, foot = Cut(sheet, ["a"] * 400), Cut(sheet, ["a"] * 400, foot={"x": 0, "y": 0, "z": 0})
+        self.assertEqual([cut.rounds, foot.rounds, foot.value_at(1, "x"), foot.depth_at(1, "x")], [0, 1200, 0, 399])
+        self.assertEqual(foot.cells_met(1, "x"), [(row, column) for row in range(1, 401) for column in "xyz"])
+        self.assertEqual(cut.walk(1, "x"), (foot.cells_met(1, "x"), None))
+        self.assertEqual([foot.cells_met(399, "z"), foot.depth_at(400, "z")], [[(399, "z"), *[(400, column) for column in "xyz"]], 0])
+
+    def test_cells_are_sorted_by_the_names_of_the_columns(self):
+        row = {"z": Plus(Here("m"), Down("a")), "m": Up("z"), "a": Plus(Number(1), Up("m"))}
+        for columns in itertools.permutations("zma"):
+            sheet = Sheet(2, columns, dict.fromkeys("zma", 0), {"x": row})
+            cut = Cut(sheet, ["x"] * 3)
+            self.assertEqual(cut.cells_met(1, "z"), [(1, "m"), (1, "z"), (2, "a")])
+            self.assertEqual([cut.depth_at(1, "z"), cut.walk(3, "z")], [1, ([(3, "z")], None)])
+            self.assertEqual(list(cut.row_values(2)), list(columns))
+
+    def test_several_cuts_of_one_sheet(self):
+        for seed in range(60):
+            rnd, sheet = random.Random(seed), random_sheet(seed)
+            for _ in range(4):
+                word = rnd.choices(sheet.kinds(), k=rnd.randrange(7))
+                foot = rnd.choice([None, {column: rnd.randrange(sheet.modulus) for column in sheet.columns}])
+                cut = Cut(sheet, word, foot=foot)
+                rows, rounds = model_cut(sheet, word, foot)
+                self.assertEqual([rows_of(cut), cut.rounds], [rows, rounds])
+
+
 if __name__ == "__main__":
     unittest.main()

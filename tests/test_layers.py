@@ -1,12 +1,14 @@
 """Points [43] and [44]: layers of tables, their out numbers and words, and standings."""
 
 import unittest
+import unittest.mock
 
 from belowneeds.errors import (
     InvalidCount, InvalidTable, LimitError, TooMany, UnknownPlace,
 )
 from belowneeds.formulas import Down, Here, Number, Up
 from belowneeds.layers import layer_tables, standings, still_from, ways, word_of
+from belowneeds.rows_under import RowsUnder
 from belowneeds.sheets import Sheet
 from belowneeds.tables import blank, entries, row_under, table_above, table_of
 from examples import (
@@ -95,6 +97,39 @@ class LayerTablesTest(CheckedCase):
         self.assertEqual(len(layer_tables(sheet_of_tables(500), limit=500)), 500)
         last = layer_tables(sheet)[-1][1]
         self.assertEqual(len(word_of(sheet, 0, last)), 1 + sum(digit * 9 ** at for at, digit in enumerate(last[0])))
+
+
+class KeptTest(CheckedCase):
+    def test_rows_are_worked_out_once_for_a_sheet(self):
+        for sheet, limit in ((sheet_of_tables(120), 400), (sheet_of_tables(500), 400), (late_sheet(7), 400), (sheet_of_tables(60), 59)):
+            with unittest.mock.patch.object(RowsUnder, "_between", autospec=True, side_effect=RowsUnder._between) as work:
+                counts = []
+                for _ in range(2):
+                    for call in (still_from, layer_tables, lambda told, limit: ways(told, 0, blank(told), limit=limit),
+                                 lambda told, limit: word_of(told, 0, blank(told), limit=limit)):
+                        try:
+                            call(sheet, limit=limit)
+                        except TooMany as error:
+                            self.check(error, TooMany, what="tables", limit=limit)
+                        counts.append(work.call_count)
+                self.assertEqual(counts, counts[:1] * 8)
+                self.assertGreater(counts[0], 0)
+
+    def test_it_is_gone_on_with_what_was_found_for_a_lesser_limit(self):
+        sheet = sheet_of_tables(500)
+        for limit in (0, 100, 499, 100, 500, 499, 700):
+            if limit < 500:
+                self.check(caught(layer_tables, sheet, limit=limit), TooMany, what="tables", limit=limit)
+            else:
+                self.assertEqual(layer_tables(sheet, limit=limit), layer_tables(sheet_of_tables(500), limit=limit))
+
+    def test_what_is_returned_can_be_changed(self):
+        sheet = blocks()
+        told = [layer_tables(sheet), standings(sheet, 2), ways(sheet, 0, ZERO), word_of(sheet, 0, ONE)]
+        for one in told:
+            one.clear()
+        self.assertEqual([layer_tables(sheet), standings(sheet, 2), ways(sheet, 0, ZERO), word_of(sheet, 0, ONE)],
+                         [layer_tables(blocks()), standings(blocks(), 2), ways(blocks(), 0, ZERO), ["item", "end"]])
 
 
 class WaysTest(CheckedCase):

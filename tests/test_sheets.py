@@ -8,21 +8,10 @@ from belowneeds.errors import (
 )
 from belowneeds.formulas import Choice, Down, Here, Number, Plus, Up
 from belowneeds.sheets import Sheet
-from examples import END, ITEM, ODD_VALUES, PLAN, TOTAL, CheckedCase, blocks, caught, free_blocks, peek, random_sheet
+from examples import (
+    BLOCKS_TEXT, END, ITEM, ODD_VALUES, PLAN, TOTAL, CheckedCase, blocks, caught, free_blocks, peek, random_sheet,
+)
 
-BLOCKS_TEXT = """modulus 2
-columns n u
-top 0 0
-kind end
-0
-(up u + here n)
-kind item
-(down n + 1)
-(up u + here n)
-plan end 0 item 1
-plan end 0 item 2
-plan end 0
-"""
 ONE = {"n": Number(1)}
 
 

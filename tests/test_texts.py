@@ -9,23 +9,10 @@ from belowneeds.formulas import Formula
 from belowneeds.sheets import Sheet
 from belowneeds.texts import read_fill, read_sheet
 from examples import (
-    ODD_VALUES, CheckedCase, blocks, caught, free_blocks, late_sheet, long_walk, peek, planned_sheet, random_fill,
+    BLOCKS_TEXT, ODD_VALUES, CheckedCase, blocks, caught, free_blocks, late_sheet, long_walk, peek, planned_sheet, random_fill,
     random_sheet, slow_counter,
 )
 
-BLOCKS = """modulus 2
-columns n u
-top 0 0
-kind end
-0
-(up u + here n)
-kind item
-(down n + 1)
-(up u + here n)
-plan end 0 item 1
-plan end 0 item 2
-plan end 0
-"""
 NAMES = ("if", "then", "else", "in", "here", "up", "down", "least", "most")
 
 
@@ -94,12 +81,12 @@ class ReadSheetTest(CheckedCase):
 
     def changed(self, line, *lines):
         """The text with these lines in the place of one."""
-        told = BLOCKS.split("\n")
+        told = BLOCKS_TEXT.split("\n")
         return "\n".join([*told[:line - 1], *lines, *told[line:]])
 
     def test_the_text_of_blocks(self):
-        self.assertEqual([read_sheet(BLOCKS), str(blocks())], [blocks(), BLOCKS])
-        self.assertIs(type(read_sheet(text=BLOCKS)), Sheet)
+        self.assertEqual([read_sheet(BLOCKS_TEXT), str(blocks())], [blocks(), BLOCKS_TEXT])
+        self.assertIs(type(read_sheet(text=BLOCKS_TEXT)), Sheet)
         self.assertEqual(read_sheet(str(free_blocks())), free_blocks())
 
     def test_texts_of_sheets_are_read_back(self):
@@ -110,12 +97,12 @@ class ReadSheetTest(CheckedCase):
             self.assertEqual(str(read_sheet(str(sheet))), str(sheet))
 
     def test_no_string(self):
-        for value in (*[value for value in ODD_VALUES if not isinstance(value, str)], 3, blocks(), [BLOCKS]):
+        for value in (*[value for value in ODD_VALUES if not isinstance(value, str)], 3, blocks(), [BLOCKS_TEXT]):
             self.check(caught(read_sheet, value), InvalidText, line=None)
             self.check(caught(read_fill, value), InvalidText, line=None)
 
     def test_texts_that_end_early(self):
-        lines = BLOCKS.splitlines(keepends=True)
+        lines = BLOCKS_TEXT.splitlines(keepends=True)
         for many in range(len(lines)):
             text = "".join(lines[:many])
             if many <= 9:
@@ -126,14 +113,14 @@ class ReadSheetTest(CheckedCase):
         self.wrong("\n", 1)
         self.wrong("modulus 2", 1)
         self.wrong("modulus 2\n", 2)
-        self.wrong(BLOCKS[:-1], 12)
+        self.wrong(BLOCKS_TEXT[:-1], 12)
         # These places make no plan.
         self.wrong("".join(lines[:10]), 10)
         self.wrong("".join(lines[:11]), 11)
         self.assertEqual(read_sheet("".join([*lines[:9], lines[11]])).places, 1)
 
     def test_lines_left_out_put_in_doubled_and_exchanged(self):
-        lines = BLOCKS.splitlines(keepends=True)
+        lines = BLOCKS_TEXT.splitlines(keepends=True)
         for at in range(len(lines)):
             if at < 9:
                 # Without its line, a kind takes the formulas of the one ahead of it for lines that are due.
@@ -154,12 +141,12 @@ class ReadSheetTest(CheckedCase):
                     self.assertEqual(str(read_sheet("".join(told))), "".join(told))
                 else:
                     self.wrong("".join(told), line)
-        self.wrong(BLOCKS + "\n", 13)
-        self.wrong(BLOCKS + "plan end 0\n", 13)
-        self.wrong(BLOCKS + " ", 13)
+        self.wrong(BLOCKS_TEXT + "\n", 13)
+        self.wrong(BLOCKS_TEXT + "plan end 0\n", 13)
+        self.wrong(BLOCKS_TEXT + " ", 13)
 
     def test_spaces_and_zeros(self):
-        for at, line in enumerate(BLOCKS.splitlines(), 1):
+        for at, line in enumerate(BLOCKS_TEXT.splitlines(), 1):
             for told in (line + " ", " " + line, line.replace(" ", "  ", 1), line + "  "):
                 if told != line:
                     self.wrong(self.changed(at, told), at)
@@ -216,7 +203,7 @@ class ReadSheetTest(CheckedCase):
             self.wrong(self.changed(10, told), 10)
         # The number 2 with two places, and places that cannot be reached.
         self.wrong(self.changed(12, ""), 12)
-        self.wrong("\n".join(BLOCKS.split("\n")[:11]) + "\n", 11)
+        self.wrong("\n".join(BLOCKS_TEXT.split("\n")[:11]) + "\n", 11)
         self.wrong(self.changed(10, "plan end 0"), 12)
         self.wrong(self.changed(10, "plan end 2"), 12)
         self.wrong(self.changed(11, "plan end 1"), 12)
