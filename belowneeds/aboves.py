@@ -39,10 +39,3 @@ def are_values(value, columns, modulus):
 def is_less_told(one, other):
     """Whether one of these tuples has at each place the same as the other one, or None."""
     return all([part is None or part == more for part, more in zip(one, other)])
-
-
-def in_order(value):
-    """A key to sort integers, strings and tuples by: None counts as less than all integers [2]."""
-    if isinstance(value, tuple):
-        return tuple([in_order(part) for part in value])
-    return -1 if value is None else value

@@ -72,8 +72,6 @@ def joint_tables(one, other, *, pairs=MAX_PAIRS):
     """The sorted list of the tuples (place, table, other table, out) of joint layer 0."""
     _check_plans(one, other)
     check_count(pairs)
-    check_entries(one)
-    check_entries(other)
     return told_layers(joint_found(one, other, pairs).layers)
 
 

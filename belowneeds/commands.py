@@ -36,8 +36,8 @@ def command_parts(command):
     if word not in SHAPES:
         return None
     shape = SHAPES[word]
-    is_open_ended = len(shape) > 0 and shape[-1] in ("rest", "names")
-    told = command.split(" ", len(shape)) if is_open_ended else command.split(" ")
+    # What stands behind the last of these spaces can have more spaces only if all of it belongs together.
+    told = command.split(" ", max(1, len(shape)))
     if len(told) != len(shape) + 1:
         return None
     if not all([_is_part(part, form) for part, form in zip(told[1:], shape)]):

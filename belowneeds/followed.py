@@ -1,6 +1,6 @@
 """Which references are ever followed [81], and which columns show one value alone."""
 
-from belowneeds.checks import is_between
+from belowneeds.checks import is_between, is_integer
 from belowneeds.courses import Course
 from belowneeds.endless import LAST_LOOKED_AT
 from belowneeds.errors import InvalidPosition, InvalidRow, NotAllowed, NotFull
@@ -8,7 +8,7 @@ from belowneeds.fills import first_refused
 from belowneeds.formulas import Reference
 from belowneeds.fullness import delays, fill_through, first_open_column
 from belowneeds.layering import layers_of
-from belowneeds.layers import MAX_TABLES, check_count
+from belowneeds.layers import MAX_TABLES
 from belowneeds.rows_under import rows_of
 from belowneeds.sheet_checks import check_column, check_kind
 from belowneeds.standing import standings_of
@@ -16,7 +16,6 @@ from belowneeds.standing import standings_of
 
 def never_followed(sheet, *, limit=MAX_TABLES):
     """The sorted list of the occurrences that are never followed, of a full sheet."""
-    check_count(limit)
     _check_full(sheet, limit)
     followed = _all_followed(sheet, limit)
     found = []
@@ -31,7 +30,6 @@ def never_followed(sheet, *, limit=MAX_TABLES):
 def where_followed(sheet, kind, column, number, *, limit=MAX_TABLES):
     """A tuple (fill, row) for the least row in which the occurrence is followed, or None if it never is."""
     _check_occurrence(sheet, kind, column, number)
-    check_count(limit)
     _check_full(sheet, limit)
     layers, standings = layers_of(sheet, limit), standings_of(sheet, limit)
     looks = RowLooks(sheet, layers, standings)
@@ -58,7 +56,6 @@ def is_followed(sheet, kind, column, number, fill, row):
 def constant_value(sheet, column, *, limit=MAX_TABLES):
     """The one value that a full column shows in all rows of all fills, or None if it shows several."""
     check_column(column, sheet)
-    check_count(limit)
     if delays(sheet, limit=limit)[column] is None:
         raise NotFull(column)
     layers, standings = layers_of(sheet, limit), standings_of(sheet, limit)
@@ -76,8 +73,7 @@ def is_occurrence(sheet, kind, column, number):
         return False
     if kind not in sheet.kinds() or column not in sheet.columns:
         return False
-    formula = sheet.formula(kind, column)
-    return is_between(number, 0, len(formula) - 1) and number in _references(formula)
+    return is_integer(number) and number in _references(sheet.formula(kind, column))
 
 
 class RowLooks:
@@ -135,6 +131,7 @@ def _check_occurrence(sheet, kind, column, number):
 
 
 def _check_full(sheet, limit):
+    """Refuses a wrong limit, and then a sheet with an open column."""
     column = first_open_column(sheet, limit)
     if column is not None:
         raise NotFull(column)

@@ -57,7 +57,6 @@ class Machine:
 
 def machine_of(sheet, *, limit=MAX_TABLES):
     """The least machine of a full sheet."""
-    check_count(limit)
     column = first_open_column(sheet, limit)
     if column is not None:
         raise NotFull(column)

@@ -99,9 +99,7 @@ def _is_cell(cell, columns):
 
 
 def _is_walk(course, cells):
-    """Whether no cell has a value, and each is the next of the one ahead of it."""
-    if course.next_of(cells[-1]) is None:
-        return False
+    """Whether each cell is the next of the one ahead of it. A cell with a value has no next."""
     return all([course.next_of(cell) == other for cell, other in zip(cells[:-1], cells[1:])])
 
 

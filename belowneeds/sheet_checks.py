@@ -97,7 +97,7 @@ def check_kind(kind, sheet):
 
 def check_column(column, sheet):
     """Refuses what is no column of this sheet."""
-    if column not in sheet.columns:
+    if not isinstance(column, str) or column not in sheet.columns:
         raise UnknownColumn(column)
 
 

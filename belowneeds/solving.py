@@ -74,9 +74,9 @@ class Solution:
         return self._works.row_told(self.cells[row * self._many:(row + 1) * self._many])
 
     def is_complete(self, row):
-        """Whether there is this row, and all of its cells have values."""
+        """Whether all cells of this row have values; without a foot, the row below the last one has none."""
         begin = row * self._many
-        return begin < len(self._worths) and EMPTY not in self.cells[begin:begin + self._many]
+        return EMPTY not in self.cells[begin:begin + self._many]
 
     def has_cell(self, at):
         """Whether a cell of a row stands at this position, neither the top nor what is below the last row."""

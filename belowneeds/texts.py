@@ -131,7 +131,7 @@ class SheetLines:
             if kind not in self._kinds or not _is_last(kind, list(leads)) or place not in numbers:
                 return False
             leads[kind] = int(place)
-        if not leads or 2 * len(leads) != len(words) or not self._kinds or len(self._plan) == MAX_PLACES:
+        if not leads or 2 * len(leads) != len(words) or len(self._plan) == MAX_PLACES:
             return False
         self._plan.append(leads)
         return True

@@ -11,6 +11,17 @@ from belowneeds.sheets import Sheet
 # Values that are never an integer, a name, a formula, a row of a dict ..
 ODD_VALUES = (None, True, False, "", b"a", (), [], {}, [1], {"a": 1}, (1, 2), "if", "A", "1", object())
 
+
+class EqualToAll:
+    """An object that says that it is equal to every value."""
+
+    def __eq__(self, other):
+        return True
+
+    def __hash__(self):
+        return hash("n")
+
+
 TOTAL = Formula.read("(up u + here n)")
 END = {"n": Number(0), "u": TOTAL}
 ITEM = {"n": Down("n") + 1, "u": TOTAL}

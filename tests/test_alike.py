@@ -352,7 +352,10 @@ class PapersTest(CheckedCase):
         other = Sheet.free(2, ["g"], {"g": 1}, x={"g": Number(1)})
         paper = ([(0, ((None,),), ((),), None)], [(0, (), (), ((None,),), ((),))])
         self.assertIs(is_alike_paper(one, "o", other, "g", paper), True)
+        turned = ([(0, ((),), ((None,),), None)], [(0, (), (), ((),), ((None,),))])
+        self.assertIs(is_alike_paper(other, "g", one, "o", turned), True)
         self.assertIs(is_unlike_paper(one, "o", other, "g", (Fill.of("x"), 1)), False)
+        self.assertIs(is_unlike_paper(other, "g", one, "o", (Fill.of("x"), 1)), False)
         late = Sheet.free(2, ["o"], {"o": 0}, x={"o": Down("o")}, e={"o": Number(0)})
         more = Sheet.free(2, ["g"], {"g": 1}, x={"g": Number(1)}, e={"g": Number(0)})
         self.assertIs(is_unlike_paper(late, "o", more, "g", (Fill(["x"], ["e"]), 1)), True)
@@ -460,6 +463,8 @@ class ErrorsTest(CheckedCase):
             for call in WITH_COLUMNS:
                 self.check(caught(call, sheet, "n", sheet, "n", limit=value, pairs=value), InvalidCount, value=value)
                 self.check(caught(call, sheet, "n", sheet, "n", limit=0, pairs=value), InvalidCount, value=value)
+                self.check(caught(call, sheet, "n", sheet, "n", limit=value, pairs=-7), InvalidCount, value=value)
+                self.check(caught(call, sheet, "n", sheet, "n", limit=value), InvalidCount, value=value)
                 self.check(caught(call, wide_sheet(), "a", wide_sheet(), "a", pairs=value), InvalidCount, value=value)
         for call in WITH_COLUMNS:
             with self.assertRaises(TypeError):

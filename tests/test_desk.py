@@ -198,7 +198,7 @@ class InvalidCommandsTest(CheckedCase):
 
     def test_numbers(self):
         desk = desk_with(b=blocks())
-        for number in ("01", "00", "-1", "+1", "1.0", "a", "0x1", "1_0", "1" * 71, "0" * 70, "1e5"):
+        for number in ("01", "00", chr(0x663), "-1", "+1", "1.0", "a", "0x1", "1_0", "1" * 71, "0" * 70, "1e5"):
             self.refused(desk, f"top b n {number}")
             self.refused(desk, f"cell b {number} n (end)")
         self.check(caught(desk.do, "top b n " + "9" * 70), InvalidTop, column="n")

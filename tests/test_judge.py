@@ -15,7 +15,7 @@ from belowneeds.judge import KINDS_OF_CLAIMS, certificate_of, is_certificate, is
 from belowneeds.papers import full_paper, is_full_paper, is_open_paper, open_paper
 from belowneeds.sheets import Sheet
 from examples import (
-    ODD_VALUES, CheckedCase, blocks, caught, free_blocks, late_sheet, peek, planned_sheet, sheet_of_tables, slow_counter,
+    ODD_VALUES, CheckedCase, EqualToAll, blocks, caught, free_blocks, late_sheet, peek, planned_sheet, sheet_of_tables, slow_counter,
     wide_sheet,
 )
 from test_alike import pair_of_sheets
@@ -78,6 +78,10 @@ class ClaimTest(CheckedCase):
             ("followed", sheet, "item", "n", -1), ("followed", sheet, "item", "n", None), ("followed", sheet, "item", "z", 1),
             ("followed", sheet, "jtem", "n", 1), ("followed", sheet, ["item"], "n", 1), ("followed", sheet, "item", ["n"], 1),
             ("followed", sheet, "n", "item", 1), ("followed", sheet, "item", "n"), ("followed", sheet, "item", "n", 1, 1),
+            ("Followed", sheet, "item", "n", 1), ("is followed", sheet, "item", "n", 1), (EqualToAll(), sheet, "n", 2), (EqualToAll(), sheet, "n"),
+            ("full", sheet, EqualToAll(), 2), ("full", sheet, "n", EqualToAll()), ("full", EqualToAll(), "n", 2), EqualToAll(),
+            ("followed", sheet, EqualToAll(), "n", 1), ("followed", sheet, "item", EqualToAll(), 1), ("followed", sheet, "item", "n", EqualToAll()),
+            ("alike", sheet, "n", sheet, EqualToAll()), ("alike", sheet, "n", EqualToAll(), "n"),
             (), (None,), (["full"],), ({}, sheet, "n", 2), (1, sheet, "n", 2), ("full", wide_sheet(), "a", 0), ("not full", wide_sheet(), "a"),
             ("alike", wide_sheet(), "a", wide_sheet(), "a"), ("followed", wide_sheet(), "x", "a", 0), (object(), object(), object(), object()),
             "full", "", KINDS_OF_CLAIMS, [("full", sheet, "n", 2)], (("full", sheet, "n", 2),),

@@ -15,7 +15,7 @@ from belowneeds.papers import full_paper, is_full_paper, is_open_paper, open_pap
 from belowneeds.sheets import Sheet
 from belowneeds.tables import blank, is_rising, row_under, table_above
 from examples import (
-    ODD_VALUES, CheckedCase, blocks, caught, free_blocks, late_sheet, model_aboves, peek, planned_sheet, random_fill,
+    ODD_VALUES, CheckedCase, EqualToAll, blocks, caught, free_blocks, late_sheet, model_aboves, peek, planned_sheet, random_fill,
     long_walk, random_sheet, sheet_of_tables, slow_counter, wide_sheet,
 )
 
@@ -156,6 +156,9 @@ class FullPaperTest(CheckedCase):
             ([(0, NONE, 2), *listed[1:]], standing, word, row), ([(0, NONE, 0), *listed[1:]], standing, word, row),
             ([(0, NONE, -1), *listed[1:]], standing, word, row), ([(0, NONE, True), *listed[1:]], standing, word, row),
             ([(0, NONE, "3"), *listed[1:]], standing, word, row),
+            # Nothing but the form of this out number is wrong.
+            ([told if told[:2] != (2, NONE) else (2, NONE, 0) for told in listed], standing, word, row),
+            ([told if told[:2] != (2, NONE) else (2, NONE, -1) for told in listed], standing, word, row),
             ([*listed, (0, ((0,), (None,), (None,)), None)], standing, word, row),
             ([*listed, (3, ONE, None)], standing, word, row), ([*listed, (-1, ONE, None)], standing, word, row),
             ([*listed, (False, ONE, None)], standing, word, row), ([*listed, (None, ONE, None)], standing, word, row),
@@ -215,6 +218,17 @@ class FullPaperTest(CheckedCase):
         self.assertIs(is_full_paper(sheet, "n", 2, (more, everything, word, row)), True)
         self.assertIs(is_full_paper(sheet, "n", 2, (more, everything[:-1], word, row)), False)
         self.assertIs(is_full_paper(sheet, "n", 2, ([*listed, (0, ((2,),) * 4, None)], everything, word, row)), True)
+
+    def test_tables_of_other_places_than_the_first(self):
+        rows = {"x": {"n": Number(0), "u": Down("n")}, "y": {"n": Number(1), "u": Down("n")}}
+        sheet = Sheet(2, ["n", "u"], {"n": 0, "u": 0}, rows, [{"x": 1}, {"y": 0}])
+        listed, standing, word, row = full_paper(sheet, "u")
+        none, zero, one = ((None,),), ((0,),), ((1,),)
+        self.assertEqual([listed, standing], [[(0, none, 1), (0, zero, None), (1, none, 1), (1, one, None)], [(0, (), zero), (1, (), one)]])
+        self.assertIs(is_full_paper(sheet, "u", 1, (listed, standing, word, row)), True)
+        self.assertIs(is_full_paper(sheet, "u", 1, (listed, standing[1:], word, row)), False)
+        self.assertIs(is_full_paper(sheet, "u", 1, (listed, standing[:1], word, row)), False)
+        self.assertEqual(len(standings(sheet, 1)), 2)
 
     def test_papers_of_other_columns_and_sheets(self):
         sheet, other = blocks(), Sheet.free(2, ["n", "u"], {"n": 0, "u": 0}, end=rows_of(0), item=rows_of(1))
@@ -352,7 +366,12 @@ class OpenPaperTest(CheckedCase):
             (fill, cells, -1, 1), (fill, cells, True, 2), (fill, cells, None, 2), (fill, cells, 1, None),
             (fill, cells, 1, True), (fill, cells, 1, -2), (fill, cells, 1, 0), (fill, cells, "1", 2),
             (fill, [(1, "n")], 0, 1), (fill, [], 0, 1), (fill, cells[1:] + cells[:1], 1, 2),
-            (fill, [(1, "n"), (3, "n")], 1, 2), (fill, [(1, "u"), (2, "n")], 1, 1), (fill, [[2, "n"]], 0, 1),
+            (fill, [(1, "n"), (3, "n")], 1, 2), (fill, [(1, "n"), (3, "n")], 1, 1), (fill, [(1, "n"), (1, "n"), (2, "n")], 2, 1),
+            (fill, [(1, "n"), (1, "u"), (2, "n")], 2, 1), (fill, [(1, "n"), (3, "n"), (2, "n"), (3, "n")], 3, 1),
+            (fill, [(1, "n"), (2, "z"), (3, "n")], 2, 1), (fill, [(1, "n"), (2, ["n"]), (3, "n")], 2, 1),
+            (fill, [(1, "n"), (2, None), (3, "n")], 2, 1), (fill, [(1, EqualToAll()), (2, "n")], 1, 1), (EqualToAll(), cells, 1, 2),
+            (fill, EqualToAll(), 1, 2), (fill, cells, EqualToAll(), 2), (fill, cells, 1, EqualToAll()),
+            (fill, [(1, "u"), (2, "n")], 1, 1), (fill, [[2, "n"]], 0, 1),
             (fill, [(2, "n", 1)], 0, 1), (fill, [(2,)], 0, 1), (fill, [(2, "z")], 0, 1), (fill, [(2, ["n"])], 0, 1),
             (fill, [("2", "n")], 0, 1), (fill, [(True, "n"), (2, "n")], 1, 1), (fill, [(0, "n")], 0, 1),
             (fill, [(10 ** 60 + 1, "n")], 0, 1), (fill, [(10 ** 60, "n"), (10 ** 60 + 1, "n")], 1, 1),

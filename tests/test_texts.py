@@ -144,6 +144,9 @@ class ReadSheetTest(CheckedCase):
         self.wrong(BLOCKS_TEXT + "\n", 13)
         self.wrong(BLOCKS_TEXT + "plan end 0\n", 13)
         self.wrong(BLOCKS_TEXT + " ", 13)
+        for more in (2, 3):
+            self.wrong(BLOCKS_TEXT + "plan end 0\n" * more, 13)
+            self.wrong(BLOCKS_TEXT + "plan end 0\n" * more + "kind z\n", 13)
 
     def test_spaces_and_zeros(self):
         for at, line in enumerate(BLOCKS_TEXT.splitlines(), 1):

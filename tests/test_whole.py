@@ -5,26 +5,28 @@ import itertools
 import random
 import unittest
 
-from belowneeds.alike import alike_paper, are_alike, change_told, first_unlike, is_alike_paper, joint_tables
+from belowneeds.alike import (
+    alike_paper, are_alike, change_told, first_unlike, is_alike_paper, is_unlike_paper, joint_tables,
+)
 from belowneeds.cuts import Cut
 from belowneeds.desk import Desk
 from belowneeds.endless import Endless
-from belowneeds.errors import InvalidText, TooMany
+from belowneeds.errors import InvalidCommand, InvalidText, TooMany, UnknownColumn
 from belowneeds.filling import Filler
 from belowneeds.fills import Fill, first_refused
 from belowneeds.followed import constant_value, never_followed, where_followed
 from belowneeds.formulas import Formula, Number, Plus, Up
-from belowneeds.fullness import delays, first_open_row, late_word, open_fill, sheet_delay
+from belowneeds.fullness import column_delay, delays, first_open_row, late_word, open_fill, sheet_delay
 from belowneeds.judge import certificate_of, is_certificate
 from belowneeds.layers import layer_tables, standings, still_from, ways, word_of
 from belowneeds.lengths import Lengths, word_counts
 from belowneeds.machines import from_machine, machine_of
 from belowneeds.papers import full_paper, is_full_paper, is_open_paper, open_paper
 from belowneeds.sheets import Sheet
-from belowneeds.tables import blank, entries, table_above, table_of
+from belowneeds.tables import blank, entries, is_rising, is_table, table_above, table_of
 from belowneeds.texts import read_fill, read_sheet
 from examples import (
-    CheckedCase, blocks, caught, free_blocks, late_sheet, peek, planned_sheet, random_fill, random_sheet, sheet_of_tables, words_from,
+    CheckedCase, EqualToAll, blocks, caught, free_blocks, late_sheet, peek, planned_sheet, random_fill, random_sheet, sheet_of_tables, words_from,
 )
 from test_alike import pair_of_sheets
 
@@ -253,6 +255,26 @@ class ConventionsTest(CheckedCase):
                         self.assertTrue(is_open_paper(same, column, open_paper(sheet, column)))
                     else:
                         self.assertTrue(is_full_paper(same, column, delay, full_paper(sheet, column)))
+
+    def test_values_that_say_they_are_equal_to_all(self):
+        sheet, odd = blocks(), EqualToAll()
+        listed, standing, word, row = full_paper(sheet, "n")
+        pairs, joint = alike_paper(sheet, "n", sheet, "n")
+        for value in (odd, (odd,) * 4, (odd, standing, word, row), (listed, odd, word, row), (listed, standing, odd, row), (listed, standing, word, odd),
+                      ([odd, *listed], standing, word, row), ([(odd, *listed[0][1:]), *listed[1:]], standing, word, row),
+                      ([(*listed[0][:2], odd), *listed[1:]], standing, word, row), ([(0, odd, 3), *listed[1:]], standing, word, row),
+                      (listed, [*standing, odd], word, row), (listed, [*standing, (0, odd, standing[0][2])], word, row),
+                      (listed, [*standing, (0, (odd,), standing[0][2])], word, row), (listed, standing, [odd, odd], row)):
+            self.assertIs(is_full_paper(sheet, "n", 2, value), False)
+        for value in (odd, (odd, odd), (odd, joint), (pairs, odd), ([*pairs, odd], joint), (pairs, [*joint, odd]), (pairs, [*joint, (odd,) * 5])):
+            self.assertIs(is_alike_paper(sheet, "n", sheet, "n", value), False)
+        self.assertEqual([is_table(sheet, odd), is_rising(sheet, (odd,) * 3), is_rising(sheet, ((odd,),) * 3), sheet.is_word(odd), sheet.is_word([odd])],
+                         [False] * 5)
+        self.assertEqual([is_unlike_paper(sheet, "n", sheet, "u", (odd, 2)), is_certificate(("full", sheet, "n", 2), odd), odd in Desk()], [False] * 3)
+        for call in (lambda: column_delay(sheet, odd), lambda: Cut(sheet, ["end"]).value_at(1, odd), lambda: full_paper(sheet, odd), lambda: constant_value(sheet, odd),
+                     lambda: is_alike_paper(sheet, "n", sheet, odd, None)):
+            self.assertIs(type(caught(call)), UnknownColumn)
+        self.assertIs(type(caught(Desk().do, odd)), InvalidCommand)
 
     def test_texts_stay_within_what_they_say(self):
         for seed in range(30):
