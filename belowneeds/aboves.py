@@ -1,6 +1,5 @@
 """Aboves [41]: what can stand above a row."""
 
-from belowneeds.checks import is_between
 from belowneeds.errors import TooMany
 
 MAX_ENTRIES = 100
@@ -27,13 +26,6 @@ def all_aboves(sheet):
     for _ in sheet.reads("up"):
         found = [(*above, value) for above in found for value in values]
     return found
-
-
-def are_values(value, columns, modulus):
-    """Whether this is a tuple of values or None, one for each of the columns."""
-    if not isinstance(value, tuple) or len(value) != len(columns):
-        return False
-    return all([part is None or is_between(part, 0, modulus - 1) for part in value])
 
 
 def is_less_told(one, other):

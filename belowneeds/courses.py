@@ -45,7 +45,7 @@ class Course:
         """The cell to which the need of the formula of a cell leads, a tuple (row, column); None for a value."""
         row, column = cell
         at = self._works.width + self._works.numbers[column]
-        work = self._works.worths[self.kind_at(row)][self._works.numbers[column]]
+        work = self._works.worths_of(self.kind_at(row))[self._works.numbers[column]]
         told = work(self._cells_around(row), at)
         return self._cell_at(row, self._works.needed(at, told)) if told < 0 else None
 
@@ -53,7 +53,7 @@ class Course:
         """The cells of rows to which the references lead that are worked out, of a cell with a value."""
         row, column = cell
         at = self._works.width + self._works.numbers[column]
-        sight = self._works.sights[self.kind_at(row)][self._works.numbers[column]]
+        sight = self._works.sights_of(self.kind_at(row))[self._works.numbers[column]]
         found = [self._cell_at(row, at + way) for way in sight(self._cells_around(row), at)]
         return [other for other in found if other[0] >= 1]
 

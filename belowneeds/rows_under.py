@@ -4,7 +4,8 @@ Aboves, what a row shows to the row above it, and tables have numbers here, whic
 The numbers of aboves are those of the entries; in all of these numbers None counts as less than all values.
 """
 
-from belowneeds.aboves import all_aboves, are_values, check_entries, is_less_told
+from belowneeds.aboves import all_aboves, check_entries, is_less_told
+from belowneeds.checks import is_between
 from belowneeds.works import EMPTY, works_of
 
 
@@ -37,14 +38,15 @@ class RowsUnder:
         self._cells_below = {}
         # What a row shows, by its number.
         self._shown_values = {}
-        self._asked = {kind: list(enumerate(worths, self._begin)) for kind, worths in self._works.worths.items()}
-        self._rows = {kind: {} for kind in self._asked}
-        self._overs = {kind: {} for kind in self._asked}
+        # For each kind, how the cells of a row of it are worked out, when it is asked for.
+        self._asked = {}
+        self._rows = {kind: {} for kind in sheet.kinds()}
+        self._overs = {kind: {} for kind in sheet.kinds()}
         self._tables = []
         self._table_numbers = {}
         # A table is told by one tuple; see JointRows.
         self.told_parts = 1
-        self.top_number = number_told([self._works.top_cells[number] for number in self._ups], self._base)
+        self.top_number = self.above_number(tuple([self._works.top_cells[number] for number in self._ups]))
 
     def blank(self):
         """The table of no rows."""
@@ -52,7 +54,7 @@ class RowsUnder:
 
     def constant(self, values):
         """The table that has these values for each entry."""
-        shown = number_told(values, self._base)
+        shown = number_in(tuple(values), len(self._downs), self._base)
         return self._numbered(tuple([shown for _ in self._aboves]))
 
     def told_above(self, above):
@@ -77,24 +79,18 @@ class RowsUnder:
 
     def above_number(self, value):
         """The number of an above, or None for any value that is none."""
-        if not are_values(value, self._ups, self._base - 1):
-            return None
-        return self._above_numbers[value]
+        return number_in(value, len(self._ups), self._base)
 
     def table_number(self, value):
         """The number of a rising table, or None for any value that is none."""
-        if not self.is_table(value):
-            return None
-        table = tuple([number_told(shown, self._base) for shown in value])
-        if table not in self._table_numbers and not self._rises(value):
+        table = self._table_in(value)
+        if table is None or (table not in self._table_numbers and not self._rises(value)):
             return None
         return self._numbered(table)
 
     def is_table(self, value):
         """Whether this is a table."""
-        if not isinstance(value, tuple) or len(value) != len(self._aboves):
-            return False
-        return all([are_values(shown, self._downs, self._base - 1) for shown in value])
+        return self._table_in(value) is not None
 
     def row_told(self, row):
         """A dict from the columns, in sequence, to values or None."""
@@ -145,6 +141,8 @@ class RowsUnder:
         if below not in self._cells_below:
             self._cells_below[below] = self._cells_told(self._shown_told(below), self._downs)
         cells = self._cells_above[above] + self._empty + self._cells_below[below]
+        if kind not in self._asked:
+            self._asked[kind] = list(enumerate(self._works.worths_of(kind), self._begin))
         asked = self._asked[kind]
         waiting = self._still_empty(cells, asked)
         while 0 < len(waiting) < len(asked):
@@ -152,7 +150,7 @@ class RowsUnder:
             waiting = self._still_empty(cells, asked)
         found = cells[self._begin:2 * self._begin]
         over = shown = 0
-        # As number_told does; this is done too often for a call.
+        # As number_in does; this is done too often for a call.
         for number in self._ups:
             over = over * self._base + found[number] + 1
         for number in self._downs:
@@ -184,6 +182,14 @@ class RowsUnder:
             self._shown_values[shown] = values_told(shown, len(self._downs), self._base)
         return self._shown_values[shown]
 
+    def _table_in(self, value):
+        """The tuple of the numbers of what this table shows, or None for any value that is none."""
+        if not isinstance(value, tuple) or len(value) != len(self._aboves):
+            return None
+        many = len(self._downs)
+        table = tuple([number_in(shown, many, self._base) for shown in value])
+        return None if None in table else table
+
     def _numbered(self, table):
         number = self._table_numbers.get(table)
         if number is None:
@@ -212,11 +218,18 @@ def rows_of(sheet):
     return sheet.kept["rows"]
 
 
-def number_told(values, base):
-    """A number for values or None, which sorts as they do."""
+def number_in(value, many, base):
+    """The number of a tuple of so many values or None, which sorts as they do; None for any other value."""
+    if not isinstance(value, tuple) or len(value) != many:
+        return None
     found = 0
-    for value in values:
-        found = found * base + (0 if value is None else value + 1)
+    for part in value:
+        if part is None:
+            found = found * base
+        elif is_between(part, 0, base - 2):
+            found = found * base + part + 1
+        else:
+            return None
     return found
 
 

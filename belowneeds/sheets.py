@@ -61,6 +61,11 @@ class Sheet:
         check_column(column, self)
         return self._kinds[kind][column]
 
+    def formulas_of(self, kind):
+        """The list of the formulas of this kind, in the sequence of the columns."""
+        check_kind(kind, self)
+        return list(self._kinds[kind].values())
+
     def plan(self):
         """The list of the places: dicts from the kinds that are allowed to places."""
         return [dict(leads) for leads in self._plan]

@@ -9,7 +9,9 @@ class CutSights:
         self._heads = columns
         self._many = len(columns)
         self._numbers = {column: number for number, column in enumerate(columns)}
-        # For each cell with a value, the greatest row that it meets; found when it is asked for.
+        # How what a cell looks at is found, and for each cell with a value the greatest row that it meets; both are
+        # made when they are asked for.
+        self._looks = None
         self._lowest = None
 
     def position_of(self, row, column):
@@ -51,7 +53,7 @@ class CutSights:
         done = 0
         while done < len(found):
             here = found[done]
-            for way in solution.looked_at(here):
+            for way in self._looked_at(here):
                 other = here + way
                 if other not in seen and solution.has_cell(other):
                     seen.add(other)
@@ -59,13 +61,20 @@ class CutSights:
             done += 1
         return sorted([self.cell_at(cell) for cell in found])
 
+    def _looked_at(self, at):
+        """How far on the cells lie to which the references lead that are worked out, of a cell with a value."""
+        if self._looks is None:
+            self._looks = self._solution.sights()
+        sight = self._looks[at]
+        return sight(self._solution.cells, at)
+
     def _all_lowest(self):
         solution = self._solution
         lowest = {}
         # What a cell looks at got its value in an earlier round.
         for at in solution.in_sequence():
             least = at // self._many
-            for way in solution.looked_at(at):
+            for way in self._looked_at(at):
                 if solution.has_cell(at + way):
                     least = max(least, lowest[at + way])
             lowest[at] = least

@@ -15,9 +15,9 @@ class Solution:
         self._many = self._works.width
         below = [EMPTY for _ in self._works.heads] if foot is None else [foot[column] for column in self._works.heads]
         self.cells = [*self._works.top_cells, *below]
-        # For each cell, how it is worked out, and how what it looks at is found; nothing stands in the top.
+        self._word = []
+        # For each cell, how it is worked out; nothing stands in the top.
         self._worths = [None for _ in self._works.heads]
-        self._sights = [None for _ in self._works.heads]
         # For a cell, those whose formulas needed it. They stay behind it when it has a value, as that can be
         # taken back.
         self._waiting = {}
@@ -29,7 +29,7 @@ class Solution:
         other = Solution(sheet, None)
         other.cells = list(self.cells)
         other._worths = list(self._worths)
-        other._sights = list(self._sights)
+        other._word = list(self._word)
         other._waiting = {cell: list(self._waiting[cell]) for cell in self._waiting}
         return other
 
@@ -39,8 +39,8 @@ class Solution:
         foot = self.cells[begin:]
         del self.cells[begin:]
         for kind in kinds:
-            self._worths.extend(self._works.worths[kind])
-            self._sights.extend(self._works.sights[kind])
+            self._worths.extend(self._works.worths_of(kind))
+            self._word.append(kind)
         end = len(self._worths)
         self.cells.extend([EMPTY for _ in range(begin, end)])
         self.cells.extend(foot)
@@ -67,7 +67,7 @@ class Solution:
         end = len(self._worths)
         del self.cells[begin:end]
         del self._worths[begin:]
-        del self._sights[begin:]
+        del self._word[rows:]
 
     def row_values(self, row):
         """A dict from the columns, in sequence, to values or None."""
@@ -92,10 +92,12 @@ class Solution:
         told = work(self.cells, at)
         return self._works.needed(at, told) if told < 0 else None
 
-    def looked_at(self, at):
-        """How far on the cells lie to which the references lead that are worked out, of a cell with a value."""
-        sight = self._sights[at]
-        return sight(self.cells, at)
+    def sights(self):
+        """For each cell, how what it looks at is found; nothing stands in the top."""
+        found = [None for _ in self._works.heads]
+        for kind in self._word:
+            found.extend(self._works.sights_of(kind))
+        return found
 
     def _round(self, asked):
         """Works these cells out, from what was there before; returns those to work out next, and if one got a value."""

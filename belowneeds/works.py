@@ -20,16 +20,23 @@ class Works:
         self.numbers = {column: number for number, column in enumerate(self.heads)}
         top = sheet.top()
         self.top_cells = [top[column] for column in self.heads]
-        self.worths = {}
-        self.sights = {}
-        for kind in sheet.kinds():
-            self.worths[kind] = []
-            self.sights[kind] = []
-            for number, column in enumerate(self.heads):
-                ways = Ways(self.numbers, number, sheet.modulus)
-                formula = sheet.formula(kind, column)
-                self.worths[kind].append(ways.worth_of(formula))
-                self.sights[kind].append(ways.sight_of(formula))
+        self._modulus = sheet.modulus
+        self._formulas = {kind: sheet.formulas_of(kind) for kind in sheet.kinds()}
+        # These are made for a kind when it is asked for.
+        self._worths = {}
+        self._sights = {}
+
+    def worths_of(self, kind):
+        """The list of the functions that tell the value of a cell or, by a number below 0, its need."""
+        if kind not in self._worths:
+            self._worths[kind] = [ways.worth_of(formula) for ways, formula in self._columns_of(kind)]
+        return self._worths[kind]
+
+    def sights_of(self, kind):
+        """The list of the functions that tell how far on lies what a cell with a value looks at."""
+        if kind not in self._sights:
+            self._sights[kind] = [ways.sight_of(formula) for ways, formula in self._columns_of(kind)]
+        return self._sights[kind]
 
     def needed(self, at, told):
         """The position of the need of the formula of the cell at this position, which told a number below 0."""
@@ -38,6 +45,11 @@ class Works:
     def row_told(self, cells):
         """A dict from the columns, in sequence, to the values of these cells, or None."""
         return {column: None if value < 0 else value for column, value in zip(self.heads, cells)}
+
+    def _columns_of(self, kind):
+        """For each column of a kind, a tuple of the ways from there and the formula."""
+        formulas = self._formulas[kind]
+        return [(Ways(self.numbers, number, self._modulus), formula) for number, formula in enumerate(formulas)]
 
 
 class Ways:
@@ -51,56 +63,47 @@ class Ways:
 
     def worth_of(self, formula):
         """A function of cells and a position: the value, or a number below 0 for the need."""
+        if isinstance(formula, Reference):
+            way = self._way(formula)
+            return _reference(way, way - 2 * len(self._numbers))
         if isinstance(formula, Number):
             return _number(formula.value)
-        if isinstance(formula, Reference):
-            return _reference(self._way(formula), self._no_value(formula))
         if isinstance(formula, Choice):
-            listed = [value in formula.chosen for value in range(self._modulus)]
             then, other = self.worth_of(formula.then), self.worth_of(formula.other)
-            return _choice(self.worth_of(formula.test), listed, then, other)
+            return _choice(self.worth_of(formula.test), formula.chosen, then, other)
         return self._worth_of_pair(formula)
 
     def sight_of(self, formula):
         """A function of cells and a position, for a formula that has a value: how far on lies what it looks at."""
         if isinstance(formula, Choice):
-            listed = [value in formula.chosen for value in range(self._modulus)]
             then, other = self.sight_of(formula.then), self.sight_of(formula.other)
-            return _choice_sight(self.worth_of(formula.test), listed, self.sight_of(formula.test), then, other)
+            return _choice_sight(self.worth_of(formula.test), formula.chosen, self.sight_of(formula.test), then, other)
         found = [node for _, node in formula.nodes()]
         if any([isinstance(node, Choice) for node in found]):
             return _pair_sight(self.sight_of(formula.left), self.sight_of(formula.right))
         return _steady(tuple([self._way(node) for node in found if isinstance(node, Reference)]))
 
     def _worth_of_pair(self, formula):
-        values = list(range(self._modulus))
         left, right = formula.left, formula.right
-        # The parts are mostly numbers and references, for which no further function needs to be called.
+        # A part is often a number, and the other one a reference: then no further function needs to be called.
         if isinstance(right, Number):
-            told = [formula.joined(value, right.value, self._modulus) for value in values]
+            told = [formula.joined(value, right.value, self._modulus) for value in range(self._modulus)]
             return self._mapped(left, told)
         if isinstance(left, Number):
-            return self._mapped(right, [formula.joined(left.value, value, self._modulus) for value in values])
-        told = [[formula.joined(value, other, self._modulus) for other in values] for value in values]
-        if isinstance(left, Reference) and isinstance(right, Reference):
-            needs = (self._no_value(left), self._no_value(right))
-            return _references(self._way(left), self._way(right), needs, told)
-        return _pair(self.worth_of(left), self.worth_of(right), told)
+            told = [formula.joined(left.value, value, self._modulus) for value in range(self._modulus)]
+            return self._mapped(right, told)
+        return _pair(self.worth_of(left), self.worth_of(right), formula, self._modulus)
 
     def _mapped(self, formula, told):
         """The work of a pair, one part of which is a number: what is told for each value of the other part."""
         if isinstance(formula, Reference):
-            return _mapped_reference(self._way(formula), self._no_value(formula), told)
+            way = self._way(formula)
+            return _mapped_reference(way, way - 2 * len(self._numbers), told)
         return _mapped(self.worth_of(formula), told)
 
     def _way(self, reference):
-        """How many cells further on the cell stands to which the reference leads."""
-        many = len(self._numbers)
-        return STEPS[reference.where] * many + self._numbers[reference.column] - self._own
-
-    def _no_value(self, reference):
-        # No way is as long as two rows, so this is always below 0.
-        return self._way(reference) - 2 * len(self._numbers)
+        """How many cells further on the cell stands to which the reference leads; always less than two rows."""
+        return STEPS[reference.where] * len(self._numbers) + self._numbers[reference.column] - self._own
 
 
 def _number(value):
@@ -131,36 +134,23 @@ def _mapped(part, told):
     return work
 
 
-def _references(way, other_way, needs, told):
-    need, other_need = needs
-
-    def work(cells, at):
-        left = cells[at + way]
-        if left < 0:
-            return need
-        right = cells[at + other_way]
-        return other_need if right < 0 else told[left][right]
-
-    return work
-
-
-def _pair(left_work, right_work, told):
+def _pair(left_work, right_work, formula, modulus):
     def work(cells, at):
         left = left_work(cells, at)
         if left < 0:
             return left
         right = right_work(cells, at)
-        return right if right < 0 else told[left][right]
+        return right if right < 0 else formula.joined(left, right, modulus)
 
     return work
 
 
-def _choice(test_work, listed, then, other):
+def _choice(test_work, chosen, then, other):
     def work(cells, at):
         test = test_work(cells, at)
         if test < 0:
             return test
-        return then(cells, at) if listed[test] else other(cells, at)
+        return then(cells, at) if test in chosen else other(cells, at)
 
     return work
 
@@ -173,10 +163,10 @@ def _pair_sight(left, right):
     return lambda cells, at: left(cells, at) + right(cells, at)
 
 
-def _choice_sight(test_work, listed, test, then, other):
+def _choice_sight(test_work, chosen, test, then, other):
     def sight(cells, at):
-        chosen = then if listed[test_work(cells, at)] else other
-        return test(cells, at) + chosen(cells, at)
+        taken = then if test_work(cells, at) in chosen else other
+        return test(cells, at) + taken(cells, at)
 
     return sight
 
