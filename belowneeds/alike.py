@@ -6,9 +6,9 @@ from belowneeds.endless import LAST_LOOKED_AT, Endless
 from belowneeds.errors import NotFull, OtherPlan
 from belowneeds.fills import Fill, first_refused
 from belowneeds.fullness import delays, fill_through
-from belowneeds.joint import JointRows, joint_found
+from belowneeds.joint import JointRows, joint_of
 from belowneeds.layering import layers_of
-from belowneeds.layers import MAX_TABLES, check_count, told_layers
+from belowneeds.layers import MAX_TABLES, check_count
 from belowneeds.paper_checks import PaperCheck
 from belowneeds.rows_under import rows_of
 from belowneeds.sheet_checks import check_column
@@ -29,8 +29,9 @@ def first_unlike(one, column, other, other_column, *, limit=MAX_TABLES, pairs=MA
     if below is None:
         return None
     standings = found.live_standings()
-    value, other_value = _values(below.row, one.columns.index(column), other.columns.index(other_column))
-    return (standings.nearest(below.index), fill_through(found.layers, standings, below), value, other_value)
+    index, _, _, row = below
+    value, other_value = _values(row, one.columns.index(column), other.columns.index(other_column))
+    return (standings.nearest(index), fill_through(found.layers, standings, below), value, other_value)
 
 
 def alike_paper(one, column, other, other_column, *, limit=MAX_TABLES, pairs=MAX_PAIRS):
@@ -39,7 +40,7 @@ def alike_paper(one, column, other, other_column, *, limit=MAX_TABLES, pairs=MAX
     if _first_different(found, one, column, other, other_column) is not None:
         return None
     standings = found.live_standings()
-    return (told_layers(found.layers), [standings.told(standing) for standing in standings.found()])
+    return (found.layers.listed(), standings.told(standings.found()))
 
 
 def is_alike_paper(one, column, other, other_column, value):
@@ -72,12 +73,14 @@ def joint_tables(one, other, *, pairs=MAX_PAIRS):
     """The sorted list of the tuples (place, table, other table, out) of joint layer 0."""
     _check_plans(one, other)
     check_count(pairs)
-    return told_layers(joint_found(one, other, pairs).layers)
+    found = joint_of(one, other)
+    found.layers.find_all("pairs", pairs)
+    return found.layers.listed()
 
 
 def change_told(sheet, kind, column, formula, seen, *, limit=MAX_TABLES, pairs=MAX_PAIRS):
     """What comes of another formula for a column that is seen: "alike", "unlike" or "not full"."""
-    changed = sheet.with_formula(kind, column, formula)
+    changed = _changed(sheet, kind, column, formula)
     check_column(seen, sheet)
     check_count(limit)
     check_count(pairs)
@@ -87,6 +90,18 @@ def change_told(sheet, kind, column, formula, seen, *, limit=MAX_TABLES, pairs=M
     if delays(changed, limit=limit)[seen] is None:
         return "not full"
     return "alike" if _first_different(found, sheet, seen, changed, seen) is None else "unlike"
+
+
+def _changed(sheet, kind, column, formula):
+    """The sheet with this formula instead. The last one for each kind and column is kept."""
+    # Refuses what is no kind or no column.
+    sheet.formula(kind, column)
+    if "changed" not in sheet.kept:
+        sheet.kept["changed"] = {}
+    kept = sheet.kept["changed"]
+    if (kind, column) not in kept or kept[(kind, column)].formula(kind, column) != formula:
+        kept[(kind, column)] = sheet.with_formula(kind, column, formula)
+    return kept[(kind, column)]
 
 
 def _check_plans(one, other):
@@ -102,11 +117,11 @@ def _check_columns(one, column, other, other_column):
 
 def _joint_of_all(one, other, limit, pairs):
     """The joint layers; refuses too many entries, tables and pairs, in this sequence."""
-    check_entries(one)
-    check_entries(other)
+    found = joint_of(one, other)
     layers_of(one, limit)
     layers_of(other, limit)
-    return joint_found(one, other, pairs)
+    found.layers.find_all("pairs", pairs)
+    return found
 
 
 def _joint_of_full(one, column, other, other_column, limit, pairs):
@@ -124,7 +139,7 @@ def _joint_of_full(one, column, other, other_column, limit, pairs):
 def _first_different(found, one, column, other, other_column):
     """The nearest row to row 1 below a live standing in which the two columns differ, or None."""
     number, other_number = one.columns.index(column), other.columns.index(other_column)
-    return found.live_standings().first_below(lambda below: _are_different(below.row, number, other_number))
+    return found.live_standings().first_below(lambda below: _are_different(below[3], number, other_number))
 
 
 def _are_different(row, number, other_number):

@@ -4,8 +4,13 @@ MAX_NODES = 40
 MAX_DEPTH = 8
 GREATEST_NUMBER = 8
 LONGEST_NAME = 8
-RESERVED = ("if", "then", "else", "in", "here", "up", "down", "least", "most")
+# These are asked for too often to look through a tuple.
+RESERVED = {
+    "if": True, "then": True, "else": True, "in": True, "here": True, "up": True, "down": True, "least": True,
+    "most": True,
+}
 WHERES = ("here", "up", "down")
+DIGITS = {"0": 0, "1": 1, "2": 2, "3": 3, "4": 4, "5": 5, "6": 6, "7": 7, "8": 8}
 
 
 def is_integer(value):

@@ -3,28 +3,27 @@
 from belowneeds.alike import first_unlike
 from belowneeds.checks import is_name
 from belowneeds.cuts import Cut
-from belowneeds.endless import Endless
+from belowneeds.endless import value_in
 from belowneeds.followed import never_followed
 from belowneeds.fullness import column_delay, first_open_row
 from belowneeds.machines import machine_of
 from belowneeds.texts import read_fill
 
 MOST_DIGITS = 70
-# What stands behind the first word of each command: the name of a sheet that is there, a new one, another name, a
-# number, some names, or all that follows.
+# What stands behind the first word of each command: a name, a number, some names, or all that follows.
 SHAPES = {
-    "put": ("new", "rest"),
-    "formula": ("sheet", "name", "name", "rest"),
-    "top": ("sheet", "name", "number"),
-    "drop": ("sheet",),
+    "put": ("name", "rest"),
+    "formula": ("name", "name", "name", "rest"),
+    "top": ("name", "name", "number"),
+    "drop": ("name",),
     "undo": (),
-    "show": ("sheet",),
-    "rows": ("sheet", "names"),
-    "cell": ("sheet", "number", "name", "rest"),
-    "full": ("sheet", "name"),
-    "alike": ("sheet", "name", "sheet", "name"),
-    "unused": ("sheet",),
-    "states": ("sheet",),
+    "show": ("name",),
+    "rows": ("name", "names"),
+    "cell": ("name", "number", "name", "rest"),
+    "full": ("name", "name"),
+    "alike": ("name", "name", "name", "name"),
+    "unused": ("name",),
+    "states": ("name",),
 }
 
 
@@ -32,22 +31,30 @@ def command_parts(command):
     """The list of the first word of a command and what belongs to it; None for any value that is no command."""
     if not isinstance(command, str) or "\n" in command:
         return None
-    word = command.split(" ")[0]
+    word, _, rest = command.partition(" ")
     if word not in SHAPES:
         return None
     shape = SHAPES[word]
+    if not shape:
+        return [word] if command == word else None
     # What stands behind the last of these spaces can have more spaces only if all of it belongs together.
-    told = command.split(" ", max(1, len(shape)))
-    if len(told) != len(shape) + 1:
+    told = rest.split(" ", len(shape) - 1)
+    if len(told) < len(shape):
         return None
-    if not all([_is_part(part, form) for part, form in zip(told[1:], shape)]):
-        return None
-    return [word, *[_part_of(part, form) for part, form in zip(told[1:], shape)]]
+    parts = [word]
+    for form, text in zip(shape, told):
+        part = _part_of(text, form)
+        if part is None:
+            return None
+        parts.append(part)
+    return parts
 
 
 def names_used(parts):
     """The names of sheets in a command that must be there, in sequence."""
-    return [part for part, form in zip(parts[1:], SHAPES[parts[0]]) if form == "sheet"]
+    if parts[0] in ("put", "undo"):
+        return []
+    return [parts[1], parts[3]] if parts[0] == "alike" else [parts[1]]
 
 
 def text_told(sheet):
@@ -76,20 +83,17 @@ def answer_of(parts, sheets):
     return str(len(machine_of(sheet)))
 
 
-def _is_part(part, form):
+def _part_of(text, form):
+    """What this text of a command tells, or None if it is not of the form."""
     if form == "rest":
-        return part != ""
+        return text if text else None
     if form == "number":
-        return _is_decimal(part)
+        return int(text) if _is_decimal(text) else None
     if form == "names":
-        return all([is_name(name) for name in part.split(" ")])
-    return is_name(part)
-
-
-def _part_of(part, form):
-    if form == "number":
-        return int(part)
-    return part.split(" ") if form == "names" else part
+        names = text.split(" ")
+        # A word can have many kinds, of which most are the same.
+        return names if all([is_name(name) for name in sorted(set(names))]) else None
+    return text if is_name(text) else None
 
 
 def _is_decimal(text):
@@ -106,7 +110,7 @@ def _rows_told(sheet, word):
 
 
 def _cell_told(sheet, row, column, text):
-    value = Endless(sheet, read_fill(text)).value_at(row, column)
+    value = value_in(sheet, read_fill(text), row, column)
     return "none" if value is None else str(value)
 
 

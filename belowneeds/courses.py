@@ -23,7 +23,7 @@ class Course:
 
     def table(self, row):
         """The true table of this row."""
-        return self._source.told_table(self._tables[self.position_of(row)])[0]
+        return self._source.numbers.told_table(self._tables[self.position_of(row)])
 
     def kind_at(self, row):
         """The kind of this row."""

@@ -1,5 +1,6 @@
 """Endless sheets [51]: the sheets of fills."""
 
+from belowneeds.aboves import check_entries
 from belowneeds.checks import is_between
 from belowneeds.courses import Course, CourseSights
 from belowneeds.errors import InvalidCount, InvalidRow, NotAllowed
@@ -14,9 +15,7 @@ class Endless:
     """The sheet of an allowed fill."""
 
     def __init__(self, sheet, fill):
-        refused = first_refused(sheet, fill)
-        if refused is not None:
-            raise NotAllowed(refused)
+        _check_fill(sheet, fill)
         self._sheet = sheet
         self._fill = fill
         self._course = Course(sheet, fill)
@@ -112,6 +111,22 @@ class Endless:
     def _check_cell(self, row, column):
         _check_row(row, LAST_LOOKED_AT)
         check_column(column, self._sheet)
+
+
+def value_in(sheet, fill, row, column):
+    """The value of this cell in the sheet of the fill, or None; the errors are those of Endless and value_at."""
+    # What is refused is refused before the rows are worked out.
+    _check_fill(sheet, fill)
+    _check_row(row, LAST_ROW)
+    check_column(column, sheet)
+    return Course(sheet, fill).row_values(row)[column]
+
+
+def _check_fill(sheet, fill):
+    refused = first_refused(sheet, fill)
+    if refused is not None:
+        raise NotAllowed(refused)
+    check_entries(sheet)
 
 
 def _check_row(row, last):

@@ -12,6 +12,7 @@ from belowneeds.layers import MAX_TABLES
 from belowneeds.rows_under import rows_of
 from belowneeds.sheet_checks import check_column, check_kind
 from belowneeds.standing import standings_of
+from belowneeds.steps import PLACE_BITS
 
 
 def never_followed(sheet, *, limit=MAX_TABLES):
@@ -33,8 +34,8 @@ def where_followed(sheet, kind, column, number, *, limit=MAX_TABLES):
     _check_full(sheet, limit)
     layers, standings = layers_of(sheet, limit), standings_of(sheet, limit)
     looks = RowLooks(sheet, layers, standings)
-    below = standings.first_below(lambda row: row.kind == kind and looks.is_followed(row, column, number))
-    return None if below is None else (fill_through(layers, standings, below), standings.nearest(below.index))
+    below = standings.first_below(lambda told: told[1] == kind and looks.is_followed(told, column, number))
+    return None if below is None else (fill_through(layers, standings, below), standings.nearest(below[0]))
 
 
 def is_followed(sheet, kind, column, number, fill, row):
@@ -59,11 +60,11 @@ def constant_value(sheet, column, *, limit=MAX_TABLES):
     if delays(sheet, limit=limit)[column] is None:
         raise NotFull(column)
     layers, standings = layers_of(sheet, limit), standings_of(sheet, limit)
-    number = sheet.columns.index(column)
+    position = sheet.columns.index(column)
     shown = {}
-    for below in standings.belows():
-        if layers.out_of(below.number) is None:
-            shown[below.row.cells[number]] = True
+    for _, _, key, row in standings.belows():
+        if layers.out_of(key) is None:
+            shown[row.cells[position]] = True
     return min(shown) if len(shown) == 1 else None
 
 
@@ -87,18 +88,23 @@ class RowLooks:
 
     def is_live(self, below):
         """Whether the row can stand in an endless sheet, with the table below it."""
-        return self._layers.out_of(below.number) is None
+        return self._layers.out_of(below[2]) is None
 
     def is_followed(self, below, column, number):
         """Whether a reference of the formula of this column is worked out in a row that can stand so."""
         return self.is_live(below) and number in self.numbers_met(below, column)
 
+    def around(self, below):
+        """A tuple of the numbers of what the row sees above it and below it."""
+        index, _, key, row = below
+        above, _ = self._found[index]
+        return above, self._source.shown_below(row, key >> PLACE_BITS)
+
     def numbers_met(self, below, column):
         """The numbers of the references that are worked out in the formula of this column."""
-        above, _ = self._found[below.index]
-        over, shown = self._source.values_around(above, below.row, self._layers.pair(below.number)[1])
-        formula = self._sheet.formula(below.kind, column)
-        looks = formula.met(self._sheet.modulus, over, self._source.row_told(below.row), shown)
+        _, kind, _, row = below
+        over, shown = self._source.numbers.values_around(*self.around(below))
+        looks = self._sheet.formula(kind, column).met(self._sheet.modulus, over, self._source.row_told(row), shown)
         return [number for number, _, _ in looks]
 
 
@@ -110,11 +116,12 @@ def _all_followed(sheet, limit):
     # Each row is worked out once for what stands around it, and often stands below several standings.
     done = {}
     for below in standings.belows():
-        if looks.is_live(below) and below.row not in done:
-            done[below.row] = True
+        kind, around = below[1], looks.around(below)
+        if looks.is_live(below) and (kind, around) not in done:
+            done[(kind, around)] = True
             for column in sheet.columns:
                 for number in looks.numbers_met(below, column):
-                    found[(below.kind, column, number)] = True
+                    found[(kind, column, number)] = True
     return found
 
 

@@ -1,6 +1,6 @@
 """Formulas [12]: their parts and texts, and how they are worked out [13]."""
 
-from belowneeds.checks import GREATEST_NUMBER, MAX_DEPTH, MAX_NODES
+from belowneeds.checks import DIGITS, GREATEST_NUMBER, MAX_DEPTH, MAX_NODES
 from belowneeds.checks import is_between, is_chosen, is_integer, is_name, is_where
 from belowneeds.errors import InvalidChosen, InvalidFormula, InvalidName, InvalidNumber
 from belowneeds.errors import InvalidPosition, InvalidText, InvalidWhere, TooMany
@@ -36,6 +36,8 @@ class Formula:
         """The formula with this text."""
         if not isinstance(text, str):
             raise InvalidText(None)
+        if text in DIGITS:
+            return Number(DIGITS[text])
         return _built(FormulaText(text).pieces())
 
     def nodes(self):
@@ -139,7 +141,7 @@ class Number(Formula):
     def __init__(self, value):
         if not is_between(value, 0, GREATEST_NUMBER):
             raise InvalidNumber(value)
-        super().__init__("Number", (value,), ())
+        Formula.__init__(self, "Number", (value,), ())
         self.value = value
 
     def _as_text(self):
@@ -158,7 +160,7 @@ class Reference(Formula):
     def __init__(self, name, where, column):
         if not is_name(column):
             raise InvalidName(column)
-        super().__init__(name, (column,), ())
+        Formula.__init__(self, name, (column,), ())
         self.where = where
         self.column = column
 
@@ -178,21 +180,21 @@ class Here(Reference):
     """The cell of a column in the same row."""
 
     def __init__(self, column):
-        super().__init__("Here", "here", column)
+        Reference.__init__(self, "Here", "here", column)
 
 
 class Up(Reference):
     """The cell of a column in the row above."""
 
     def __init__(self, column):
-        super().__init__("Up", "up", column)
+        Reference.__init__(self, "Up", "up", column)
 
 
 class Down(Reference):
     """The cell of a column in the row below."""
 
     def __init__(self, column):
-        super().__init__("Down", "down", column)
+        Reference.__init__(self, "Down", "down", column)
 
 
 class Pair(Formula):
@@ -201,7 +203,7 @@ class Pair(Formula):
     def __init__(self, name, left, right):
         _check_formula(left)
         _check_formula(right)
-        super().__init__(name, (left, right), (left, right))
+        Formula.__init__(self, name, (left, right), (left, right))
         self.left = left
         self.right = right
 
@@ -219,7 +221,7 @@ class Plus(Pair):
     """The sum of two formulas."""
 
     def __init__(self, left, right):
-        super().__init__("Plus", left, right)
+        Pair.__init__(self, "Plus", left, right)
 
     def _as_text(self):
         return f"({self.left} + {self.right})"
@@ -236,7 +238,7 @@ class Least(Pair):
     """The lesser one of two formulas."""
 
     def __init__(self, left, right):
-        super().__init__("Least", left, right)
+        Pair.__init__(self, "Least", left, right)
 
     def _as_text(self):
         return f"least({self.left}, {self.right})"
@@ -253,7 +255,7 @@ class Most(Pair):
     """The greater one of two formulas."""
 
     def __init__(self, left, right):
-        super().__init__("Most", left, right)
+        Pair.__init__(self, "Most", left, right)
 
     def _as_text(self):
         return f"most({self.left}, {self.right})"
@@ -270,7 +272,7 @@ class Same(Pair):
     """Whether two formulas are equal: 1 or 0."""
 
     def __init__(self, left, right):
-        super().__init__("Same", left, right)
+        Pair.__init__(self, "Same", left, right)
 
     def _as_text(self):
         return f"({self.left} = {self.right})"
@@ -293,7 +295,7 @@ class Choice(Formula):
         _check_formula(then)
         _check_formula(other)
         listed = tuple(chosen)
-        super().__init__("Choice", (test, listed, then, other), (test, then, other))
+        Formula.__init__(self, "Choice", (test, listed, then, other), (test, then, other))
         self.test = test
         self.chosen = listed
         self.then = then

@@ -42,9 +42,9 @@ def late_word(sheet, column, *, limit=MAX_TABLES):
     if delay is None or delay == 0:
         return None
     layers, standings = layers_of(sheet, limit), standings_of(sheet, limit)
-    below = _first_empty(sheet, column, limit, delay)
-    word = [*standings.word_to(below.index), below.kind, *_longest_word(layers, below.number)]
-    return (word, standings.nearest(below.index))
+    index, kind, key, _ = _first_empty(sheet, column, limit, delay)
+    word = [*standings.word_to(index), kind, *_longest_word(layers, key)]
+    return (word, standings.nearest(index))
 
 
 def first_open_row(sheet, column, *, limit=MAX_TABLES):
@@ -52,7 +52,7 @@ def first_open_row(sheet, column, *, limit=MAX_TABLES):
     if column_delay(sheet, column, limit=limit) is not None:
         return None
     below = _first_empty(sheet, column, limit, None)
-    return standings_of(sheet, limit).nearest(below.index)
+    return standings_of(sheet, limit).nearest(below[0])
 
 
 def open_fill(sheet, column, *, limit=MAX_TABLES):
@@ -64,8 +64,9 @@ def open_fill(sheet, column, *, limit=MAX_TABLES):
 
 def fill_through(layers, standings, below):
     """A fill whose rows lead to this one, as near to row 1 as can be, and to its table below, or to less than that."""
-    lead, turn = live_chain(layers, below.number)
-    return Fill([*standings.word_to(below.index), below.kind, *lead], turn)
+    index, kind, key, _ = below
+    lead, turn = live_chain(layers, key)
+    return Fill([*standings.word_to(index), kind, *lead], turn)
 
 
 def first_open_column(sheet, limit):
@@ -80,16 +81,16 @@ def _delays_of(sheet, layers, standings):
     """A dict from all columns to their delays, or None."""
     # A cell without a value above a table with the out number d needs d rows below; above a live table it may
     # never have one.
-    found = {column: 0 for column in sheet.columns}
-    for below in standings.belows():
-        out = layers.out_of(below.number)
-        for column, value in zip(sheet.columns, below.row.cells):
-            if value < 0:
-                if out is None or found[column] is None:
-                    found[column] = None
-                else:
-                    found[column] = max(found[column], out)
-    return found
+    outs = layers.outs()
+    found = [0 for _ in sheet.columns]
+    for _, _, key, row in standings.belows():
+        for missing in row.missing:
+            out = outs.get(key)
+            if out is None or found[missing] is None:
+                found[missing] = None
+            else:
+                found[missing] = max(found[missing], out)
+    return dict(zip(sheet.columns, found))
 
 
 def _first_empty(sheet, column, limit, out):
@@ -97,15 +98,16 @@ def _first_empty(sheet, column, limit, out):
     layers = layers_of(sheet, limit)
     number = sheet.columns.index(column)
     return standings_of(sheet, limit).first_below(
-        lambda below: layers.out_of(below.number) == out and below.row.cells[number] < 0
+        lambda below: number in below[3].missing and layers.out_of(below[2]) == out
     )
 
 
-def _longest_word(layers, number):
+def _longest_word(layers, key):
     """A word of a pair, as long as its out number lets it be."""
     kinds = []
-    while layers.ways(number):
-        out = layers.out_of(number)
-        kind, number = [way for way in layers.ways(number) if layers.out_of(way[1]) == out - 1][0]
+    ways = layers.ways()
+    while ways[key]:
+        out = layers.out_of(key)
+        kind, key = [way for way in ways[key] if layers.out_of(way[1]) == out - 1][0]
         kinds.append(kind)
     return kinds

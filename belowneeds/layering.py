@@ -2,97 +2,102 @@
 
 from belowneeds.errors import TooMany
 from belowneeds.rows_under import rows_of
+from belowneeds.steps import PLACE_MASK, key_of, ways_to
 
 
 class Layers:
-    """The pairs (place, table) of layer 0, by numbers, and which of them stand above which."""
+    """The pairs (place, table) of layer 0, by keys (see steps.py), and which of them stand above which."""
 
     def __init__(self, plan, source):
         """The source tells which tables stand above which. Nothing but the blank tables is found yet."""
-        self._many_places = len(plan)
+        self._plan = plan
         self._source = source
-        self._ways_to = ways_to(plan)
-        self._pairs = []
-        self._numbers = {}
-        self._shortest = []
-        self._ways = []
-        # So many pairs were asked for what stands above them.
-        self._done = 0
+        blank = source.blank()
+        self._blanks = [key_of(place, blank) for place in range(len(plan))]
+        self._finder = source.finder(self._blanks)
+        # These are made when all pairs are found, and asked for.
+        self._overs = None
         self._outs = None
-        for place in range(self._many_places):
-            self._add(place, source.blank(), 0)
+        self._lengths = None
+        self._ways = None
+        self._ordered = None
+        self._listed = None
 
     def find_all(self, what, limit):
         """Finds all pairs; refuses more of them than the limit."""
         # What is found does not hang on the limit, so that it can be gone on with from here.
-        while self._done < len(self._pairs) and len(self._pairs) <= limit:
-            self._find_above(self._done)
-            self._done += 1
-        if len(self._pairs) > limit:
+        self._finder.go_on(limit)
+        if len(self._finder.all_keys) > limit:
             raise TooMany(what, limit)
-        if self._outs is None:
-            self._outs = outs_of(self._ways)
 
     def source(self):
         """What tells which tables stand above which."""
         return self._source
 
-    def many_pairs(self):
-        """The number of pairs."""
-        return len(self._pairs)
+    def keys_of(self, place):
+        """The list of the keys of the pairs of a place."""
+        return [key for key in self._finder.all_keys if key & PLACE_MASK == place]
 
-    def pair(self, number):
-        """The tuple (place, number of a table)."""
-        return self._pairs[number]
+    def overs(self):
+        """A dict from the keys to the lists of the keys of what is above them, one for each way to the place."""
+        if self._overs is None:
+            keys_above = self._source.keys_above
+            self._overs = {key: keys_above(key) for key in self._finder.all_keys}
+        return self._overs
 
-    def number_of(self, place, table):
-        """The number of a pair, or None if layer 0 has it not."""
-        return self._numbers.get(table * self._many_places + place)
+    def outs(self):
+        """A dict from the keys of the pairs that are not live to their out numbers."""
+        if self._outs is None:
+            # The less a table below shows, the less the one above it does. So a blank table that is above any table
+            # is above the blank one of its place.
+            above = [key for blank in self._blanks for key in self._source.keys_above(blank)]
+            ended = [blank for blank in self._blanks if blank not in above]
+            self._outs = outs_of(ended, self.overs()) if ended else {}
+        return self._outs
 
-    def out_of(self, number):
+    def out_of(self, key):
         """The out number of a pair, or None if it is live."""
-        return self._outs[number]
+        return self.outs().get(key)
 
-    def shortest(self, number):
+    def shortest(self, key):
         """The number of kinds of the shortest words of a pair."""
-        return self._shortest[number]
+        if self._lengths is None:
+            self._lengths = lengths_of(self._blanks, self.overs())
+        return self._lengths[key]
 
-    def ways(self, number):
-        """The tuples (kind, number of a pair) of which the pair is above."""
-        return list(self._ways[number])
+    def ways(self):
+        """A dict from the keys to the lists of the tuples (kind, key of a pair) of which they are above."""
+        if self._ways is None:
+            found = {key: [] for key in self._finder.all_keys}
+            leading = ways_to(self._plan)
+            for below, above in self.overs().items():
+                for (_, kind), key in zip(leading[below & PLACE_MASK], above):
+                    found[key].append((kind, below))
+            self._ways = found
+        return self._ways
 
     def still(self):
         """The number of the first layer that is equal to the next one."""
-        return max([out for out in self._outs if out is not None], default=0)
+        return max(self.outs().values(), default=0)
 
-    def told(self, number):
-        """A tuple of the place, the table and, if there are two sheets, the table of the other one."""
-        place, table = self._pairs[number]
-        return (place, *self._source.told_table(table))
+    def told(self, keys):
+        """For each key the tuple of the place, the table and, if there are two sheets, the table of the other one."""
+        return self._source.told_pairs(keys)
 
-    def sorted_numbers(self):
-        """The numbers of the pairs, sorted by place, then by table."""
-        keys = [(place, self._source.in_order(table)) for place, table in self._pairs]
-        return [number for _, number in sorted([(key, number) for number, key in enumerate(keys)])]
+    def listed(self):
+        """The sorted list of the tuples of what is told of a pair, and its out number."""
+        if self._listed is None:
+            keys, outs = self.sorted_keys(), self.outs()
+            self._listed = [(*told, outs.get(key)) for told, key in zip(self.told(keys), keys)]
+        return list(self._listed)
 
-    def _find_above(self, done):
-        """Finds the pairs above one; the shortest words of what is found first are the shortest ones."""
-        place, table = self._pairs[done]
-        length = self._shortest[done] + 1
-        for before, kind in self._ways_to[place]:
-            over = self._source.table_above(kind, table)
-            number = self._numbers.get(over * self._many_places + before)
-            if number is None:
-                number = self._add(before, over, length)
-            self._ways[number].append((kind, done))
-
-    def _add(self, place, table, length):
-        number = len(self._pairs)
-        self._numbers[table * self._many_places + place] = number
-        self._pairs.append((place, table))
-        self._shortest.append(length)
-        self._ways.append([])
-        return number
+    def sorted_keys(self):
+        """The list of the keys, sorted by place, then by table."""
+        if self._ordered is None:
+            keys = self._finder.all_keys
+            by_rank = dict(zip(self._source.ranks(keys), keys))
+            self._ordered = [by_rank[rank] for rank in sorted(by_rank)]
+        return list(self._ordered)
 
 
 def layers_of(sheet, limit):
@@ -105,33 +110,37 @@ def layers_of(sheet, limit):
     return layers
 
 
-def ways_to(plan):
-    """For each place of a plan, the list of the tuples (place, kind) such that the kind leads from there to it."""
-    found = [[] for _ in plan]
-    for place, leads in enumerate(plan):
-        for kind, other in leads.items():
-            found[other].append((place, kind))
-    return found
-
-
-def outs_of(ways):
-    """The out numbers [43] of what has these ways, tuples (kind, number), to what it is above."""
-    over = [[] for _ in ways]
-    for number, others in enumerate(ways):
-        for _, other in others:
-            over[other].append(number)
-    left = [len(others) for others in ways]
-    outs = [None for _ in ways]
-    ended = [number for number, many in enumerate(left) if many == 0]
+def outs_of(ended, overs):
+    """A dict to the out numbers [43] of the pairs that have some; those that are above nothing have ended."""
+    left = {key: 0 for key in overs}
+    for above in overs.values():
+        for key in above:
+            left[key] += 1
+    outs = {}
     out = 1
     while ended:
         found = []
-        for number in ended:
-            outs[number] = out
-            for other in over[number]:
-                left[other] -= 1
-                if left[other] == 0:
-                    found.append(other)
+        for key in ended:
+            outs[key] = out
+            for over in overs[key]:
+                left[over] -= 1
+                if left[over] == 0:
+                    found.append(over)
         ended = found
         out += 1
     return outs
+
+
+def lengths_of(blanks, overs):
+    """A dict from all keys to the numbers of kinds of the shortest words of their pairs."""
+    lengths = {blank: 0 for blank in blanks}
+    last = blanks
+    while last:
+        found = []
+        for key in last:
+            for over in overs[key]:
+                if over not in lengths:
+                    lengths[over] = lengths[key] + 1
+                    found.append(over)
+        last = found
+    return lengths

@@ -5,6 +5,7 @@ from belowneeds.errors import InvalidCount
 from belowneeds.layering import layers_of
 from belowneeds.sheet_checks import check_place
 from belowneeds.standing import standings_of
+from belowneeds.steps import key_of
 from belowneeds.tables import numbered_table
 
 MAX_TABLES = 400
@@ -13,7 +14,7 @@ MAX_TABLES = 400
 def layer_tables(sheet, *, limit=MAX_TABLES):
     """The sorted list of the tuples (place, table, out) of layer 0."""
     check_count(limit)
-    return told_layers(layers_of(sheet, limit))
+    return layers_of(sheet, limit).listed()
 
 
 def still_from(sheet, *, limit=MAX_TABLES):
@@ -24,18 +25,19 @@ def still_from(sheet, *, limit=MAX_TABLES):
 
 def ways(sheet, place, table, *, limit=MAX_TABLES):
     """The sorted list of the tuples (kind, place, table) of layer 0 above which the passed table stands."""
-    layers, number = _pair_of(sheet, place, table, limit)
-    if number is None:
+    layers, key = _pair_of(sheet, place, table, limit)
+    if key not in layers.overs():
         return []
-    ranks = {other: rank for rank, other in enumerate(layers.sorted_numbers())}
-    found = sorted([(kind, ranks[other], other) for kind, other in layers.ways(number)])
-    return [(kind, *layers.told(other)) for kind, _, other in found]
+    ranks = {other: rank for rank, other in enumerate(layers.sorted_keys())}
+    found = sorted([(kind, ranks[other], other) for kind, other in layers.ways()[key]])
+    told = layers.told([other for _, _, other in found])
+    return [(kind, *pair) for (kind, _, _), pair in zip(found, told)]
 
 
 def word_of(sheet, place, table, *, limit=MAX_TABLES):
     """The first of the shortest words that are allowed from the place and have this table, or None."""
-    layers, number = _pair_of(sheet, place, table, limit)
-    return None if number is None else first_word(layers, number)
+    layers, key = _pair_of(sheet, place, table, limit)
+    return first_word(layers, key) if key in layers.overs() else None
 
 
 def standings(sheet, many, *, limit=MAX_TABLES):
@@ -51,27 +53,21 @@ def check_count(value):
         raise InvalidCount(value)
 
 
-def told_layers(layers):
-    """The sorted list of the tuples (place, table or tables, out) of layer 0."""
-    return [(*layers.told(number), layers.out_of(number)) for number in layers.sorted_numbers()]
-
-
-def first_word(layers, number):
+def first_word(layers, key):
     """The first in sorted sequence of the shortest words of a pair."""
     word = []
-    numbers = [number]
-    for length in range(layers.shortest(number), 0, -1):
-        below = [way for at in numbers for way in layers.ways(at) if layers.shortest(way[1]) == length - 1]
+    keys = [key]
+    for length in range(layers.shortest(key), 0, -1):
+        below = [way for at in keys for way in layers.ways()[at] if layers.shortest(way[1]) == length - 1]
         least = min([kind for kind, _ in below])
         word.append(least)
-        numbers = [other for kind, other in below if kind == least]
+        keys = [other for kind, other in below if kind == least]
     return word
 
 
 def _pair_of(sheet, place, table, limit):
-    """The layers of the sheet, and the number of the pair or None, if all of this can be asked of them."""
+    """The layers of the sheet, and the key of the pair, if all of this can be asked of them."""
     check_place(place, sheet)
     number = numbered_table(table, sheet)
     check_count(limit)
-    layers = layers_of(sheet, limit)
-    return layers, layers.number_of(place, number)
+    return layers_of(sheet, limit), key_of(place, number)

@@ -3,10 +3,10 @@
 from belowneeds.checks import is_between
 from belowneeds.errors import InvalidCount, InvalidWord, NotTurning, TooMany
 from belowneeds.fills import LAST_ROW
-from belowneeds.layering import ways_to
 from belowneeds.layers import MAX_TABLES, check_count
 from belowneeds.rows_under import rows_of
 from belowneeds.sheet_checks import check_column, check_foot
+from belowneeds.steps import ways_to
 from belowneeds.tables import table_over, table_with_foot
 from belowneeds.turning import normal_form, told_at
 

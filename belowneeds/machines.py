@@ -100,7 +100,7 @@ class Held:
             return above, kinds, None
         table = table_over(self._source, kinds[1:], self._source.blank())
         row = self._source.under(above, kinds[0], table)
-        return row.over, kinds[1:], tuple(row.cells)
+        return row.over, kinds[1:], row.cells
 
     def _numbered(self, held):
         if held not in self._numbers:

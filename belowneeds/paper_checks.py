@@ -1,8 +1,8 @@
 """The conditions for the lists and the standings of papers [63] [73]. Nothing is searched for here."""
 
 from belowneeds.checks import is_integer, is_list
-from belowneeds.layering import ways_to
 from belowneeds.sheet_checks import is_place
+from belowneeds.steps import ways_to
 
 
 class PaperCheck:

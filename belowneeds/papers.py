@@ -8,7 +8,7 @@ from belowneeds.errors import TooMany
 from belowneeds.fills import LAST_ROW, Fill, first_refused
 from belowneeds.fullness import column_delay, first_open_row, late_word, open_fill
 from belowneeds.layering import layers_of
-from belowneeds.layers import MAX_TABLES, check_count, told_layers
+from belowneeds.layers import MAX_TABLES, check_count
 from belowneeds.paper_checks import PaperCheck
 from belowneeds.rows_under import rows_of
 from belowneeds.sheet_checks import check_column
@@ -28,7 +28,7 @@ def full_paper(sheet, column, *, limit=MAX_TABLES):
         if len(word) > MAX_ROWS:
             raise TooMany("rows", MAX_ROWS)
     standings = standings_of(sheet, limit).sorted_told(delay)
-    return (told_layers(layers_of(sheet, limit)), standings, word, row)
+    return (layers_of(sheet, limit).listed(), standings, word, row)
 
 
 def open_paper(sheet, column, *, limit=MAX_TABLES):

@@ -7,7 +7,30 @@ from belowneeds.formulas import Formula
 
 LEAST_MODULUS = 2
 GREATEST_MODULUS = 9
+MAX_COLUMNS = 6
+MAX_KINDS = 4
 MAX_PLACES = 3
+
+
+class Checked:
+    """The parts of a sheet, of which is known that nothing is wrong with them."""
+
+    def __init__(self, modulus, columns, top, kinds, plan):
+        """As a sheet keeps them: a tuple, dicts in sequence, and a list of such dicts."""
+        self.parts = (modulus, columns, top, kinds, plan)
+
+
+def checked(modulus, columns, top, kinds, plan):
+    """The parts of a sheet, by what its constructor was given; refuses the first that is wrong."""
+    check_modulus(modulus)
+    check_columns(columns)
+    check_top(top, columns, modulus)
+    check_kinds(kinds, columns, modulus)
+    places = [{kind: 0 for kind in kinds}] if plan is None else plan
+    check_plan(places, kinds)
+    rows = {kind: {column: kinds[kind][column] for column in columns} for kind in sorted(kinds)}
+    sequence = [{kind: leads[kind] for kind in sorted(leads)} for leads in places]
+    return Checked(modulus, tuple(columns), {column: top[column] for column in columns}, rows, sequence)
 
 
 def check_modulus(modulus):
@@ -16,9 +39,9 @@ def check_modulus(modulus):
         raise InvalidNumber(modulus)
 
 
-def check_columns(columns, many):
-    """Refuses what is no list of at most so many different names."""
-    if not is_list(columns) or not 1 <= len(columns) <= many:
+def check_columns(columns):
+    """Refuses what is no list of different names, not too many."""
+    if not is_list(columns) or not 1 <= len(columns) <= MAX_COLUMNS:
         raise InvalidColumns(None)
     for position, column in enumerate(columns):
         if not is_name(column) or column in columns[:position]:
@@ -63,9 +86,9 @@ def is_formula_of(value, columns, modulus):
     return isinstance(value, Formula) and value.fits(modulus, columns)
 
 
-def check_kinds(kinds, columns, modulus, many):
-    """Refuses what are not at most so many kinds with fitting formulas."""
-    if not isinstance(kinds, dict) or not 1 <= len(kinds) <= many:
+def check_kinds(kinds, columns, modulus):
+    """Refuses what are no kinds with fitting formulas, not too many."""
+    if not isinstance(kinds, dict) or not 1 <= len(kinds) <= MAX_KINDS:
         raise InvalidKinds(None, None)
     if not all([is_name(kind) for kind in kinds]):
         raise InvalidKinds(None, None)
@@ -84,14 +107,28 @@ def check_plan(plan, kinds):
     for place, leads in enumerate(plan):
         if not _are_leads(leads, kinds, len(plan)):
             raise InvalidPlan(place)
-    reached = _reached(plan)
-    if False in reached:
-        raise InvalidPlan(reached.index(False))
+    wrong = first_unreached(plan)
+    if wrong is not None:
+        raise InvalidPlan(wrong)
+
+
+def first_unreached(plan):
+    """The first place that cannot be reached from place 0, or None."""
+    reached = {0: True}
+    waiting = [0]
+    while waiting:
+        for place in plan[waiting.pop()].values():
+            if place not in reached:
+                reached[place] = True
+                waiting.append(place)
+    if len(reached) == len(plan):
+        return None
+    return min([place for place in range(len(plan)) if place not in reached])
 
 
 def check_kind(kind, sheet):
     """Refuses what is no kind of this sheet."""
-    if not isinstance(kind, str) or kind not in sheet.kinds():
+    if not sheet.has_kind(kind):
         raise UnknownKind(kind)
 
 
@@ -116,14 +153,3 @@ def _are_leads(leads, kinds, many):
     if not isinstance(leads, dict) or not leads:
         return False
     return all([kind in kinds and is_place(leads[kind], many) for kind in leads])
-
-
-def _reached(plan):
-    """For each place, whether it can be reached from place 0."""
-    reached = [place == 0 for place in range(len(plan))]
-    # Once for each place, as a way from place 0 visits no place twice.
-    for _ in plan:
-        for place, leads in enumerate(plan):
-            for kind in leads:
-                reached[leads[kind]] = reached[leads[kind]] or reached[place]
-    return reached

@@ -1,9 +1,8 @@
 """Sheets [21], with their plans and words [22]."""
 
 from belowneeds.checks import is_list, is_where
-from belowneeds.errors import InvalidWhere, InvalidWord
-from belowneeds.sheet_checks import check_column, check_columns, check_kind, check_kinds, check_modulus
-from belowneeds.sheet_checks import check_place, check_plan, check_top
+from belowneeds.errors import InvalidKinds, InvalidWhere, InvalidWord
+from belowneeds.sheet_checks import Checked, check_column, check_kind, check_place, check_top, checked, is_formula_of
 
 
 class Sheet:
@@ -13,17 +12,10 @@ class Sheet:
     MAX_KINDS = 4
 
     def __init__(self, modulus, columns, top, kinds, plan=None):
-        check_modulus(modulus)
-        check_columns(columns, Sheet.MAX_COLUMNS)
-        check_top(top, columns, modulus)
-        check_kinds(kinds, columns, modulus, Sheet.MAX_KINDS)
-        places = [{kind: 0 for kind in kinds}] if plan is None else plan
-        check_plan(places, kinds)
-        self._modulus = modulus
-        self._columns = tuple(columns)
-        self._top = {column: top[column] for column in columns}
-        self._kinds = {kind: {column: kinds[kind][column] for column in columns} for kind in sorted(kinds)}
-        self._plan = [{kind: leads[kind] for kind in sorted(leads)} for leads in places]
+        # What is made of another sheet, or of a text, is passed as what needs no further look.
+        given = kinds if isinstance(kinds, Checked) else checked(modulus, columns, top, kinds, plan)
+        self._modulus, self._columns, self._top, self._kinds, self._plan = given.parts
+        self._reads = {}
         # What was found out about the sheet, so that it is not found out again. It is no part of it.
         self.kept = {}
 
@@ -51,6 +43,10 @@ class Sheet:
         """The sorted list of the kinds."""
         return list(self._kinds)
 
+    def has_kind(self, value):
+        """Whether this is one of the kinds."""
+        return isinstance(value, str) and value in self._kinds
+
     def top(self):
         """The top: a dict from the columns to values."""
         return dict(self._top)
@@ -74,11 +70,11 @@ class Sheet:
         """The tuple of the columns, in sequence, that the sheet reads so [24]."""
         if not is_where(where):
             raise InvalidWhere(where)
-        if where not in self.kept:
+        if where not in self._reads:
             formulas = [formula for row in self._kinds.values() for formula in row.values()]
             found = [column for formula in formulas for column in formula.columns_read(where)]
-            self.kept[where] = tuple([column for column in self._columns if column in found])
-        return self.kept[where]
+            self._reads[where] = tuple([column for column in self._columns if column in found])
+        return self._reads[where]
 
     def allowed(self, place):
         """The sorted list of the kinds that are allowed at this place."""
@@ -90,21 +86,26 @@ class Sheet:
         check_place(place, self)
         if not is_list(word):
             raise InvalidWord(None)
-        passed = self._places_passed(word, place)
-        if len(passed) <= len(word):
-            raise InvalidWord(len(passed) - 1)
-        return passed[-1]
+        many, behind = self._passed(word, place)
+        if many < len(word):
+            raise InvalidWord(many)
+        return behind
 
     def is_word(self, value):
         """Whether this is a word that is allowed."""
-        return is_list(value) and len(self._places_passed(value, 0)) > len(value)
+        return is_list(value) and self._passed(value, 0)[0] == len(value)
 
     def with_formula(self, kind, column, formula):
         """The sheet with another formula for this kind and column."""
-        self.formula(kind, column)
-        kinds = {other: dict(row) for other, row in self._kinds.items()}
-        kinds[kind][column] = formula
-        return Sheet(self._modulus, self._columns, self._top, kinds, self._plan)
+        check_kind(kind, self)
+        check_column(column, self)
+        if not is_formula_of(formula, self._columns, self._modulus):
+            raise InvalidKinds(kind, column)
+        row = dict(self._kinds[kind])
+        row[column] = formula
+        kinds = dict(self._kinds)
+        kinds[kind] = row
+        return self._made_of(self._top, kinds)
 
     def with_top(self, **values):
         """The sheet with other values in the top, by the names of columns."""
@@ -115,7 +116,11 @@ class Sheet:
         for column in sorted(values):
             check_column(column, self)
         top = {column: values.get(column, self._top[column]) for column in self._columns}
-        return Sheet(self._modulus, self._columns, top, self._kinds, self._plan)
+        check_top(top, self._columns, self._modulus)
+        found = self._made_of(top, self._kinds)
+        # The formulas are the same.
+        found._reads = self._reads
+        return found
 
     def __eq__(self, other):
         return isinstance(other, Sheet) and self._all_parts() == other._all_parts()
@@ -126,6 +131,11 @@ class Sheet:
     def __repr__(self):
         kinds = list(self._kinds)
         return f"Sheet({self._modulus}, {self._columns!r}, {kinds!r})"
+
+    def _made_of(self, top, kinds):
+        """The sheet with this top and these kinds instead, which are as they must be."""
+        parts = Checked(self._modulus, self._columns, top, kinds, self._plan)
+        return Sheet(self._modulus, self._columns, top, parts)
 
     def _lines(self):
         """The lines of the text [25], without line feeds."""
@@ -142,12 +152,12 @@ class Sheet:
     def _all_parts(self):
         return (self._modulus, self._columns, self._top, self._kinds, self._plan)
 
-    def _places_passed(self, word, place):
-        """The places from this one on, one more than there are kinds up to the first one that is not allowed."""
-        passed = [place]
-        for kind in word:
-            leads = self._plan[passed[-1]]
+    def _passed(self, word, place):
+        """How many kinds there are ahead of the first one that is not allowed, and the place to which they lead."""
+        plan = self._plan
+        for position, kind in enumerate(word):
+            leads = plan[place]
             if not isinstance(kind, str) or kind not in leads:
-                return passed
-            passed.append(leads[kind])
-        return passed
+                return position, place
+            place = leads[kind]
+        return len(word), place

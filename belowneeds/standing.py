@@ -1,21 +1,14 @@
 """Standings [44] of all layers, and the rows below them."""
 
 from belowneeds.layering import layers_of
-
-
-class Below:
-    """A row below a standing, with a table below that."""
-
-    def __init__(self, index, kind, number, row):
-        """The index of the standing, the kind of the row, and the number of the pair below."""
-        self.index = index
-        self.kind = kind
-        self.number = number
-        self.row = row
+from belowneeds.steps import PLACE_BITS, PLACE_MASK
 
 
 class Standings:
-    """Standings, the nearest to row 1 first; each is a tuple (number of an above, number of a pair of layer 0).
+    """Standings, the nearest to row 1 first; each is a tuple (number of an above, key of a pair of layer 0).
+
+    A below is a tuple (index of a standing, kind, key of a pair, row): a row of this kind below the standing, with the
+    table of the pair below that.
 
     A table has a lesser out number than all tables above it. So the standings of layer d are those of layer 0 whose
     table layer d + 1 has: what leads to one of them is one of them.
@@ -24,6 +17,7 @@ class Standings:
     def __init__(self, layers, only_live):
         """Those of layer 0, or only those of pairs that are live, and only live pairs below. None is found yet."""
         self._layers = layers
+        self._outs = layers.outs()
         self._only_live = only_live
         self._found = []
         self._indexes = {}
@@ -31,9 +25,8 @@ class Standings:
         self._nearest = []
         self._belows = []
         self._done = 0
-        for number in range(layers.many_pairs()):
-            if layers.pair(number)[0] == 0:
-                self._add((layers.source().top_number, number), None, 1)
+        for key in layers.keys_of(0):
+            self._add((layers.source().top_number, key), None, 1)
 
     def found(self):
         """The list of all standings."""
@@ -69,21 +62,20 @@ class Standings:
             kinds.append(kind)
         return kinds[::-1]
 
-    def told(self, standing):
-        """A tuple of the place, the above or aboves, and the table or tables."""
-        above, number = standing
-        place, *tables = self._layers.told(number)
-        return (place, *self._layers.source().told_above(above), *tables)
+    def told(self, standings):
+        """For each standing a tuple of the place, the above or aboves, and the table or tables."""
+        source = self._layers.source()
+        pairs = self._layers.told([key for _, key in standings])
+        return [(place, *source.told_above(above), *tables) for (above, _), (place, *tables) in zip(standings, pairs)]
 
     def sorted_told(self, many):
         """The list of the standings of this layer as tuples, sorted by place, above and table."""
-        layers = self._layers
-        ranks = {number: rank for rank, number in enumerate(layers.sorted_numbers())}
-        keys = []
-        for index, (above, number) in enumerate(self.found()):
-            if is_behind(layers.out_of(number), many + 1):
-                keys.append((layers.pair(number)[0], above, ranks[number], index))
-        return [self.told(self._found[index]) for _, _, _, index in sorted(keys)]
+        ranks = {key: rank for rank, key in enumerate(self._layers.sorted_keys())}
+        found = []
+        for above, key in self.found():
+            if is_behind(self._outs.get(key), many + 1):
+                found.append((key & PLACE_MASK, above, ranks[key], key))
+        return self.told([(above, key) for _, above, _, key in sorted(found)])
 
     def _find_all(self):
         while self._done < len(self._found):
@@ -91,21 +83,21 @@ class Standings:
 
     def _find_below(self):
         """Finds what is below the first standing for which this was not done yet."""
-        layers = self._layers
         done = self._done
-        above, number = self._found[done]
-        for kind, other in layers.ways(number):
-            if layers.out_of(other) is None or not self._only_live:
-                row = layers.source().under(above, kind, layers.pair(other)[1])
-                self._belows.append(Below(done, kind, other, row))
+        source = self._layers.source()
+        above, key = self._found[done]
+        for kind, other in self._layers.ways()[key]:
+            if not self._only_live or other not in self._outs:
+                row = source.under(above, kind, other >> PLACE_BITS)
+                self._belows.append((done, kind, other, row))
                 self._add((row.over, other), (done, kind), self._nearest[done] + 1)
         self._done += 1
 
     def _add(self, standing, reached, line):
-        _, number = standing
-        out = self._layers.out_of(number)
-        kept = out is None if self._only_live else out != 1
-        if kept and standing not in self._indexes:
+        if standing in self._indexes:
+            return
+        out = self._outs.get(standing[1])
+        if out is None or (out != 1 and not self._only_live):
             self._indexes[standing] = len(self._found)
             self._found.append(standing)
             self._came_from.append(reached)
@@ -125,13 +117,13 @@ def is_behind(out, many):
     return out is None or out > many
 
 
-def live_chain(layers, number):
+def live_chain(layers, key):
     """The lead and the turn of a fill of whose tables none shows more than those that lead from this live pair."""
     kinds = []
     positions = {}
-    while number not in positions:
-        positions[number] = len(kinds)
-        kind, number = [way for way in layers.ways(number) if layers.out_of(way[1]) is None][0]
+    while key not in positions:
+        positions[key] = len(kinds)
+        kind, key = [way for way in layers.ways()[key] if layers.out_of(way[1]) is None][0]
         kinds.append(kind)
-    begin = positions[number]
+    begin = positions[key]
     return kinds[:begin], kinds[begin:]

@@ -14,30 +14,30 @@ def entries(sheet):
 
 def blank(sheet):
     """The table of no rows."""
-    source = rows_of(sheet)
-    return _told(source, source.blank())
+    numbers = rows_of(sheet).numbers
+    return numbers.told_table(numbers.blank())
 
 
 def foot_table(sheet, foot):
     """The table of no rows with this foot."""
     check_foot(foot, sheet)
-    return _told(rows_of(sheet), table_with_foot(sheet, foot))
+    return rows_of(sheet).numbers.told_table(table_with_foot(sheet, foot))
 
 
 def is_table(sheet, value):
     """Whether this is a table of the sheet."""
-    return rows_of(sheet).is_table(value)
+    return rows_of(sheet).numbers.is_table(value)
 
 
 def is_rising(sheet, value):
     """Whether this is a rising table of the sheet."""
-    return rows_of(sheet).table_number(value) is not None
+    return rows_of(sheet).numbers.table_number(value) is not None
 
 
 def row_under(sheet, above, kind, table):
     """The row under an above: a dict from the columns to values or None."""
     source = rows_of(sheet)
-    number = source.above_number(above)
+    number = source.numbers.above_number(above)
     if number is None:
         raise InvalidAbove(above)
     check_kind(kind, sheet)
@@ -49,7 +49,7 @@ def table_above(sheet, kind, table):
     check_kind(kind, sheet)
     number = numbered_table(table, sheet)
     source = rows_of(sheet)
-    return _told(source, source.table_above(kind, number))
+    return source.numbers.told_table(source.table_above(kind, number))
 
 
 def table_of(sheet, word, *, place=0, foot=None):
@@ -59,12 +59,12 @@ def table_of(sheet, word, *, place=0, foot=None):
         check_foot(foot, sheet)
     source = rows_of(sheet)
     table = source.blank() if foot is None else table_with_foot(sheet, foot)
-    return _told(source, table_over(source, word, table))
+    return source.numbers.told_table(table_over(source, word, table))
 
 
 def numbered_table(value, sheet):
     """The number of a rising table; refuses a sheet with too many aboves, and then what is none."""
-    number = rows_of(sheet).table_number(value)
+    number = rows_of(sheet).numbers.table_number(value)
     if number is None:
         raise InvalidTable(value)
     return number
@@ -72,7 +72,7 @@ def numbered_table(value, sheet):
 
 def table_with_foot(sheet, foot):
     """The number of the table of no rows with this foot."""
-    return rows_of(sheet).constant([foot[column] for column in sheet.reads("down")])
+    return rows_of(sheet).numbers.constant([foot[column] for column in sheet.reads("down")])
 
 
 def table_over(source, word, table):
@@ -80,7 +80,3 @@ def table_over(source, word, table):
     for kind in word[::-1]:
         table = source.table_above(kind, table)
     return table
-
-
-def _told(source, table):
-    return source.told_table(table)[0]

@@ -1,10 +1,10 @@
 """Reads the texts of sheets and fills [25] [26]."""
 
-from belowneeds.checks import is_name
-from belowneeds.errors import InvalidFill, InvalidPlan, InvalidText
+from belowneeds.checks import DIGITS, is_name
+from belowneeds.errors import InvalidFill, InvalidText
 from belowneeds.fills import Fill
 from belowneeds.formulas import Formula
-from belowneeds.sheet_checks import GREATEST_MODULUS, LEAST_MODULUS, MAX_PLACES
+from belowneeds.sheet_checks import GREATEST_MODULUS, LEAST_MODULUS, MAX_PLACES, Checked, first_unreached
 from belowneeds.sheets import Sheet
 
 
@@ -16,15 +16,12 @@ def read_sheet(text):
     # What stands behind the last line feed is a line only if it is not empty.
     last = lines.pop()
     reading = SheetLines()
-    for number, line in enumerate(lines, 1):
-        if not reading.takes(line):
-            raise InvalidText(number)
-    if last or not reading.has_plan():
-        raise InvalidText(len(lines) + 1)
-    try:
-        return reading.sheet_told()
-    except InvalidPlan:
-        raise InvalidText(len(lines)) from None
+    many = reading.many_taken(lines)
+    if many < len(lines) or last or not reading.has_plan():
+        raise InvalidText(many + 1)
+    if not reading.is_plan_whole():
+        raise InvalidText(many)
+    return reading.sheet_told()
 
 
 def read_fill(text):
@@ -46,47 +43,56 @@ class SheetLines:
     """The lines of the text of a sheet, which are taken one by one."""
 
     def __init__(self):
-        self._modulus = None
+        self._modulus = 0
         self._columns = []
-        self._top = []
+        self._top = {}
         self._kinds = {}
-        # The formulas of the last kind.
-        self._formulas = []
         self._plan = []
+        # The formulas by their lines: many lines are the same.
+        self._formulas = {}
 
-    def takes(self, line):
-        """Takes the line that is due; tells whether it is one."""
-        words = line.split(" ")
-        if self._modulus is None:
-            return self._takes_modulus(words)
-        if not self._columns:
-            return self._takes_columns(words)
-        if not self._top:
-            return self._takes_top(words)
-        if self._kinds and len(self._formulas) < len(self._columns):
-            return self._takes_formula(line)
-        if words[0] == "plan":
-            return self._takes_plan(words[1:])
-        return self._takes_kind(words)
+    def many_taken(self, lines):
+        """Takes the lines; returns how many there are ahead of the first wrong one."""
+        heads = (self._takes_modulus, self._takes_columns, self._takes_top)
+        for number, line in enumerate(lines[:3]):
+            take = heads[number]
+            if not take(line):
+                return number
+        done = min(3, len(lines))
+        while done < len(lines) and self._takes_kind(lines[done]):
+            taken = self._many_formulas(lines[done + 1:done + 1 + len(self._columns)])
+            done += 1 + taken
+            if taken < len(self._columns):
+                return done
+        while done < len(lines) and self._takes_plan(lines[done]):
+            done += 1
+        return done
 
     def has_plan(self):
         """Whether there is a line with a place."""
         return len(self._plan) > 0
 
+    def is_plan_whole(self):
+        """Whether the places, which are taken all, make a plan."""
+        many = len(self._plan)
+        if max([place for leads in self._plan for place in leads.values()]) >= many:
+            return False
+        return first_unreached(self._plan) is None
+
     def sheet_told(self):
         """The sheet, behind all lines."""
-        top = dict(zip(self._columns, self._top))
-        kinds = {kind: dict(zip(self._columns, formulas)) for kind, formulas in self._kinds.items()}
-        return Sheet(self._modulus, self._columns, top, kinds, self._plan)
+        parts = Checked(self._modulus, tuple(self._columns), self._top, self._kinds, self._plan)
+        return Sheet(self._modulus, self._columns, self._top, parts)
 
-    def _takes_modulus(self, words):
-        numbers = _texts_of(LEAST_MODULUS, GREATEST_MODULUS)
-        if len(words) != 2 or words[0] != "modulus" or words[1] not in numbers:
+    def _takes_modulus(self, line):
+        word, _, told = line.partition(" ")
+        if word != "modulus" or told not in [str(number) for number in range(LEAST_MODULUS, GREATEST_MODULUS + 1)]:
             return False
-        self._modulus = int(words[1])
+        self._modulus = int(told)
         return True
 
-    def _takes_columns(self, words):
+    def _takes_columns(self, line):
+        words = line.split(" ")
         columns = words[1:]
         if words[0] != "columns" or not 1 <= len(columns) <= Sheet.MAX_COLUMNS:
             return False
@@ -95,23 +101,33 @@ class SheetLines:
         self._columns = columns
         return True
 
-    def _takes_top(self, words):
+    def _takes_top(self, line):
+        words = line.split(" ")
         if words[0] != "top" or len(words) != len(self._columns) + 1:
             return False
-        numbers = _texts_of(0, self._modulus - 1)
-        if not all([word in numbers for word in words[1:]]):
-            return False
-        self._top = [int(word) for word in words[1:]]
+        for column, word in zip(self._columns, words[1:]):
+            if DIGITS.get(word, self._modulus) >= self._modulus:
+                return False
+            self._top[column] = DIGITS[word]
         return True
 
-    def _takes_kind(self, words):
-        if len(words) != 2 or words[0] != "kind" or not is_name(words[1]):
+    def _takes_kind(self, line):
+        word, _, kind = line.partition(" ")
+        if word != "kind" or not is_name(kind):
             return False
-        if self._plan or len(self._kinds) == Sheet.MAX_KINDS or not _is_last(words[1], list(self._kinds)):
+        if len(self._kinds) == Sheet.MAX_KINDS or not _is_last(kind, self._kinds):
             return False
-        self._formulas = []
-        self._kinds[words[1]] = self._formulas
+        self._kinds[kind] = {}
         return True
+
+    def _many_formulas(self, lines):
+        """Takes the formulas of the last kind; returns how many there are ahead of the first wrong line."""
+        row = self._kinds[max(self._kinds)]
+        for column, line in zip(self._columns, lines):
+            if line not in self._formulas and not self._takes_formula(line):
+                return len(row)
+            row[column] = self._formulas[line]
+        return len(row)
 
     def _takes_formula(self, line):
         try:
@@ -120,28 +136,22 @@ class SheetLines:
             return False
         if not formula.fits(self._modulus, self._columns):
             return False
-        self._formulas.append(formula)
+        self._formulas[line] = formula
         return True
 
-    def _takes_plan(self, words):
-        """Takes a line `plan` by the words behind that one."""
-        numbers = _texts_of(0, MAX_PLACES - 1)
-        leads = {}
-        for kind, place in zip(words[::2], words[1::2]):
-            if kind not in self._kinds or not _is_last(kind, list(leads)) or place not in numbers:
-                return False
-            leads[kind] = int(place)
-        if not leads or 2 * len(leads) != len(words) or len(self._plan) == MAX_PLACES:
+    def _takes_plan(self, line):
+        words = line.split(" ")
+        if words[0] != "plan" or len(words) < 3 or len(words) % 2 == 0 or len(self._plan) == MAX_PLACES:
             return False
+        leads = {}
+        for kind, place in zip(words[1::2], words[2::2]):
+            if kind not in self._kinds or not _is_last(kind, leads) or DIGITS.get(place, MAX_PLACES) >= MAX_PLACES:
+                return False
+            leads[kind] = DIGITS[place]
         self._plan.append(leads)
         return True
 
 
-def _texts_of(low, high):
-    """The texts of these numbers."""
-    return [str(number) for number in range(low, high + 1)]
-
-
 def _is_last(name, names):
-    """Whether a name is greater than all of these, which ascend."""
-    return not names or name > names[-1]
+    """Whether a name is greater than all of these."""
+    return not names or name > max(names)

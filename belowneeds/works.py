@@ -21,10 +21,22 @@ class Works:
         top = sheet.top()
         self.top_cells = [top[column] for column in self.heads]
         self._modulus = sheet.modulus
-        self._formulas = {kind: sheet.formulas_of(kind) for kind in sheet.kinds()}
+        # For each kind, the list of the formulas in the sequence of the columns.
+        self.formulas = {kind: sheet.formulas_of(kind) for kind in sheet.kinds()}
         # These are made for a kind when it is asked for.
         self._worths = {}
         self._sights = {}
+
+    def plain_of(self, kind):
+        """For each column the tuple of Ways.told_by_one, or None if a cell of the kind looks at more."""
+        columns = self._columns_of(kind)
+        looked_at = []
+        for _, formula in columns:
+            found = looked_at_beside(formula)
+            if found is None:
+                return None
+            looked_at.append(found)
+        return [ways.told_by_one(formula, found) for (ways, formula), found in zip(columns, looked_at)]
 
     def worths_of(self, kind):
         """The list of the functions that tell the value of a cell or, by a number below 0, its need."""
@@ -48,7 +60,7 @@ class Works:
 
     def _columns_of(self, kind):
         """For each column of a kind, a tuple of the ways from there and the formula."""
-        formulas = self._formulas[kind]
+        formulas = self.formulas[kind]
         return [(Ways(self.numbers, number, self._modulus), formula) for number, formula in enumerate(formulas)]
 
 
@@ -72,6 +84,29 @@ class Ways:
             then, other = self.worth_of(formula.then), self.worth_of(formula.other)
             return _choice(self.worth_of(formula.test), formula.chosen, then, other)
         return self._worth_of_pair(formula)
+
+    def told_by_one(self, formula, looked_at):
+        """A tuple (position, told) for a formula that looks at one cell beside its row at most, in a list.
+
+        The position is that of the cell in the row above, or, below 0, from the end of the row below; told is a list
+        of what comes of each value there, and at its end of none.
+        """
+        values = [*list(range(self._modulus)), EMPTY]
+        width = len(self._numbers)
+        work = self.worth_of(formula)
+        cells = [EMPTY for _ in range(3 * width)]
+        if not looked_at:
+            worth = work(cells, width)
+            return 0, [worth for _ in values]
+        column, where = looked_at[0].column, looked_at[0].where
+        position = self._numbers[column] - (width if where == "down" else 0)
+        if isinstance(formula, Reference):
+            return position, values
+        told = []
+        for value in values:
+            cells[position] = value
+            told.append(max(EMPTY, work(cells, width + self._own)))
+        return position, told
 
     def sight_of(self, formula):
         """A function of cells and a position, for a formula that has a value: how far on lies what it looks at."""
@@ -104,6 +139,17 @@ class Ways:
     def _way(self, reference):
         """How many cells further on the cell stands to which the reference leads; always less than two rows."""
         return STEPS[reference.where] * len(self._numbers) + self._numbers[reference.column] - self._own
+
+
+def looked_at_beside(formula):
+    """A list of the one reference at most, to the row above or below, of a formula; None if it has others."""
+    if isinstance(formula, Reference):
+        return None if formula.where == "here" else [formula]
+    found = []
+    for _, node in formula.nodes():
+        if isinstance(node, Reference) and node not in found:
+            found.append(node)
+    return None if len(found) > 1 or (found and found[0].where == "here") else found
 
 
 def _number(value):

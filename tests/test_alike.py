@@ -2,6 +2,7 @@
 
 import random
 import unittest
+import unittest.mock
 
 from belowneeds.alike import (
     alike_paper, are_alike, change_told, first_unlike, is_alike_paper, is_unlike_paper, joint_tables,
@@ -17,9 +18,10 @@ from belowneeds.formulas import Choice, Down, Here, Most, Number, Plus, Up
 from belowneeds.fullness import delays
 from belowneeds.layers import layer_tables
 from belowneeds.sheets import Sheet
+from belowneeds.table_numbers import TableNumbers
 from belowneeds.tables import blank, is_rising, row_under, table_above, table_of
 from examples import (
-    ODD_VALUES, PLANS, CheckedCase, blocks, caught, free_blocks, late_sheet, levelled_formula, none_first, peek,
+    ODD_VALUES, PLANS, CheckedCase, blocks, caught, free_blocks, late_sheet, levelled_formula, none_first, parts_of, peek,
     sheet_of_tables, slow_counter, wide_sheet, words_from,
 )
 
@@ -422,6 +424,81 @@ class ChangeTest(CheckedCase):
         self.check(caught(change_told, small, "end", "n", formula, "n", limit=3, pairs=2), TooMany, what="pairs", limit=2)
         self.check(caught(change_told, small, "end", "n", formula, "n", limit=3, pairs=3), NotFull, column="n")
         self.assertEqual(sheet, blocks())
+
+
+def made_anew(sheet):
+    """An equal sheet of which nothing was asked."""
+    kinds = {kind: {column: sheet.formula(kind, column) for column in sheet.columns} for kind in sheet.kinds()}
+    return Sheet(sheet.modulus, sheet.columns, sheet.top(), kinds, sheet.plan())
+
+
+def answer(call, *values, **named):
+    """What a call returns, or the error that it raises with its attributes."""
+    try:
+        return call(*values, **named)
+    except (LimitError, StateError) as error:
+        return type(error), parts_of(error)
+
+
+class KeptTest(CheckedCase):
+    """What is kept with sheets, and what they have in common, changes no answer."""
+
+    def test_sheets_that_differ_in_one_thing(self):
+        row = {"a": Down("b"), "b": Plus(Down("a"), Number(1)), "c": Up("c")}
+        parts = {"modulus": 2, "columns": ["a", "b", "c"], "top": {"a": 0, "b": 0, "c": 0}, "kinds": {"x": row, "e": dict.fromkeys("abc", Number(0))}}
+        one = Sheet(**parts)
+        for changes in (
+            {"modulus": 3}, {"modulus": 7}, {"columns": ["b", "a", "c"]}, {"columns": ["c", "b", "a"]}, {"top": {"a": 1, "b": 1, "c": 1}},
+            {"kinds": {"x": {**row, "a": Down("c")}, "e": parts["kinds"]["e"]}}, {"kinds": {"x": {**row, "b": Up("b")}, "e": parts["kinds"]["e"]}},
+            {"kinds": {"x": {**row, "c": Number(1)}, "e": parts["kinds"]["e"]}}, {"kinds": {"x": parts["kinds"]["e"], "e": row}}, {},
+        ):
+            other = Sheet(**{**parts, **changes})
+            for first, second in ((one, other), (other, one)):
+                told = joint_tables(first, second)
+                self.assertEqual(told, joint_tables(made_anew(first), made_anew(second)))
+                for word in words_from(first, 4):
+                    self.assertIn((0, table_of(first, word), table_of(second, word)), [pair[:3] for pair in told])
+                for sheet in (first, second):
+                    self.assertEqual(layer_tables(sheet), layer_tables(made_anew(sheet)))
+                    self.assertEqual(delays(sheet), delays(made_anew(sheet)))
+
+    def test_in_any_sequence_as_of_sheets_made_anew(self):
+        done = 0
+        for seed in range(40):
+            rnd, (one, other) = random.Random(seed), pair_of_sheets(seed)
+            calls = [(call, one, rnd.choice(one.columns), other, rnd.choice(other.columns)) for call in (are_alike, first_unlike, alike_paper)]
+            calls = [*calls, *[(call, two, column, one, column) for call, two, column, *_ in calls], (joint_tables, one, other), (joint_tables, other, one)]
+            for kind in one.kinds():
+                for column in one.columns:
+                    for formula in (Number(0), Up(column), Down(column)):
+                        calls.append((change_told, one, kind, column, formula, rnd.choice(one.columns)))
+            rnd.shuffle(calls)
+            for call, *values in calls + calls[:9]:
+                pairs = rnd.choice([1500, 1500, 8, 3])
+                right = answer(call, *[made_anew(value) if isinstance(value, Sheet) else value for value in values], pairs=pairs)
+                self.assertEqual(answer(call, *values, pairs=pairs), right)
+                done += 1
+        self.assertGreater(done, 800)
+
+    def test_a_change_is_worked_out_once_and_only_for_its_kind(self):
+        rows = {kind: {column: Down(column) for column in "ab"} for kind in ("p", "q", "r", "s")}
+        rows["p"]["a"], rows["q"]["b"], rows["r"]["a"], rows["s"]["b"] = Down("a") + 1, Down("b") + 1, Number(0), Number(0)
+        sheet = Sheet(7, ["a", "b"], {"a": 0, "b": 0}, rows)
+        with unittest.mock.patch.object(TableNumbers, "row_of", autospec=True, side_effect=TableNumbers.row_of) as work:
+            self.assertEqual(len(layer_tables(sheet)), 64)
+            many = work.call_count
+            for formula, more in ((Down("a") + 1, 64), (Down("a") + 1, 0), (Down("a") + 2, 64), (Down("a") + 1, 64), (Down("a") + 1, 0)):
+                self.check(caught(change_told, sheet, "q", "a", formula, "a", pairs=200), TooMany, what="pairs", limit=200)
+                many += more
+                self.assertEqual(work.call_count, many)
+
+    def test_what_is_returned_can_be_changed(self):
+        sheet = blocks()
+        told = [joint_tables(sheet, sheet), *alike_paper(sheet, "n", sheet, "n")]
+        copies = [list(one) for one in told]
+        for one in told:
+            one.clear()
+        self.assertEqual([joint_tables(sheet, sheet), *alike_paper(sheet, "n", sheet, "n")], copies)
 
 
 class ErrorsTest(CheckedCase):

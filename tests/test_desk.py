@@ -238,6 +238,27 @@ class ErrorsTest(CheckedCase):
             self.check(caught(desk.do, "cell b 0 z " + text), InvalidText, line=1)
         self.assertEqual([desk.names(), len(desk.log())], [["b"], 1])
 
+    def test_what_a_cell_refuses_first(self):
+        desk = desk_with(b=blocks(), w=wide_sheet())
+        for command, kind, parts in (
+            ("cell b 0 z (item", InvalidText, {"line": 1}), ("cell b 0 z (item)", NotAllowed, {"row": 3}), ("cell w 0 z (x y)", NotAllowed, {"row": 2}),
+            ("cell w 0 z (x)", TooMany, {"what": "entries", "limit": 100}), ("cell b 0 z (end)", InvalidRow, {"value": 0}),
+            (f"cell b {10 ** 60 + 1} z (end)", InvalidRow, {"value": 10 ** 60 + 1}), ("cell b 1 z (end)", UnknownColumn, {"value": "z"}),
+        ):
+            before = state_of(desk)
+            for call in (desk.do, lambda told: desk.do_all("top b n 1", told), lambda told: tried(desk, "formula b end n 1", told)):
+                self.check(caught(call, command), kind, **parts)
+                self.assertEqual(state_of(desk), before)
+
+    def test_words_of_many_kinds(self):
+        desk = desk_with(b=blocks(), f=free_blocks())
+        self.check(caught(desk.do, "rows b " + "end " * 400 + "end"), TooMany, what="rows", limit=400)
+        self.check(caught(desk.do, "rows b " + "end " * 400 + "item item item"), InvalidWord, position=402)
+        self.check(caught(desk.do, "rows b " + "end " * 400 + "z"), InvalidWord, position=400)
+        for word in ("end " * 400 + "Z", "end " * 400, "end " * 200 + " end", "if " + "end " * 400 + "end", "end " * 400 + "end\n"):
+            self.check(caught(desk.do, "rows b " + word), InvalidCommand, value="rows b " + word)
+        self.assertEqual(desk.do("rows f " + "item end " * 199 + "item end").split(" | ")[398:], ["1 0", "0 0"])
+
     def test_the_errors_of_the_functions(self):
         desk = desk_with(b=blocks(), f=free_blocks())
         for command, kind, parts in (

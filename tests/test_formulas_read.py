@@ -25,6 +25,11 @@ WRONG = (
     "if 1 in {} then 2 else 3 else 4", "IF 1 in {} then 2 else 3", "if 1 in () then 2 else 3",
     "if 1 in {} then 2 else 3 + 4",
     "Number(1)", "Plus(Up('u'), Number(1))", "None", "True",
+    ".", "0 .", "(.", "( . + 1)", "here .", "if 1 in {.} then 2 else 3", "if 1 in . then 2 else 3", "if 1 in {} . 2 else 3",
+    "( 1 + 2 )", "(1 + 2 )", "least( 1, 2)", "least(1, 2 )", "least(1,  2)", "least(1 , 2)", "least ( 1 , 2 )", "least",
+    "if 1 in {  } then 2 else 3", "if 1 in { 1 } then 2 else 3", "if 1 in {1 } then 2 else 3", "if 1 in {1,  2} then 2 else 3",
+    "if 1 in {{} then 2 else 3", "if 1 in {}} then 2 else 3", "if 1 in{1} then 2 else 3", "if  1 in {} then 2 else 3",
+    "(1\t+ 2)", "(1 + 2)\n", "(1 + 2),", ",", "{}", "{", "}", "(", ")", "(,)",
 )
 
 
@@ -98,6 +103,14 @@ class ReadTest(unittest.TestCase):
         self.refused(f"({wide(39)} + 1)", 1)
         self.refused(f"if {wide(13)} in {{}} then {wide(13)} else {wide(15)}", 1)
         self.refused(f"({wide(39)} + {wide(39)})", 1)
+
+    def test_the_longest_text(self):
+        formula = Here("abcdefgh")
+        for _ in range(3):
+            formula = Choice(formula, tuple(range(9)), formula, formula)
+        self.assertEqual([len(formula), len(str(formula)), Formula.read(str(formula)) == formula], [40, 949, True])
+        self.refused(str(formula) + " " * 900, 1)
+        self.refused(str(formula) + ")" * 900, 1)
 
     def test_depth_eight_and_nine(self):
         for parts in (("(", "1", " + 2)"), ("(1 = ", "2", ")"), ("least(", "1", ", 2)"), ("most(1, ", "2", ")"),

@@ -193,6 +193,19 @@ class FormTest(unittest.TestCase):
         for name in yielding:
             self.assertEqual([node.name for node in functions].count(name), 1)
 
+    def test_no_attribute_and_no_method_has_a_name_that_builtin_values_need(self):
+        barred = "items keys values pop update append clear extend insert remove reverse setdefault sort args encode decode hex fromhex format"
+        barred = {*barred.split(), "conjugate", "from_bytes", "to_bytes", "bit_count", "as_integer_ratio"}
+        assigned = {node.attr for node in nodes_of(ast.Attribute) if isinstance(node.ctx, ast.Store)}
+        self.assertEqual([assigned & barred, {node.name for node in nodes_of(ast.FunctionDef)} & barred], [set(), set()])
+
+    def test_no_star_stands_in_an_index(self):
+        indexes = nodes_of(ast.Subscript)
+        self.assertGreater(len(indexes), 200)
+        for node in indexes:
+            stars = [part.lineno for part in ast.walk(node.slice) if isinstance(part, ast.Starred)]
+            self.assertEqual(stars, [], ast.unparse(node))
+
     def test_in_texts_of_objects_a_sum_joins_only_what_is_plainly_a_text(self):
         # Beside __add__, a + in __str__ and __repr__ stands between str(..), written texts and f-strings alone.
         told = [node for node in nodes_of(ast.FunctionDef) if node.name in ("__str__", "__repr__", "_as_text", "_lines")]

@@ -8,8 +8,8 @@ from belowneeds.errors import (
 )
 from belowneeds.formulas import Down, Here, Number, Up
 from belowneeds.layers import layer_tables, standings, still_from, ways, word_of
-from belowneeds.rows_under import RowsUnder
 from belowneeds.sheets import Sheet
+from belowneeds.table_numbers import TableNumbers
 from belowneeds.tables import blank, entries, row_under, table_above, table_of
 from examples import (
     ODD_VALUES, CheckedCase, blocks, caught, free_blocks, late_sheet, model_table, none_first, planned_sheet,
@@ -29,6 +29,15 @@ def model_layers(sheet, most):
             tables.setdefault(model_table(sheet, word), []).append(word)
         found.append(tables)
     return found
+
+
+def counter(modulus, kinds):
+    """A sheet with three columns: each of the first three kinds adds 1 to one of them, the last one begins anew."""
+    rows = {kind: {column: Down(column) for column in "abc"} for kind in kinds}
+    for kind, column in zip(kinds, "abc"):
+        rows[kind][column] = Down(column) + 1
+    rows[kinds[3]] = dict.fromkeys("abc", Number(0))
+    return Sheet(modulus, list("abc"), dict.fromkeys("abc", 0), rows)
 
 
 class LayerTablesTest(CheckedCase):
@@ -102,7 +111,7 @@ class LayerTablesTest(CheckedCase):
 class KeptTest(CheckedCase):
     def test_rows_are_worked_out_once_for_a_sheet(self):
         for sheet, limit in ((sheet_of_tables(120), 400), (sheet_of_tables(500), 400), (late_sheet(7), 400), (sheet_of_tables(60), 59)):
-            with unittest.mock.patch.object(RowsUnder, "_between", autospec=True, side_effect=RowsUnder._between) as work:
+            with unittest.mock.patch.object(TableNumbers, "row_of", autospec=True, side_effect=TableNumbers.row_of) as work:
                 counts = []
                 for _ in range(2):
                     for call in (still_from, layer_tables, lambda told, limit: ways(told, 0, blank(told), limit=limit),
@@ -122,6 +131,19 @@ class KeptTest(CheckedCase):
                 self.check(caught(layer_tables, sheet, limit=limit), TooMany, what="tables", limit=limit)
             else:
                 self.assertEqual(layer_tables(sheet, limit=limit), layer_tables(sheet_of_tables(500), limit=limit))
+
+    def test_too_many_tables_are_seen_before_most_of_them_are_made(self):
+        for kinds in (("pa", "pb", "pc", "r"), ("s", "t", "u", "a"), ("x", "b", "z", "y")):
+            sheet = counter(8, kinds)
+            with unittest.mock.patch.object(TableNumbers, "row_of", autospec=True, side_effect=TableNumbers.row_of) as work:
+                self.check(caught(layer_tables, sheet), TooMany, what="tables", limit=400)
+                # There are 4 for each table that was found, if all that stands above each is asked for.
+                self.assertLess(work.call_count, 900)
+            told = layer_tables(sheet, limit=513)
+            self.assertEqual([len(told), told == layer_tables(counter(8, kinds), limit=900)], [513, True])
+            for _, table, _ in told[::40]:
+                word = word_of(sheet, 0, table, limit=513)
+                self.assertEqual(len(word), 0 if None in table[0] else 1 + sum(table[0]))
 
     def test_what_is_returned_can_be_changed(self):
         sheet = blocks()

@@ -1,15 +1,18 @@
 """Points [2], [21], [22], [24] and [25]: sheets, plans, words, and the texts of sheets."""
 
+import random
 import unittest
 
 from belowneeds.errors import (
-    InvalidColumns, InvalidKinds, InvalidNumber, InvalidPlan, InvalidTop, InvalidWhere, InvalidWord, MissingError,
+    InvalidColumns, InvalidKinds, InvalidNumber, InvalidPlan, InvalidTop, InvalidWhere, InvalidWord, LimitError, MissingError,
     SheetError, UnknownColumn, UnknownKind, UnknownPlace,
 )
 from belowneeds.formulas import Choice, Down, Here, Number, Plus, Up
+from belowneeds.fullness import delays
 from belowneeds.sheets import Sheet
 from examples import (
-    BLOCKS_TEXT, END, ITEM, ODD_VALUES, PLAN, TOTAL, CheckedCase, blocks, caught, free_blocks, peek, random_sheet,
+    BLOCKS_TEXT, END, ITEM, ODD_VALUES, PLAN, TOTAL, CheckedCase, blocks, caught, free_blocks, peek, planned_sheet, random_formula,
+    random_sheet,
 )
 
 ONE = {"n": Number(1)}
@@ -17,6 +20,14 @@ ONE = {"n": Number(1)}
 
 def small(modulus=2, columns=("n",), top=None, kinds=None, plan=None):
     return Sheet(modulus, columns, {"n": 0} if top is None else top, {"a": ONE} if kinds is None else kinds, plan)
+
+
+def delays_or_none(sheet):
+    """The delays of the columns, or None for a sheet that is too large to tell them."""
+    try:
+        return delays(sheet, limit=40)
+    except LimitError:
+        return None
 
 
 class MadeTest(CheckedCase):
@@ -249,6 +260,30 @@ class OtherSheetsTest(CheckedCase):
         self.check(caught(sheet.with_top, u=2, n=2), InvalidTop, column="n")
         for value in (-1, 2, True, False, None, "0", [], {}):
             self.check(caught(sheet.with_top, u=value), InvalidTop, column="u")
+
+    def test_changes_of_changed_sheets_are_as_sheets_made_anew(self):
+        for seed in range(30):
+            rnd, sheet = random.Random(seed), planned_sheet(seed)
+            rows = {kind: {column: sheet.formula(kind, column) for column in sheet.columns} for kind in sheet.kinds()}
+            top, before = sheet.top(), []
+            for _ in range(6):
+                column = rnd.choice(sheet.columns)
+                before.append((sheet, str(sheet), [sheet.reads(where) for where in ("up", "here", "down")], sheet.plan()))
+                if rnd.randrange(2):
+                    kind = rnd.choice(sheet.kinds())
+                    rows[kind][column] = random_formula(rnd, 2, list(sheet.columns), sheet.modulus)
+                    sheet = sheet.with_formula(kind, column, rows[kind][column])
+                else:
+                    top[column] = rnd.randrange(sheet.modulus)
+                    sheet = sheet.with_top(**{column: top[column]})
+                right = Sheet(sheet.modulus, sheet.columns, top, rows, sheet.plan())
+                self.assertEqual([sheet, str(sheet), repr(sheet), sheet.top(), sheet.kinds()], [right, str(right), repr(right), right.top(), right.kinds()])
+                for where in ("up", "here", "down"):
+                    self.assertEqual(sheet.reads(where), right.reads(where))
+                # What was asked of it ahead of the change has no effect behind it.
+                self.assertEqual([delays_or_none(sheet), delays_or_none(sheet)], [delays_or_none(right)] * 2)
+            for old, text, reads, plan in before:
+                self.assertEqual((old, str(old), [old.reads(where) for where in ("up", "here", "down")], old.plan()), (old, text, reads, plan))
 
     def test_free(self):
         sheet = Sheet.free(9, ("c",), {"c": 8}, b={"c": Number(8)}, a={"c": Up("c")})
