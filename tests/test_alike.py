@@ -17,6 +17,7 @@ from belowneeds.fills import Fill, first_refused
 from belowneeds.formulas import Choice, Down, Here, Most, Number, Plus, Up
 from belowneeds.fullness import delays
 from belowneeds.layers import layer_tables
+from belowneeds.rows_under import rows_of
 from belowneeds.sheets import Sheet
 from belowneeds.table_numbers import TableNumbers
 from belowneeds.tables import blank, is_rising, row_under, table_above, table_of
@@ -491,6 +492,16 @@ class KeptTest(CheckedCase):
                 self.check(caught(change_told, sheet, "q", "a", formula, "a", pairs=200), TooMany, what="pairs", limit=200)
                 many += more
                 self.assertEqual(work.call_count, many)
+
+    def test_tables_are_not_had_in_common_without_end(self):
+        for most, many in ((5, 6), (10000, 10)):
+            # Rows x need the rows below them for ever, and show what the next row e does.
+            sheet = Sheet.free(9, ["a"], {"a": 0}, x={"a": Down("a")}, e={"a": Number(0)})
+            with unittest.mock.patch("belowneeds.rows_under.MOST_SHARED", most):
+                for number in range(9):
+                    self.check(caught(change_told, sheet, "e", "a", Number(number), "a"), NotFull, column="a")
+            self.assertEqual(len(rows_of(sheet).numbers.tables), many)
+            self.assertEqual(len(layer_tables(sheet)), 2)
 
     def test_what_is_returned_can_be_changed(self):
         sheet = blocks()

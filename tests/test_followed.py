@@ -60,6 +60,17 @@ class NeverFollowedTest(CheckedCase):
         fill, row = where_followed(column="u", kind="end", number=2, sheet=sheet)
         self.assertEqual([row, fill.kind_at(1), first_refused(sheet, fill)], [1, "end", None])
 
+    def test_rows_of_several_kinds_that_see_and_show_the_same(self):
+        # Nothing but the kind tells these rows apart: what stands above and below them, and all their cells.
+        zero = Choice(Up("c"), (7,), Here("d"), Number(0))
+        kinds = {"x": {"c": Number(0), "d": Up("c")}, "y": {"c": zero, "d": Number(0)}, "z": {"c": Here("d"), "d": Least(Number(0), Up("d"))}}
+        sheet = Sheet(8, ["c", "d"], {"c": 0, "d": 0}, kinds)
+        self.assertEqual(never_followed(sheet), [("y", "c", 2)])
+        for kind, column, number in occurrences(sheet):
+            told = where_followed(sheet, kind, column, number)
+            self.assertEqual(None if told is None else told[1], None if (kind, number) == ("y", 2) else 1)
+        self.assertEqual([constant_value(sheet, "c"), constant_value(sheet, "d")], [0, 0])
+
     def test_a_choice_that_never_chooses(self):
         formula = Choice(Here("a"), (0,), Down("b"), Plus(Up("a"), Here("b")))
         sheet = Sheet.free(2, ["a", "b", "c"], dict.fromkeys("abc", 0),
