@@ -96,9 +96,7 @@ def _changed(sheet, kind, column, formula):
     """The sheet with this formula instead. The last one for each kind and column is kept."""
     # Refuses what is no kind or no column.
     sheet.formula(kind, column)
-    if "changed" not in sheet.kept:
-        sheet.kept["changed"] = {}
-    kept = sheet.kept["changed"]
+    kept = sheet.kept.setdefault("changed", {})
     if (kind, column) not in kept or kept[(kind, column)].formula(kind, column) != formula:
         kept[(kind, column)] = sheet.with_formula(kind, column, formula)
     return kept[(kind, column)]

@@ -104,7 +104,7 @@ class PlainCells:
     """Works out the cells of a row of a kind, if each looks at one cell beside the row at most."""
 
     def __init__(self, plain):
-        """For each column the tuple of Ways.plain_of."""
+        """For each column the tuple of Ways.told_by_one."""
         self._plain = plain
         # The row above if nothing there is looked at.
         self.nothing = ()
