@@ -26,7 +26,6 @@ class JointRows:
         self._one = one
         self._other = other
         self._rows = {}
-        self._steps = JointSteps(one.steps_up(), other.steps_up())
         self.told_parts = 2
         self.top_number = self._above(one.top_number, other.top_number)
 
@@ -83,9 +82,9 @@ class JointRows:
         first = self._one.table_above(kind, table >> TABLE_BITS)
         return first << TABLE_BITS | self._other.table_above(kind, table & TABLE_MASK)
 
-    def keys_above(self, key):
-        """The list of the keys (see steps.py) of what is above, one for each way to the place."""
-        return self._steps.keys_above(key)
+    def steps_up(self):
+        """What stands above the places and pairs of the sheets."""
+        return JointSteps(self._one.steps_up(), self._other.steps_up())
 
     def finder(self, keys):
         """What finds all places and pairs that stand above some."""

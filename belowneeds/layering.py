@@ -12,6 +12,7 @@ class Layers:
         """The source tells which tables stand above which. Nothing but the blank tables is found yet."""
         self._plan = plan
         self._source = source
+        self._steps = source.steps_up()
         blank = source.blank()
         self._blanks = [key_of(place, blank) for place in range(len(plan))]
         self._finder = source.finder(self._blanks)
@@ -41,8 +42,7 @@ class Layers:
     def overs(self):
         """A dict from the keys to the lists of the keys of what is above them, one for each way to the place."""
         if self._overs is None:
-            keys_above = self._source.keys_above
-            self._overs = {key: keys_above(key) for key in self._finder.all_keys}
+            self._overs = {key: self._steps.keys_above(key) for key in self._finder.all_keys}
         return self._overs
 
     def outs(self):
@@ -50,7 +50,7 @@ class Layers:
         if self._outs is None:
             # The less a table below shows, the less the one above it does. So a blank table that is above any table
             # is above the blank one of its place.
-            above = [key for blank in self._blanks for key in self._source.keys_above(blank)]
+            above = [key for blank in self._blanks for key in self._steps.keys_above(blank)]
             ended = [blank for blank in self._blanks if blank not in above]
             self._outs = outs_of(ended, self.overs()) if ended else {}
         return self._outs

@@ -59,10 +59,6 @@ class RowsUnder:
             self._steps_up = Steps(self._plan, self)
         return self._steps_up
 
-    def keys_above(self, key):
-        """The list of the keys (see steps.py) of what is above, one for each way to the place."""
-        return self.steps_up().keys_above(key)
-
     def finder(self, keys):
         """What finds all places and tables that stand above some."""
         return Finder(self.steps_up(), keys)
