@@ -103,7 +103,8 @@ class RowLooks:
     def numbers_met(self, below, column):
         """The numbers of the references that are worked out in the formula of this column."""
         _, kind, _, row = below
-        over, shown = self._source.numbers.values_around(*self.around(below))
+        above, seen = self.around(below)
+        over, shown = self._source.numbers.values_around(above, seen)
         looks = self._sheet.formula(kind, column).met(self._sheet.modulus, over, self._source.row_told(row), shown)
         return [number for number, _, _ in looks]
 

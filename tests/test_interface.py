@@ -151,6 +151,46 @@ def decorators(function):
     return [node.id for node in function.decorator_list]
 
 
+def first_star(call):
+    """The position of the first argument of a call that has a star, or None."""
+    return next((at for at, part in enumerate(call.args) if isinstance(part, ast.Starred)), None)
+
+
+def has_two_stars(call):
+    return any(word.arg is None for word in call.keywords)
+
+
+def is_short(node, told):
+    """Whether this is a name, or an attribute off a name that is no property; told has the names of the properties."""
+    if isinstance(node, ast.Attribute):
+        return isinstance(node.value, ast.Name) and node.attr not in told
+    return isinstance(node, ast.Name)
+
+
+def is_plain(node, told):
+    """Whether this may stand behind a star, and beside two: a short one, a literal, or a list, tuple or dict of these."""
+    if isinstance(node, ast.Starred):
+        return is_plain(node.value, told)
+    if isinstance(node, (ast.List, ast.Tuple)):
+        return all(is_plain(part, told) for part in node.elts)
+    if isinstance(node, ast.Dict):
+        return all(part is not None and is_plain(part, told) for part in [*node.keys, *node.values])
+    return isinstance(node, ast.Constant) or is_short(node, told)
+
+
+def keeps_to_stars(call, told):
+    """Whether a call with stars keeps to the rule (L7, calls with stars)."""
+    begin = 0 if has_two_stars(call) else first_star(call)
+    behind = [*call.args[begin:], *[word.value for word in call.keywords]]
+    if not is_short(call.func, told) or not all(is_plain(node, told) for node in behind):
+        return False
+    if has_two_stars(call):
+        return len(call.keywords) == 1 and is_short(call.keywords[0].value, told)
+    places = [(word.value.lineno, word.value.col_offset) for word in call.keywords]
+    star = call.args[begin]
+    return all(place > (star.lineno, star.col_offset) for place in places)
+
+
 class FormTest(unittest.TestCase):
     def test_files_functions_and_lines_are_short_and_plain(self):
         files = sorted(PACKAGE.glob("*.py"))
@@ -205,6 +245,20 @@ class FormTest(unittest.TestCase):
         for node in indexes:
             stars = [part.lineno for part in ast.walk(node.slice) if isinstance(part, ast.Starred)]
             self.assertEqual(stars, [], ast.unparse(node))
+
+    def test_behind_stars_of_calls_stand_only_names_attributes_and_literals(self):
+        told = [node.name for node in nodes_of(ast.FunctionDef) if "property" in decorators(node)]
+        calls = [node for node in nodes_of(ast.Call) if first_star(node) is not None or has_two_stars(node)]
+        self.assertGreater(len(calls), 5)
+        for node in calls:
+            self.assertTrue(keeps_to_stars(node, told), (node.lineno, ast.unparse(node)))
+
+    def test_the_rule_of_stars_tells_right_calls_from_wrong_ones(self):
+        for text in ("f(*xs)", "f(k, *xs)", "f(g(1), *xs)", "f(*xs, n, sep=n)", "f(*box.rows)", "f(*(a, [1, box.b]), {1: c})", "f(**d)", "f(**box.d)", "f(a, **d)", "box.f(*xs)"):
+            self.assertTrue(keeps_to_stars(ast.parse(text, mode="eval").body, ["many"]), text)
+        for text in ("f(*g(1))", "f(*box.g(1))", "f(*box.inner.rows)", "f(*xs[0])", "f(*(a, g(1)))", "f(*[x for x in xs])", "f(*xs, g(1))", "f(*xs, n=g(1))", "f(*(xs or ys))",
+                     "f(*box.many)", "f(n=1, *xs)", "f(n=1, **d)", "f(**d, **e)", "f(**{1: 2})", "f(**g(1))", "f(g(1), **d)", "f(*a + b)", "a.b.f(*xs)", "f(1)(*xs)", "f(*[*g(1)])"):
+            self.assertFalse(keeps_to_stars(ast.parse(text, mode="eval").body, ["many"]), text)
 
     def test_in_texts_of_objects_a_sum_joins_only_what_is_plainly_a_text(self):
         # Beside __add__, a + in __str__ and __repr__ stands between str(..), written texts and f-strings alone.
