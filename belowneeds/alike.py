@@ -103,7 +103,7 @@ def _changed(sheet, kind, column, formula):
 
 
 def _check_plans(one, other):
-    if one.plan() != other.plan():
+    if not one.has_plan_of(other):
         raise OtherPlan()
 
 

@@ -37,7 +37,7 @@ def is_name(value):
     """Whether this is a name."""
     if not isinstance(value, str) or len(value) > LONGEST_NAME or value in RESERVED:
         return False
-    return value.isascii() and value.isalpha() and value.islower()
+    return value.isalpha() and value.islower() and value.isascii()
 
 
 def is_where(value):

@@ -1,7 +1,7 @@
 """Cuts [31]: the rows of a word, as far as they have values without the rows below."""
 
 from belowneeds.checks import is_between
-from belowneeds.errors import InvalidRow, TooMany
+from belowneeds.errors import InvalidRow, InvalidWord, TooMany
 from belowneeds.sheet_checks import check_column, check_foot
 from belowneeds.sights import CutSights
 from belowneeds.solving import Solution
@@ -95,3 +95,15 @@ class Cut:
     def _check_cell(self, row, column):
         self._check_row(row)
         check_column(column, self._sheet)
+
+
+def rows_in(sheet, names):
+    """The lists of the values, or None, of the rows of a list of strings; the errors are those of Cut."""
+    position = sheet.refused_at(names)
+    if position is not None:
+        raise InvalidWord(position)
+    if len(names) > MAX_ROWS:
+        raise TooMany("rows", MAX_ROWS)
+    solution = Solution(sheet, None)
+    solution.add_rows(names)
+    return [list(solution.row_values(row).values()) for row in range(1, len(names) + 1)]

@@ -1,37 +1,49 @@
 """A desk [93], which has sheets by names and performs commands."""
 
-from belowneeds.commands import answer_of, command_parts, names_used
-from belowneeds.errors import InvalidCommand, NameTaken, NothingToUndo, UnknownName
-from belowneeds.formulas import Formula
-from belowneeds.texts import read_sheet
+from belowneeds.command_texts import CommandTexts
+from belowneeds.commands import answer_of, is_change, sheets_behind
+from belowneeds.errors import NameTaken, NothingToUndo, UnknownName
 from belowneeds.trials import Trial
 
 DONE = "done"
+# How many levels behind commands are kept.
+MOST_LEVELS = 50
 
 
 class Desk:
     """Sheets by names, which commands put, change, ask and drop."""
 
     def __init__(self):
-        # One level outside of all trials, and one for each trial that was begun.
-        self._levels = [Level({}, (), 0)]
+        empty = Level({}, None, None)
+        # How the desk was at first, and at the beginning of each trial that was begun; at last, how it is.
+        self._levels = [empty, empty]
         # A mark for each of these trials that has ended.
         self._ended = []
+        self._texts = CommandTexts()
+        # The levels behind commands, by the level and the command.
+        self._levels_behind = {}
 
     def do(self, command):
         """Performs a command; returns the answer."""
-        return self.do_all(command)[0]
+        if self._ended:
+            self._forget_ended_trials()
+        level, answer = self._performed(self._levels[-1], command, self._levels[-2])
+        self._levels[-1] = level
+        return answer
 
     def do_all(self, *commands):
         """Performs all of the commands or none; returns the list of the answers."""
-        level = self._level()
-        answers = []
-        for command in commands:
-            level, answer = _performed(level, command)
-            answers.append(answer)
-        self._forget_ended_trials()
+        if self._ended:
+            self._forget_ended_trials()
+        level, answers = self._all_performed(commands, self._levels[-2])
         self._levels[-1] = level
         return answers
+
+    def answers_in_trial(self, commands):
+        """The list of what these commands would answer in a trial."""
+        if self._ended:
+            self._forget_ended_trials()
+        return self._all_performed(commands, self._levels[-1])[1]
 
     def undo(self):
         """Takes back the last command that changed the sheets and is not taken back."""
@@ -43,13 +55,19 @@ class Desk:
 
     def sheet_of(self, name):
         """The sheet with this name."""
-        if name not in self:
+        sheets = self._level().sheets
+        if not isinstance(name, str) or name not in sheets:
             raise UnknownName(name)
-        return self._level().sheets[name]
+        return sheets[name]
 
     def log(self):
         """The list of the commands that changed the sheets and are not taken back."""
-        return [command for command, _ in self._level().steps]
+        level = self._level()
+        commands = []
+        while level.before is not None:
+            commands.append(level.last_command)
+            level = level.before
+        return commands[::-1]
 
     def trial(self):
         """A context manager; at its end the desk is as it was at its beginning."""
@@ -58,8 +76,7 @@ class Desk:
     def begin_trial(self):
         """Keeps how the desk is, for the end of a trial."""
         self._forget_ended_trials()
-        level = self._level()
-        self._levels.append(Level(level.sheets, level.steps, len(level.steps)))
+        self._levels.append(self._levels[-1])
 
     def __contains__(self, name):
         return isinstance(name, str) and name in self._level().sheets
@@ -69,7 +86,7 @@ class Desk:
 
     def _level(self):
         """How the desk is, without the trials that have ended."""
-        return self._levels[len(self._levels) - len(self._ended) - 1]
+        return self._levels[-1 - len(self._ended)]
 
     def _forget_ended_trials(self):
         # The end of a trial can only be marked.
@@ -77,60 +94,55 @@ class Desk:
             del self._levels[len(self._levels) - len(self._ended):]
             self._ended.clear()
 
+    def _all_performed(self, commands, first):
+        """The level behind these commands, and the list of the answers."""
+        level = self._levels[-1]
+        answers = []
+        for command in commands:
+            level, answer = self._performed(level, command, first)
+            answers.append(answer)
+        return level, answers
+
+    def _performed(self, level, value, first):
+        """The level behind a command, and the answer; nothing is taken back of what was done up to the first level."""
+        command = self._texts.command_in(value)
+        sheets = level.sheets
+        if command.action == "put" and command.parts[0] in sheets:
+            raise NameTaken(command.parts[0])
+        for name in command.asked:
+            if name not in sheets:
+                raise UnknownName(name)
+        if is_change(command):
+            return self._changed(level, value, command), DONE
+        if command.action == "undo":
+            if level.many == first.many:
+                raise NothingToUndo()
+            return level.before, DONE
+        return level, answer_of(command, sheets, self._texts)
+
+    def _changed(self, level, value, command):
+        """The level behind a command that changes the sheets."""
+        key = (level, value)
+        if key not in self._levels_behind:
+            sheets = sheets_behind(command, level.sheets, self._texts)
+            if len(self._levels_behind) >= MOST_LEVELS:
+                self._levels_behind = {}
+            self._levels_behind[key] = Level(sheets, level, value)
+        return self._levels_behind[key]
+
 
 class Level:
     """How a desk is. It does not change."""
 
-    def __init__(self, sheets, steps, fixed):
-        """The sheets by names; for each command that changed them, it and the sheets ahead of it; how many stay."""
+    def __init__(self, sheets, before, command):
+        """The sheets by names, the level ahead of the last command that changed them, and this command, or None."""
         self.sheets = sheets
-        self.steps = steps
-        self.fixed = fixed
+        self.before = before
+        self.last_command = command
+        # How many commands led here.
+        self.many = 0 if before is None else before.many + 1
 
 
 def tried(desk, *commands):
     """What the commands would answer, without an effect."""
-    with desk.trial():
-        return desk.do_all(*commands)
-
-
-def _performed(level, command):
-    """The level behind a command, and the answer."""
-    parts = command_parts(command)
-    if parts is None:
-        raise InvalidCommand(command)
-    if parts[0] == "put" and parts[1] in level.sheets:
-        raise NameTaken(parts[1])
-    for name in names_used(parts):
-        if name not in level.sheets:
-            raise UnknownName(name)
-    if parts[0] == "undo":
-        return _taken_back(level), DONE
-    if parts[0] in ("put", "formula", "top", "drop"):
-        steps = (*level.steps, (command, level.sheets))
-        return Level(_changed(parts, level.sheets), steps, level.fixed), DONE
-    return level, answer_of(parts, level.sheets)
-
-
-def _taken_back(level):
-    if len(level.steps) == level.fixed:
-        raise NothingToUndo()
-    _, sheets = level.steps[-1]
-    return Level(sheets, level.steps[:-1], level.fixed)
-
-
-def _changed(parts, sheets):
-    """The sheets behind a command that changes them."""
-    word, name = parts[0], parts[1]
-    found = dict(sheets)
-    if word == "put":
-        # The line feeds of the text, of which the last one is left out.
-        text = parts[2].replace(" | ", "\n")
-        found[name] = read_sheet(f"{text}\n")
-    elif word == "formula":
-        found[name] = found[name].with_formula(parts[2], parts[3], Formula.read(parts[4]))
-    elif word == "top":
-        found[name] = found[name].topped({parts[2]: parts[3]})
-    else:
-        del found[name]
-    return found
+    return desk.answers_in_trial(commands)

@@ -1,7 +1,7 @@
 """Fills [23]: endless sequences of kinds."""
 
 from belowneeds.checks import is_between, is_list, is_name
-from belowneeds.errors import InvalidCount, InvalidFill, InvalidRow, InvalidWord
+from belowneeds.errors import InvalidCount, InvalidFill, InvalidRow
 from belowneeds.turning import moved_on, normal_form, told_at
 
 LAST_ROW = 10 ** 60
@@ -64,12 +64,8 @@ class Fill:
 def first_refused(sheet, fill):
     """The least row whose kind is not allowed at the place reached, or None."""
     # Behind as many turns as there are places, a turn begins at a place at which one began before.
-    word = [*fill.lead, *(fill.turn * sheet.places)]
-    try:
-        sheet.place_behind(word)
-    except InvalidWord as error:
-        return error.position + 1
-    return None
+    position = sheet.refused_at([*fill.lead, *(fill.turn * sheet.places)])
+    return None if position is None else position + 1
 
 
 def _check_part(part, names, least):

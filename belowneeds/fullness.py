@@ -15,16 +15,12 @@ def is_full(sheet, column, *, limit=MAX_TABLES):
 def column_delay(sheet, column, *, limit=MAX_TABLES):
     """The delay of a column, or None if it is open."""
     check_column(column, sheet)
-    return delays(sheet, limit=limit)[column]
+    return _kept_delays(sheet, limit)[column]
 
 
 def delays(sheet, *, limit=MAX_TABLES):
     """A dict from all columns, in sequence, to their delays, or None for an open one."""
-    check_count(limit)
-    standings = standings_of(sheet, limit)
-    if "delays" not in sheet.kept:
-        sheet.kept["delays"] = _delays_of(sheet, layers_of(sheet, limit), standings)
-    return dict(sheet.kept["delays"])
+    return dict(_kept_delays(sheet, limit))
 
 
 def sheet_delay(sheet, *, limit=MAX_TABLES):
@@ -71,10 +67,19 @@ def fill_through(layers, standings, below):
 
 def first_open_column(sheet, limit):
     """The first column, in sequence, that is open, or None."""
-    for column, delay in delays(sheet, limit=limit).items():
+    for column, delay in _kept_delays(sheet, limit).items():
         if delay is None:
             return column
     return None
+
+
+def _kept_delays(sheet, limit):
+    """The delays, which are worked out once."""
+    check_count(limit)
+    layers = layers_of(sheet, limit)
+    if "delays" not in sheet.kept:
+        sheet.kept["delays"] = _delays_of(sheet, layers, standings_of(sheet, limit))
+    return sheet.kept["delays"]
 
 
 def _delays_of(sheet, layers, standings):

@@ -78,7 +78,7 @@ def _are_two_columns(parts):
     """Whether these are a sheet and a column of it, and again, of two sheets with the same plan."""
     if not _are_sheet_and_column(parts[:2]) or not _are_sheet_and_column(parts[2:]):
         return False
-    return parts[0].plan() == parts[2].plan()
+    return parts[0].has_plan_of(parts[2])
 
 
 def _shows_alike(parts, value):

@@ -118,8 +118,8 @@ class RowsUnder:
 
 def rows_of(sheet):
     """The rows of a sheet, which are made once; refuses a sheet with too many aboves."""
-    check_entries(sheet)
     if "rows" not in sheet.kept:
+        check_entries(sheet)
         sheet.kept["rows"] = RowsUnder(sheet, TableNumbers(sheet))
     return sheet.kept["rows"]
 
@@ -127,8 +127,10 @@ def rows_of(sheet):
 def share_rows(sheet, other):
     """Lets a sheet use the rows of another one, as far as they are the same; refuses sheets with too many aboves."""
     source = rows_of(sheet)
+    if "rows" in other.kept:
+        return
     check_entries(other)
-    if "rows" not in other.kept and _see_the_same(sheet, other) and len(source.numbers.tables) <= MOST_SHARED:
+    if _see_the_same(sheet, other) and len(source.numbers.tables) <= MOST_SHARED:
         other.kept["rows"] = RowsUnder(other, source.numbers)
         other.kept["rows"].take_kinds(source)
 

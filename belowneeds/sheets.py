@@ -1,8 +1,9 @@
 """Sheets [21], with their plans and words [22]."""
 
 from belowneeds.checks import is_list, is_where
-from belowneeds.errors import InvalidKinds, InvalidWhere, InvalidWord
-from belowneeds.sheet_checks import Checked, check_column, check_kind, check_place, check_top, checked, is_formula_of
+from belowneeds.errors import InvalidKinds, InvalidTop, InvalidWhere, InvalidWord
+from belowneeds.sheet_checks import Checked, check_column, check_kind, check_place, checked, first_without_value
+from belowneeds.sheet_checks import is_formula_of
 
 
 class Sheet:
@@ -16,6 +17,8 @@ class Sheet:
         given = kinds if isinstance(kinds, Checked) else checked(modulus, columns, top, kinds, plan)
         self._modulus, self._columns, self._top, self._kinds, self._plan = given.parts
         self._reads = {}
+        # This is made when it is asked for.
+        self._whole_text = None
         # What was found out about the sheet, so that it is not found out again. It is no part of it.
         self.kept = {}
 
@@ -38,6 +41,13 @@ class Sheet:
     def places(self):
         """The number of places of the plan."""
         return len(self._plan)
+
+    @property
+    def text(self):
+        """The text [25]."""
+        if self._whole_text is None:
+            self._whole_text = "".join([f"{line}\n" for line in self._lines()])
+        return self._whole_text
 
     def kinds(self):
         """The sorted list of the kinds."""
@@ -95,6 +105,23 @@ class Sheet:
         """Whether this is a word that is allowed."""
         return is_list(value) and self._passed(value, 0)[0] == len(value)
 
+    def refused_at(self, names):
+        """The position of the first one of these strings that is not allowed at the place reached, or None."""
+        places = self._plan
+        leads = places[0]
+        position = 0
+        # A word can be long: each kind is looked up once.
+        try:
+            for position, name in enumerate(names):
+                leads = places[leads[name]]
+        except KeyError:
+            return position
+        return None
+
+    def has_plan_of(self, other):
+        """Whether another sheet has the same plan."""
+        return self._plan == other._plan
+
     def with_formula(self, kind, column, formula):
         """The sheet with another formula for this kind and column."""
         check_kind(kind, self)
@@ -115,9 +142,11 @@ class Sheet:
         """The sheet with the values of this dict in the top; a column can also be called as Python's `self`."""
         for column in sorted(values):
             check_column(column, self)
-        top = {column: values.get(column, self._top[column]) for column in self._columns}
-        check_top(top, self._columns, self._modulus)
-        found = self._made_of(top, self._kinds)
+        # The others have values already.
+        wrong = first_without_value(values, [column for column in self._columns if column in values], self._modulus)
+        if wrong is not None:
+            raise InvalidTop(wrong)
+        found = self._made_of({**self._top, **values}, self._kinds)
         # The formulas are the same.
         found._reads = self._reads
         return found
@@ -126,7 +155,7 @@ class Sheet:
         return isinstance(other, Sheet) and self._all_parts() == other._all_parts()
 
     def __str__(self):
-        return "".join([f"{line}\n" for line in self._lines()])
+        return str(self.text)
 
     def __repr__(self):
         kinds = list(self._kinds)
@@ -139,15 +168,11 @@ class Sheet:
 
     def _lines(self):
         """The lines of the text [25], without line feeds."""
-        values = [str(value) for value in self._top.values()]
-        lines = [f"modulus {self._modulus}", " ".join(["columns", *self._columns]), " ".join(["top", *values])]
-        for kind, row in self._kinds.items():
-            lines.append(f"kind {kind}")
-            lines.extend([str(formula) for formula in row.values()])
-        for leads in self._plan:
-            told = [f"{kind} {leads[kind]}" for kind in leads]
-            lines.append(" ".join(["plan", *told]))
-        return lines
+        values = " ".join([str(value) for value in self._top.values()])
+        heads = [f"modulus {self._modulus}", f"columns {' '.join(self._columns)}", f"top {values}"]
+        kinds = [[f"kind {kind}", *[str(formula) for formula in row.values()]] for kind, row in self._kinds.items()]
+        places = [" ".join(["plan", *[f"{kind} {leads[kind]}" for kind in leads]]) for leads in self._plan]
+        return [*heads, *[line for told in kinds for line in told], *places]
 
     def _all_parts(self):
         return (self._modulus, self._columns, self._top, self._kinds, self._plan)
@@ -155,9 +180,10 @@ class Sheet:
     def _passed(self, word, place):
         """How many kinds there are ahead of the first one that is not allowed, and the place to which they lead."""
         plan = self._plan
+        leads = plan[place]
         for position, kind in enumerate(word):
-            leads = plan[place]
             if not isinstance(kind, str) or kind not in leads:
                 return position, place
             place = leads[kind]
+            leads = plan[place]
         return len(word), place

@@ -8,7 +8,7 @@ from belowneeds.cuts import Cut
 from belowneeds.desk import Desk, tried
 from belowneeds.endless import Endless
 from belowneeds.errors import (
-    InvalidCommand, InvalidKinds, InvalidRow, InvalidText, InvalidTop, InvalidWord, MissingError, NameTaken, NotAllowed, NotFull,
+    InvalidCommand, InvalidKinds, InvalidRow, InvalidText, InvalidTop, InvalidWord, LimitError, MissingError, NameTaken, NotAllowed, NotFull,
     NothingToUndo, OtherPlan, SheetError, StateError, TooMany, UnknownColumn, UnknownKind, UnknownName,
 )
 from belowneeds.fills import first_refused
@@ -18,7 +18,7 @@ from belowneeds.fullness import delays, first_open_row, sheet_delay
 from belowneeds.machines import machine_of
 from belowneeds.sheets import Sheet
 from examples import (
-    ODD_VALUES, CheckedCase, blocks, caught, free_blocks, late_sheet, peek, planned_sheet, random_fill, random_sheet, sheet_of_tables,
+    ODD_VALUES, CheckedCase, blocks, caught, free_blocks, late_sheet, parts_of, peek, planned_sheet, random_fill, random_sheet, sheet_of_tables,
     slow_counter, wide_sheet, words_from,
 )
 
@@ -443,6 +443,97 @@ class TrialTest(CheckedCase):
                 right.do_all(*model)
                 self.assertEqual(state_of(desk), state_of(right))
         self.assertGreater(done, 400)
+
+
+def told_of(call, *values):
+    """What a call returns, or the class and the attributes of its error."""
+    try:
+        return call(*values)
+    except (SheetError, MissingError, StateError, LimitError) as error:
+        return (type(error), parts_of(error))
+
+
+class AgainTest(CheckedCase):
+    """What was read and changed is kept; nothing of it is told where it does not belong."""
+
+    def test_commands_asked_again_are_answered_as_by_a_new_desk(self):
+        texts = [text_of(sheet) for sheet in (blocks(), free_blocks(), peek(), blocks().with_formula("end", "u", Number(1)))]
+        texts += [texts[0].replace("item 2", "item 1"), texts[0] + " ", texts[1].replace("end 0", "end 1"), SMALL]
+        seen = set()
+        for seed in range(25):
+            rnd, desk = random.Random(seed), Desk()
+            commands = [f"put {name} {rnd.choice(texts)}" for name in "aabbcc"]
+            for name in "abc":
+                commands += [f"formula {name} end n {rnd.choice(('1', '2', 'down u', 'up'))}", f"top {name} n {rnd.randrange(3)}", f"drop {name}", f"show {name}",
+                             f"rows {name} end {rnd.choice(('item', 'end', 'z'))}", f"cell {name} {rnd.randrange(4)} n {rnd.choice(('(end)', '(item)', '(end end)'))}",
+                             f"full {name} n", f"alike {name} n {rnd.choice('abc')} n", f"unused {name}", f"states {name}"]
+            commands += ["undo", "undo", "undo now", "drop  a", ""]
+            for _ in range(80):
+                # The same commands come again and again, above other sheets.
+                right, command = rnd.choice(commands), rnd.choice(commands)
+                new, before = Desk(), state_of(desk)
+                new.do_all(*desk.log())
+                expected = told_of(new.do_all, right, command)
+                if rnd.randrange(2):
+                    self.assertEqual(told_of(desk.do_all, right, command), expected)
+                    self.assertEqual(state_of(desk), state_of(new))
+                    seen.add(type(expected))
+                else:
+                    found = told_of(tried, desk, right, command)
+                    self.assertEqual(state_of(desk), before)
+                    if "undo" not in (right, command):
+                        self.assertEqual(found, expected)
+        self.assertEqual(seen, {list, tuple})
+
+    def test_more_commands_than_are_kept(self):
+        desk = desk_with(b=blocks())
+        for _ in range(2):
+            for at in range(450):
+                name = "".join("abcdefghij"[int(digit)] for digit in f"{at:03}")
+                self.check(caught(desk.do, f"drop {name}"), UnknownName, value=name)
+                self.check(caught(desk.do, f"drop {at}"), InvalidCommand, value=f"drop {at}")
+                self.check(caught(desk.do, f"put c {SMALL} | plan x {at}"), InvalidText, line=7)
+                self.assertEqual(tried(desk, f"put {name} {SMALL}", f"formula {name} x n {at % 2}", f"rows {name} x"), ["done", "done", f"{at % 2}"])
+                self.check(caught(desk.do, f"cell b {at} n (end"), InvalidText, line=1)
+                self.assertEqual(desk.do(f"cell b {at + 1} n ({'item ' * (at % 2)}end)"), f"{at % 2 * (at + 1) % 2}")
+        self.assertEqual([desk.names(), len(desk.log()), desk.do("show b")], [["b"], 1, text_of(blocks())])
+
+    def test_one_text_under_several_names(self):
+        desk = desk_with(a=blocks(), b=blocks())
+        desk.do_all("top a n 1", "formula b end u 1")
+        self.assertEqual([desk.sheet_of("a"), desk.sheet_of("b")], [blocks().with_top(n=1), blocks().with_formula("end", "u", Number(1))])
+        desk.do(f"put c {text_of(blocks())}")
+        self.assertEqual([desk.sheet_of("c"), desk.do("show c"), str(desk.sheet_of("c"))], [blocks(), text_of(blocks()), str(blocks())])
+
+    def test_a_line_that_fits_one_text_only(self):
+        desk = Desk()
+        wide = "modulus 3 | columns n u | top 2 0 | kind x | 2 | up u | plan x 0"
+        for text, line in ((wide, None), (wide.replace("modulus 3", "modulus 2"), 3), (wide.replace("modulus 3 | columns n u | top 2", "modulus 2 | columns n u | top 1"), 5),
+                           (wide.replace("columns n u", "columns n v"), 6), (wide.replace("modulus 3", "modulus 9"), None), (wide.replace("columns n u", "columns u n"), None),
+                           (wide.replace("columns n u", "columns n n"), 2), (wide.replace("columns n u", "columns n"), 3)):
+            for call in (desk.do, lambda told: tried(desk, told)):
+                if line is None:
+                    self.assertEqual([tried(desk, f"put a {text}"), tried(desk, f"put a {text}", "show a")[1]], [["done"], text])
+                else:
+                    self.check(caught(call, f"put a {text}"), InvalidText, line=line)
+        self.assertEqual(desk.names(), [])
+
+    def test_a_change_of_another_sheet_with_the_same_command(self):
+        desk = desk_with(a=blocks())
+        self.assertEqual(tried(desk, "formula a end u 1", "show a")[1], text_of(blocks().with_formula("end", "u", Number(1))))
+        desk.do_all("drop a", f"put a {text_of(free_blocks())}")
+        self.assertEqual(tried(desk, "formula a end u 1", "show a")[1], text_of(free_blocks().with_formula("end", "u", Number(1))))
+        desk.do_all("undo", "undo")
+        self.assertEqual(tried(desk, "formula a end u 1", "show a")[1], text_of(blocks().with_formula("end", "u", Number(1))))
+
+    def test_a_long_log(self):
+        desk = desk_with(b=blocks())
+        rising = [f"top b n {at % 2}" for at in range(3000)]
+        self.assertEqual(desk.do_all(*rising), ["done"] * 3000)
+        self.assertEqual([len(desk.log()), desk.log()[1:], desk.sheet_of("b").top()["n"]], [3001, rising, 1])
+        self.assertEqual([tried(desk, "top b n 0", "show b")[1], desk.do_all(*["undo"] * 2999)[0]], [text_of(blocks()), "done"])
+        self.assertEqual([len(desk.log()), desk.do("undo"), desk.sheet_of("b"), desk.do("undo"), len(desk)], [2, "done", blocks(), "done", 0])
+        self.check(caught(desk.undo), NothingToUndo)
 
 
 class DeskTest(CheckedCase):

@@ -224,6 +224,21 @@ class FormTest(unittest.TestCase):
         self.assertIn("begin", names)
         self.assertEqual([names & assigned, names & methods], [set(), set()])
 
+    def test_a_property_changes_nothing_but_one_answer_that_it_keeps(self):
+        stored = [node for node in nodes_of(ast.Attribute) if isinstance(node.ctx, ast.Store)]
+        read = [node.attr for node in nodes_of(ast.Attribute) if isinstance(node.ctx, ast.Load)]
+        keeping = []
+        for node in nodes_of(ast.FunctionDef):
+            changes = [part for part in ast.walk(node) if isinstance(part, (ast.Attribute, ast.Subscript)) and isinstance(part.ctx, ast.Store)]
+            if "property" in decorators(node) and changes:
+                test, answer = node.body[1:]
+                name = test.body[0].targets[0].attr
+                self.assertEqual([len(test.body), ast.unparse(test.test), ast.unparse(answer)], [1, f"self.{name} is None", f"return self.{name}"])
+                # It is made None at first, and read nowhere else.
+                self.assertEqual([[part.attr for part in stored].count(name), read.count(name)], [2, 2])
+                keeping.append(node.name)
+        self.assertEqual(keeping, ["text"])
+
     def test_no_attribute_has_the_name_of_a_method_and_no_generator_that_of_another_function(self):
         functions = nodes_of(ast.FunctionDef)
         assigned = {node.attr for node in nodes_of(ast.Attribute) if isinstance(node.ctx, ast.Store)}
